@@ -1,0 +1,182 @@
+"""Terms of RUNS of any length, told backwards; what nobody looks at is gone through once."""
+
+from anydlooks.courses import followed, item_size, way_size
+from anydlooks.marks import fit_lines, has_line, is_list_of_terms
+from anydlooks.plain import as_set, is_tuple_of
+from anydlooks.rule import NOTHING_SEEN, ahead_of, bad_form, quiet_asking, seen_lines, with_added
+
+
+def _count_below(numbers, bound):
+    """How many of the ascending numbers are below bound."""
+    low, high = 0, len(numbers)
+    while low < high:
+        middle = (low + high) // 2
+        if numbers[middle] < bound:
+            low = middle + 1
+        else:
+            high = middle
+    return low
+
+
+class Track:
+    """A whole Course, with the terms that somebody has for marks of its LINES."""
+
+    def __init__(self, machine, course):
+        self.machine = machine
+        self.course = course
+        self.seen = {}
+        self.looked_at = []
+        self.quiet = {}
+
+    def line_at(self, number):
+        """The LINE of this number; of a put back without where its call began."""
+        steps = self.course.steps
+        low, high = 0, len(steps)
+        while high - low > 1:
+            middle = (low + high) // 2
+            if steps[middle][4] <= number:
+                low = middle
+            else:
+                high = middle
+        word, _, item, _, lines = steps[low]
+        if word == "end":
+            return "back", item[2][number - lines], 0
+        if word == "round":
+            return self._line_in(item[1], (number - lines) % way_size(item[1], self.course.sizes))
+        return self._line_in((item,), number - lines)
+
+    def _line_in(self, way, number):
+        rest = number
+        for item in way:
+            size = item_size(item, self.course.sizes)
+            if rest < size:
+                return self._line_of(item, rest)
+            rest -= size
+        return None
+
+    def _line_of(self, item, number):
+        if item[0] == "set":
+            return item
+        if item[0] == "draw":
+            return "draw", item[1], ()
+        inner = self.course.sizes[item[1]]
+        if number < inner:
+            return self._line_in(self.course.blocks[item[1]], number)
+        return "back", item[2][number - inner], 0
+
+    def first_asked(self, terms):
+        """What is asked at the beginning; None if the terms are not heard."""
+        self.seen = seen_lines(self.machine[0], terms)
+        self.looked_at = sorted(self.seen)
+        self.quiet = {}
+        asked, held = quiet_asking(self.machine), []
+        for word, _, item, number, lines in reversed(self.course.steps):
+            if word == "begin":
+                asked = with_added(self.machine[0], asked, held.pop())
+            elif word == "end":
+                asked, added = self._put_back(item[2], lines, asked)
+                held.append(added)
+            elif word == "round":
+                asked = self._round(item[1], number, lines, asked)
+            else:
+                asked = self._item(item, lines, asked)
+            if asked is None:
+                return None
+        return asked
+
+    def _put_back(self, kept, first, asked):
+        """What is asked ahead of put backs, and the pairs of what they ask where the call begins."""
+        added = []
+        for place in reversed(range(len(kept))):
+            line = ("back", kept[place], 0)
+            asked, wanted = ahead_of(self.machine, line, asked, self.seen.get(first + place, NOTHING_SEEN))
+            added.append((kept[place], wanted))
+        return asked, added
+
+    def _item(self, item, first, asked):
+        """What is asked ahead of an item without choices; None if a draw is asked."""
+        if item[0] == "call":
+            inner = self.course.sizes[item[1]]
+            asked, added = self._put_back(item[2], first + inner, asked)
+            asked = self._block(item[1], first, inner, asked)
+            return None if asked is None else with_added(self.machine[0], asked, added)
+        line = item if item[0] == "set" else ("draw", item[1], ())
+        asked, wanted = ahead_of(self.machine, line, asked, self.seen.get(first, NOTHING_SEEN))
+        return None if item[0] == "draw" and wanted else asked
+
+    def _block(self, number, first, size, asked):
+        """What is asked ahead of a block; gone through once if nobody looks at a LINE of it."""
+        way = self.course.blocks[number]
+        if self._looks(first, first + size):
+            return self._way(way, first, asked)
+        key = (number, asked)
+        if key not in self.quiet:
+            self.quiet[key] = self._way(way, first, asked)
+        return self.quiet[key]
+
+    def _looks(self, low, high):
+        """The numbers of the LINES from low to below high at which somebody looks."""
+        return self.looked_at[_count_below(self.looked_at, low):_count_below(self.looked_at, high)]
+
+    def _way(self, way, first, asked):
+        at = first + way_size(way, self.course.sizes)
+        for item in reversed(way):
+            at -= item_size(item, self.course.sizes)
+            asked = self._item(item, at, asked)
+            if asked is None:
+                return None
+        return asked
+
+    def _round(self, way, number, first, asked):
+        """What is asked ahead of a way gone through number times."""
+        size = way_size(way, self.course.sizes)
+        if not size:
+            return asked
+        left = number
+        looked_at = self._looks(first, first + number * size)
+        for turn in reversed(as_set([(own - first) // size for own in looked_at])):
+            asked = self._again(way, first + (turn + 1) * size, left - turn - 1, asked)
+            if asked is None:
+                return None
+            asked = self._way(way, first + turn * size, asked)
+            if asked is None:
+                return None
+            left = turn
+        return self._again(way, first, left, asked)
+
+    def _again(self, way, first, times, asked):
+        """What is asked ahead of a way gone through some times, nobody looking.
+
+        There are few ASKINGS, so soon one comes back, and then all others do.
+        """
+        found, places = [asked], {asked: 0}
+        while len(found) <= times:
+            asked = self._way(way, first, asked)
+            if asked is None:
+                return None
+            if asked in places:
+                start = places[asked]
+                return found[start + (times - start) % (len(found) - start)]
+            places[asked] = len(found)
+            found.append(asked)
+        return found[times]
+
+
+def told_form(program, thing):
+    """The FORM of a TELLING; None if thing is none."""
+    if not is_tuple_of(thing, 2):
+        return None
+    run, terms = thing
+    course = followed(program, run)
+    if course is None or course.wanted is not None:
+        return None
+    if not is_list_of_terms(terms, program[0][0]) or not terms:
+        return None
+    looks = [mark for mark, _ in terms]
+    if not all([has_line(own, course.lines) for own in looks]):
+        return None
+    track = Track(program[0], course)
+    if not fit_lines(program[0], [track.line_at(mark[0]) for mark in looks], looks):
+        return None
+    asked = track.first_asked(terms)
+    return None if asked is None else bad_form(program[1], asked)

@@ -1,0 +1,128 @@
+"""Items and ways: where they stand, and how many lines they make."""
+
+from anydlooks.errors import NoItem
+from anydlooks.plain import is_counts
+
+# How many lines, where there is no greatest number of them.
+ENDLESS = -1
+
+
+def nested_items(prefix, way):
+    """The pairs (path, item) of all items in way, whose own paths begin with prefix, ascending."""
+    found = []
+    for place, item in enumerate(way):
+        path = (*prefix, place)
+        found.append((path, item))
+        for inner, ways in inner_ways(path, item):
+            found.extend(nested_items(inner, ways))
+    return found
+
+
+def inner_ways(path, item):
+    """The pairs (prefix, way) of the ways that stand in the item at path."""
+    if item[0] == "one":
+        return [((*path, number), way) for number, way in enumerate(item[1])]
+    if item[0] == "many":
+        return [(path, item[1])]
+    return []
+
+
+def all_items(program):
+    """The pairs (path, item) of all items, paths ascending."""
+    found = []
+    for number, way in enumerate(program[2]):
+        found.extend(nested_items((number,), way))
+    return found
+
+
+def found_item(program, path):
+    """The item at path."""
+    if is_counts(path):
+        for own, item in all_items(program):
+            if own == path:
+                return item
+    raise NoItem(path)
+
+
+def way_with(way, rest, items):
+    """The way with items in the place of the item to which rest, the end of its path, leads."""
+    place = rest[0]
+    if len(rest) == 1:
+        return way[:place] + items + way[place + 1:]
+    item = way[place]
+    if item[0] == "many":
+        new = ("many", way_with(item[1], rest[1:], items))
+    else:
+        ways = list(item[1])
+        ways[rest[1]] = way_with(ways[rest[1]], rest[2:], items)
+        new = ("one", tuple(ways))
+    return (*way[:place], new, *way[place + 1:])
+
+
+def calls_in(way):
+    """The numbers of the blocks that items of the way call, at whatever depth."""
+    return [item[1] for _, item in nested_items((), way) if item[0] == "call"]
+
+
+def fewest_in(way, table):
+    """The fewest lines of a run of the way, table having them for each block; None without a run."""
+    lines = [_fewest_of(item, table) for item in way]
+    return None if None in lines else sum(lines)
+
+
+def _fewest_of(item, table):
+    if item[0] == "many":
+        return 0
+    if item[0] == "one":
+        lines = [fewest_in(way, table) for way in item[1]]
+        return min([own for own in lines if own is not None], default=None)
+    if item[0] == "call":
+        inner = table[item[1]]
+        return None if inner is None else inner + len(item[2])
+    return 1
+
+
+def fewest_lines_of(blocks):
+    """For each block the fewest lines of a run of it, or None."""
+    table = [None] * len(blocks)
+    for _ in blocks:
+        table = [fewest_in(way, table) for way in blocks]
+    return table
+
+
+def _most_in(way, table):
+    lines = [_most_of(item, table) for item in way]
+    if None in lines:
+        return None
+    return ENDLESS if ENDLESS in lines else sum(lines)
+
+
+def _most_of(item, table):
+    if item[0] == "many":
+        # A way that cannot be gone can still be gone round none times.
+        return ENDLESS if _most_in(item[1], table) else 0
+    if item[0] == "one":
+        lines = [_most_in(way, table) for way in item[1]]
+        return ENDLESS if ENDLESS in lines else max([own for own in lines if own is not None], default=None)
+    if item[0] == "call":
+        inner = table[item[1]]
+        return inner if inner in (None, ENDLESS) else inner + len(item[2])
+    return 1
+
+
+def most_lines_of(blocks):
+    """For each block the most lines of a run of it, None, or ENDLESS.
+
+    As many rounds as blocks find the most lines wherever there is a most; what still grows
+    in later rounds (three times as many are enough for one time round of a ring) has none.
+    """
+    table = [None] * len(blocks)
+    for _ in blocks:
+        table = [_most_in(way, table) for way in blocks]
+    later = table
+    for _ in range(3 * len(blocks)):
+        later = [_most_in(way, later) for way in blocks]
+    ends = [own if own == more else ENDLESS for own, more in zip(table, later)]
+    for _ in blocks:
+        ends = [own if own == ENDLESS else _most_in(way, ends) for own, way in zip(ends, blocks)]
+    return ends

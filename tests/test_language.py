@@ -1,0 +1,212 @@
+"""The files of the package keep to the rules of the language that can be read off the code."""
+
+import ast
+import builtins
+import os
+import re
+import unittest
+
+ROOT = os.path.dirname(os.path.dirname(os.path.abspath(__file__)))
+FOLDER = os.path.join(ROOT, "anydlooks")
+
+BUILTINS = set("""len range enumerate zip min max sum abs sorted reversed int str bool bytes list tuple dict set
+frozenset isinstance ord repr any all divmod Exception ValueError TypeError KeyError IndexError LookupError
+ZeroDivisionError ArithmeticError OverflowError RuntimeError NotImplementedError AttributeError StopIteration
+NotImplemented iter next map""".split())
+METHODS = set("""append clear copy count endswith extend find get index insert isalnum isalpha isdigit islower
+isspace isupper items join keys ljust lower lstrip partition pop remove replace reverse rfind rjust rpartition
+rsplit rstrip setdefault split splitlines startswith strip update upper values zfill bit_length add
+discard""".split())
+BARRED = set("""register mro elements open input law version_info with_traceback add_note attrgetter breakpoint
+builtins compile copyright credits delattr dir eval exec exit gc getattr globals hasattr help id importlib license
+locals methodcaller os quit setattr super type vars sys""".split())
+BARRED_WORDS = re.compile(r"\b(type|typing|enum|Enum|IntEnum|StrEnum|Flag|IntFlag|Generic|Protocol|ABC|ABCMeta"
+                          r"|namedtuple|NamedTuple|TypedDict|TYPE_CHECKING|abstractmethod)\b")
+STATEMENTS = (ast.Assign, ast.AugAssign, ast.If, ast.While, ast.For, ast.Return, ast.Break, ast.Continue, ast.Pass,
+              ast.Raise, ast.Expr, ast.FunctionDef, ast.ClassDef, ast.ImportFrom)
+INTERFACE = {
+    "errors": "NoBlock NoRegister NoBus NoLine NoItem NoPerson NothingDone BadLine CanNot TooMany Unfit",
+    "residues": "is_row inverse row_by product basis rank rest_of is_within members factors_for relations across"
+                " common solution refusal",
+    "programs": "is_machine is_program is_way sizes on_bus items_of item_at replaced writers readers block_calls rings"
+                " fruitful reached is_clean shortest longest",
+    "runs": "is_run lines_of line_paths choices_of asked sure_lines finished least_run least_run_at runs_to run_counts"
+            " lies",
+    "forms": "sources written spreads_at is_mark marks_at is_looks looks_of price_of shown sum_shown row_form"
+             " is_telling form_told played seen_by secrets_of",
+    "chances": "tells told_forms telling_by cover is_cover rank_shown outcomes chance secrets_left least_tellers"
+               " is_look_plan plan_chances plan_tells",
+    "askings": "is_asking nobody is_bad form_of walk_of draws_asked is_walk walk_terms least_terms least_told told_walk"
+               " form_prices",
+    "pieces": "is_table price_in asked_ahead line_table still_table joined least_of many_table times_table kept_table"
+              " call_table way_table",
+}
+
+
+def files():
+    found = []
+    for name in sorted(os.listdir(FOLDER)):
+        if name.endswith(".py"):
+            with open(os.path.join(FOLDER, name), encoding="utf-8") as source:
+                found.append((name, source.read()))
+    return found
+
+
+def bound_names(function):
+    """The names that a function binds: parameters, targets, loop variables, nested functions."""
+    names = [own.arg for own in ast.walk(function) if isinstance(own, ast.arg)]
+    return names + [own.id for own in ast.walk(function)
+                    if isinstance(own, ast.Name) and isinstance(own.ctx, ast.Store)]
+
+
+class Language(unittest.TestCase):
+
+    def test_only_python_files(self):
+        for name in os.listdir(FOLDER):
+            self.assertTrue(name == "__pycache__" or re.fullmatch(r"[a-z0-9_]+\.py", name), name)
+
+    def test_size_and_signs(self):
+        for name, text in files():
+            rows = text.split("\n")
+            self.assertLessEqual(len(rows), 399, name)
+            self.assertTrue(all(sign == "\n" or " " <= sign <= "~" for sign in text), name)
+            self.assertTrue(all(len(row) <= 120 for row in rows), name)
+            self.assertTrue(all(row == row.rstrip() for row in rows), name)
+            self.assertNotIn("_wall", text)
+            for node in ast.walk(ast.parse(text)):
+                if isinstance(node, ast.FunctionDef):
+                    self.assertLessEqual(node.end_lineno - node.lineno + 1, 40, (name, node.name))
+
+    def test_statements(self):
+        for name, text in files():
+            for node in ast.walk(ast.parse(text)):
+                where = (name, getattr(node, "lineno", 0))
+                if isinstance(node, ast.stmt):
+                    self.assertIsInstance(node, STATEMENTS, where)
+                if isinstance(node, ast.FunctionDef):
+                    self.assertFalse(node.decorator_list, where)
+                    self.assertIsNone(node.returns, where)
+                self.assertNotIsInstance(node, (ast.GeneratorExp, ast.Yield, ast.Set, ast.SetComp, ast.NamedExpr), where)
+                if isinstance(node, ast.BinOp):
+                    self.assertNotIsInstance(node.op, (ast.Div, ast.Pow), where)
+                if isinstance(node, ast.Constant):
+                    self.assertNotIsInstance(node.value, (float, complex, bytes), where)
+                if isinstance(node, ast.Compare) and isinstance(node.ops[0], (ast.Is, ast.IsNot)):
+                    self.assertIsInstance(node.comparators[0], ast.Constant, where)
+                if isinstance(node, ast.Raise):
+                    self.assertIsInstance(node.exc, ast.Call, where)
+
+    def test_module_level(self):
+        for name, text in files():
+            for node in ast.parse(text).body:
+                plain = isinstance(node, (ast.ImportFrom, ast.FunctionDef, ast.ClassDef))
+                plain = plain or isinstance(node, ast.Assign) and len(node.targets) == 1
+                plain = plain or isinstance(node, ast.Expr) and isinstance(node.value, ast.Constant)
+                self.assertTrue(plain, (name, node.lineno))
+
+    def test_imports(self):
+        defined, used = {}, {}
+        for name, text in files():
+            own = "anydlooks." + name[:-3]
+            tree = ast.parse(text)
+            defined[own] = [node.name for node in tree.body if isinstance(node, (ast.FunctionDef, ast.ClassDef))]
+            defined[own] += [node.targets[0].id for node in tree.body if isinstance(node, ast.Assign)]
+            self.assertEqual(len(defined[own]), len(set(defined[own])), name)
+            used[own] = [(node.module, more.name) for node in tree.body if isinstance(node, ast.ImportFrom)
+                         for more in node.names]
+            imported = [more for _, more in used[own]]
+            self.assertEqual(len(imported), len(set(imported)), name)
+            self.assertFalse(set(imported) & set(defined[own]), name)
+            words = [node.id for node in ast.walk(tree) if isinstance(node, ast.Name)]
+            for more in imported:
+                self.assertIn(more, words, (name, "imported for nothing"))
+        for own in used:
+            for module, more in used[own]:
+                self.assertIn(more, defined[module], (own, module))
+        done = []
+        while len(done) < len(used):
+            ready = [own for own in used if own not in done and all(module in done for module, _ in used[own])]
+            self.assertTrue(ready, "files import from each other")
+            done += ready
+
+    def test_every_own_name_is_used(self):
+        texts = files()
+        for name, text in texts:
+            for node in ast.parse(text).body:
+                if isinstance(node, (ast.FunctionDef, ast.ClassDef)):
+                    if node.name in INTERFACE.get(name[:-3], "").split():
+                        continue
+                    many = sum(len(re.findall(r"\b" + node.name + r"\b", more)) for _, more in texts)
+                    self.assertGreater(many, 1, (name, node.name))
+
+    def test_names(self):
+        for name, text in files():
+            tree = ast.parse(text)
+            outer = [more.name for node in tree.body if isinstance(node, ast.ImportFrom) for more in node.names]
+            outer += [node.name for node in tree.body if isinstance(node, ast.ClassDef)]
+            top = [node.name for node in tree.body if isinstance(node, (ast.FunctionDef, ast.ClassDef))]
+            for function in [node for node in ast.walk(tree) if isinstance(node, ast.FunctionDef)]:
+                for own in bound_names(function):
+                    self.assertNotIn(own, outer + top, (name, function.name))
+                    self.assertFalse(hasattr(builtins, own), (name, function.name, own))
+                    self.assertFalse(own.startswith("__"), (name, own))
+                self.assertFalse(any(isinstance(node, ast.Name) and node.id == "_" and isinstance(node.ctx, ast.Load)
+                                     for node in ast.walk(function)), (name, function.name))
+            for node in ast.walk(tree):
+                if isinstance(node, ast.Attribute):
+                    self.assertNotIn(node.attr, ("format", "mro", "args", "encode", "decode", "hex"), name)
+                for own in (getattr(node, "id", None), getattr(node, "name", None), getattr(node, "arg", None)):
+                    self.assertNotIn(own, BARRED, name)
+            without = re.sub(r'""".*?"""', "", re.sub(r"#.*", "", text), flags=re.S)
+            self.assertIsNone(BARRED_WORDS.search(without), name)
+            for node in ast.walk(tree):
+                if isinstance(node, ast.Constant) and isinstance(node.value, str):
+                    self.assertNotIn(chr(37), node.value, name)
+
+    def test_calls(self):
+        methods = [node.name for _, text in files() for own in ast.parse(text).body if isinstance(own, ast.ClassDef)
+                   for node in own.body if isinstance(node, ast.FunctionDef)]
+        for name, text in files():
+            tree = ast.parse(text)
+            top = [node.name for node in tree.body if isinstance(node, (ast.FunctionDef, ast.ClassDef))]
+            top += [more.name for node in tree.body if isinstance(node, ast.ImportFrom) for more in node.names]
+            for node in ast.walk(tree):
+                if not isinstance(node, ast.Call):
+                    continue
+                where = (name, node.lineno)
+                if isinstance(node.func, ast.Attribute):
+                    self.assertIn(node.func.attr, METHODS | set(methods), where)
+                else:
+                    self.assertIn(node.func.id, BUILTINS | set(top), where)
+                    if node.func.id == "set":
+                        inner = [own for own in ast.walk(tree) if isinstance(own, ast.Call) and node in own.args]
+                        self.assertTrue(inner and inner[0].func.id in ("sorted", "len"), where)
+            for node in ast.walk(tree):
+                if isinstance(node, ast.Attribute) and node.attr in methods:
+                    calls = [own for own in ast.walk(tree) if isinstance(own, ast.Call) and own.func is node]
+                    attributes = [own for _, more in files() for own in ast.walk(ast.parse(more))
+                                  if isinstance(own, ast.Attribute) and isinstance(own.ctx, ast.Store)
+                                  and own.attr == node.attr]
+                    self.assertTrue(calls or attributes, (name, node.lineno, "a method passed on"))
+
+    def test_classes(self):
+        for name, text in files():
+            for node in ast.parse(text).body:
+                if isinstance(node, ast.ClassDef):
+                    methods = [own.name for own in node.body if isinstance(own, ast.FunctionDef)]
+                    self.assertEqual(len(methods), len(set(methods)), (name, node.name))
+                    stored = [own.attr for own in ast.walk(node) if isinstance(own, ast.Attribute)
+                              and isinstance(own.ctx, ast.Store)]
+                    self.assertFalse(set(methods) & set(stored), (name, node.name))
+
+    def test_interface(self):
+        texts = dict(files())
+        for module, names in INTERFACE.items():
+            top = [node.name for node in ast.parse(texts[module + ".py"]).body
+                   if isinstance(node, (ast.FunctionDef, ast.ClassDef))]
+            for own in names.split():
+                self.assertIn(own, top, module)
+
+
+if __name__ == "__main__":
+    unittest.main()
