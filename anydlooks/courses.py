@@ -106,12 +106,12 @@ class Course:
         return other
 
 
-def followed(program, row, block=0):
-    """The Course of the numbers of row; None if row tells no RUN of the block."""
+def followed(program, row):
+    """The Course of the numbers of row; None if row tells no RUN."""
     if not is_counts(row):
         return None
     blocks = program[2]
-    course = Course(blocks, block_sizes(blocks), [("way", (block,), blocks[block], 0)])
+    course = Course(blocks, block_sizes(blocks), [("way", (0,), blocks[0], 0)])
     course.go_on()
     for number in row:
         if not course.take(number):

@@ -1,0 +1,168 @@
+"""[2]: for each function: lists for tuples, names for positions, arguments left alone, new lists each time."""
+
+import copy
+import importlib
+import inspect
+import unittest
+
+from samples import bus, deep, renew, small, thrice, turned
+from test_language import INTERFACE
+
+THREE = ((1, 2, 0), (2, 1, 0), (0, 1, 1))
+BOTH = (((1, "put"), 1), ((2, "put"), 1))
+TWO = ((2, "put"), (3, "put"))
+STEP = (((0, 0, 0), (1, 0, 0), 1), ((0, 0, 0), (1, 0, 1), 1), ((1, 0, 0), (1, 0, 0), 0))
+PLAN = ((0, "put"), ((), ((2, "turn"), ((), ()))))
+READ = (((0, "read", (1, 1)), 2),)
+
+# The arguments by their names, in the order in which they stand.
+CALLS = {
+    "residues": {
+        "is_row": dict(thing=(1, 2), prime=3, length=2), "inverse": dict(prime=5, residue=3),
+        "row_by": dict(prime=3, rows=THREE, factors=(1, 2, 1), length=3), "product": dict(prime=3, row=THREE[0], other=THREE[1]),
+        "basis": dict(prime=3, rows=THREE), "rank": dict(prime=3, rows=THREE),
+        "rest_of": dict(prime=3, row=(1, 1, 1), rows=THREE), "is_within": dict(prime=3, rows=THREE[:1], others=THREE),
+        "members": dict(prime=3, rows=THREE, length=3), "factors_for": dict(prime=3, row=(1, 0, 1), rows=THREE),
+        "relations": dict(prime=3, rows=THREE), "across": dict(prime=3, rows=THREE, length=3),
+        "common": dict(prime=3, rows=THREE[:2], others=THREE[1:]),
+        "solution": dict(prime=3, rows=THREE, goals=(1, 2, 0), length=3), "refusal": dict(prime=3, rows=THREE, goals=(1, 0, 0)),
+    },
+    "programs": {
+        "is_machine": dict(thing=small), "is_program": dict(thing=deep), "is_way": dict(machine=small, many=1, thing=()),
+        "sizes": dict(program=bus), "on_bus": dict(program=bus, bus=0), "items_of": dict(program=deep),
+        "item_at": dict(program=deep, path=(1, 0, 1, 1)),
+        "replaced": dict(program=deep, path=(1, 0, 1, 1), items=(("set", 0, ((0, 1),)), ("one", ((), (("draw", 1),))))),
+        "writers": dict(program=deep, slot=2), "readers": dict(program=deep, slot=2), "block_calls": dict(program=deep),
+        "rings": dict(program=deep), "fruitful": dict(program=deep), "reached": dict(program=deep),
+        "is_clean": dict(program=deep), "shortest": dict(program=deep), "longest": dict(program=renew),
+    },
+    "runs": {
+        "is_run": dict(program=deep, thing=(1, 0)), "lines_of": dict(program=deep, run=(1, 0)),
+        "line_paths": dict(program=deep, run=(1, 0)), "choices_of": dict(program=deep, run=(1, 0)),
+        "asked": dict(program=deep, row=(1,)), "sure_lines": dict(program=deep, row=(1,)),
+        "finished": dict(program=deep, row=(1, 1)), "least_run": dict(program=deep),
+        "least_run_at": dict(program=deep, path=(1, 0, 1, 1)), "runs_to": dict(program=deep, many=9),
+        "run_counts": dict(program=deep, many=9), "lies": dict(program=deep, run=(1, 0), number=4),
+    },
+    "forms": {
+        "sources": dict(program=deep, run=(1, 0)), "written": dict(program=deep, run=(1, 0)),
+        "spreads_at": dict(program=deep, run=(1, 0), number=5), "is_mark": dict(program=deep, run=(1, 0), thing=(0, "put")),
+        "marks_at": dict(program=thrice, run=(), number=0), "is_looks": dict(program=deep, run=(1, 0), thing=((0, "put"),)),
+        "looks_of": dict(terms=READ), "price_of": dict(machine=thrice[0], looks=(READ[0][0],)),
+        "shown": dict(program=thrice, run=(), mark=READ[0][0]), "sum_shown": dict(program=thrice, run=(), terms=READ),
+        "row_form": dict(program=renew, run=(), row=(1, 1, 1, 0, 0)), "is_telling": dict(program=deep, thing=((1, 0), BOTH)),
+        "form_told": dict(program=deep, telling=((1, 0), BOTH)), "played": dict(program=deep, run=(1, 0), values=(1, 0, 1)),
+        "seen_by": dict(program=deep, run=(1, 0), looks=((1, "put"), (2, "put")), values=(1, 0, 1)),
+        "secrets_of": dict(program=deep, run=(1, 0), values=(1, 0, 1)),
+    },
+    "chances": {
+        "tells": dict(program=renew, run=(), looks=TWO), "told_forms": dict(program=bus, run=(), looks=((1, "pass"),)),
+        "telling_by": dict(program=bus, run=(), looks=((1, "pass"),), form=(1,)), "cover": dict(program=renew, run=(), looks=TWO),
+        "is_cover": dict(program=renew, run=(), looks=TWO, thing=((0, 0, 1, 0, 0),)),
+        "rank_shown": dict(program=renew, run=(), looks=TWO), "outcomes": dict(program=renew, run=(), looks=TWO, secrets=(1,)),
+        "chance": dict(program=renew, run=(), looks=TWO, secrets=(1,), residues=(0, 1)),
+        "secrets_left": dict(program=renew, run=(), looks=TWO, residues=(0, 1)),
+        "least_tellers": dict(program=turned, run=(1,), looks=((0, "put"), (1, "turn"), (2, "put"), (2, "turn"))),
+        "is_look_plan": dict(program=turned, run=(1,), thing=PLAN),
+        "plan_chances": dict(program=turned, run=(1,), plan=PLAN, secrets=(0,)),
+        "plan_tells": dict(program=turned, run=(1,), plan=PLAN),
+    },
+    "askings": {
+        "is_asking": dict(machine=small, thing=(0, 1, 1)), "nobody": dict(machine=small),
+        "is_bad": dict(program=deep, asking=(1, 1, 0)), "form_of": dict(program=deep, asking=(1, 1, 0)),
+        "walk_of": dict(program=deep, run=(1, 0), terms=BOTH), "draws_asked": dict(program=deep, run=(1, 0), terms=BOTH[:1]),
+        "is_walk": dict(program=bus, run=(), thing=((0,) * 5,) * 3),
+        "walk_terms": dict(program=deep, run=(1, 0), walk=((1, 1, 0), (1, 1, 0), (0, 1, 1)) + ((0, 0, 0),) * 3),
+        "least_terms": dict(program=deep, run=(1, 0)), "least_told": dict(program=deep, run=(1, 0)),
+        "told_walk": dict(program=deep, run=(1, 0)), "form_prices": dict(program=deep, run=(1, 0)),
+    },
+    "pieces": {
+        "is_table": dict(machine=small, most=1, thing=STEP), "price_in": dict(table=STEP, ahead=(0, 0, 0), behind=(1, 0, 1)),
+        "asked_ahead": dict(table=STEP, behind=(1, 0, 0)),
+        "line_table": dict(machine=small, item=("set", 1, ((0, 1),)), most=3), "still_table": dict(machine=small),
+        "joined": dict(one=STEP, other=STEP, most=2), "least_of": dict(tables=(STEP, STEP[:1])),
+        "many_table": dict(machine=small, table=STEP, most=2), "times_table": dict(machine=small, table=STEP, many=5, most=2),
+        "kept_table": dict(machine=small, kept=(0, 1), most=2),
+        "call_table": dict(machine=small, kept=(0, 1), table=STEP, most=2),
+        "way_table": dict(program=(small, ((0, 1),), ((),)), way=(("call", 0, (1,)), ("many", (("draw", 0),))), tables=(STEP,), most=2),
+    },
+}
+
+LISTS = ("items_of", "runs_to", "run_counts", "least_tellers", "draws_asked", "form_prices", "asked_ahead")
+
+
+def listed(value):
+    return [listed(own) for own in value] if isinstance(value, tuple) else value
+
+
+def mixed(value, deep_down=True):
+    """Lists for tuples at every second depth."""
+    if not isinstance(value, tuple):
+        return value
+    inner = [mixed(own, not deep_down) for own in value]
+    return inner if deep_down else tuple(inner)
+
+
+def has_list(value):
+    return isinstance(value, list) or isinstance(value, tuple) and any(has_list(own) for own in value)
+
+
+class General(unittest.TestCase):
+
+    def each(self):
+        for module, calls in CALLS.items():
+            self.assertEqual(sorted(calls), sorted(INTERFACE[module].split()))
+            for word, arguments in calls.items():
+                yield word, getattr(importlib.import_module("anydlooks." + module), word), arguments
+
+    def test_names(self):
+        for word, function, arguments in self.each():
+            self.assertEqual(list(inspect.signature(function).parameters), list(arguments), word)
+            self.assertEqual(repr(function(**arguments)), repr(function(*arguments.values())), word)
+
+    def test_lists(self):
+        for word, function, arguments in self.each():
+            wanted = repr(function(**arguments))
+            for style in (listed, mixed, lambda value: mixed(value, False)):
+                given = {name: own if name == "thing" else style(own) for name, own in arguments.items()}
+                before = copy.deepcopy(given)
+                self.assertEqual(repr(function(**given)), wanted, word)
+                self.assertEqual(repr(given), repr(before), word)
+                self.assertEqual(repr(function(**given)), wanted, word)
+
+    def test_kinds(self):
+        for word, function, arguments in self.each():
+            result = function(**arguments)
+            if word in LISTS:
+                self.assertIs(type(result), list, word)
+                self.assertFalse(has_list(tuple(result)), word)
+                result.append("more")
+                self.assertNotEqual(function(**arguments), result, word)
+            else:
+                self.assertFalse(has_list(result), word)
+            if word.startswith("is_") or word in ("tells", "plan_tells"):
+                self.assertIn(result, (True, False))
+                self.assertIs(type(result), bool, word)
+
+    def test_things_are_no_lists(self):
+        for word, function, arguments in self.each():
+            if "thing" in arguments:
+                self.assertIs(function(**arguments), True, word)
+                if arguments["thing"] != ():
+                    given = dict(arguments, thing=listed(arguments["thing"]))
+                    self.assertIs(function(**given), False, word)
+
+    def test_odd_things(self):
+        odd = [None, True, False, 0, -1, 10 ** 1000, -10 ** 1000, "", "set", "a" * 10000, [], [[]], ((),), (None,) * 3, (0,) * 5000]
+        thing, other = (), []
+        for _ in range(29):
+            thing, other = (thing,), [other]
+        odd += [thing, other, (thing, other, True), tuple(odd), list(odd)]
+        for word, function, arguments in self.each():
+            if "thing" in arguments:
+                for own in odd:
+                    self.assertIs(type(function(**dict(arguments, thing=own))), bool, word)
+
+
+if __name__ == "__main__":
+    unittest.main()
