@@ -2,6 +2,7 @@
 
 from anydlooks.errors import Unfit
 from anydlooks.plain import is_counts
+from anydlooks.ways import line_of_item
 
 
 def way_size(way, table):
@@ -152,11 +153,9 @@ def _write_way(blocks, prefix, way, found):
 
 
 def _write_out(blocks, path, item, found):
-    if item[0] == "set":
-        found.append((item, path))
-    elif item[0] == "draw":
-        found.append((("draw", item[1], ()), path))
-    else:
+    if item[0] == "call":
         start = len(found)
         _write_way(blocks, (item[1],), blocks[item[1]], found)
         found.extend([(line, path) for line in backs_of(item, start)])
+    else:
+        found.append((line_of_item(item), path))

@@ -2,7 +2,7 @@
 
 from anydlooks.errors import NoLine, Unfit
 from anydlooks.marks import fits_line, has_line, marks_of_line, price_of_looks
-from anydlooks.plain import frozen, is_below
+from anydlooks.plain import as_set, frozen, is_below
 from anydlooks.residues import product
 from anydlooks.sights import Sight
 from anydlooks.tracks import told_form
@@ -54,7 +54,7 @@ def is_looks(program, run, thing):
 
 def looks_of(terms):
     """The set of the marks of the terms."""
-    return tuple([mark for mark, _ in frozen(terms)])
+    return as_set([mark for mark, _ in frozen(terms)])
 
 
 def price_of(machine, looks):

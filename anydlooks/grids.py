@@ -5,6 +5,7 @@ The mask at price c has a bit for the place of each ASKING ahead whose price is 
 
 from anydlooks.plain import all_rows
 from anydlooks.rule import ahead_of, asking_length, line_choices
+from anydlooks.ways import line_of_item
 
 
 class Places:
@@ -179,8 +180,3 @@ def _item_grid(machine, places, item, grids, most):
     if item[0] == "call":
         return call_grid(machine, places, item[2], grids[item[1]], most)
     return line_grid(machine, places, line_of_item(item), most)
-
-
-def line_of_item(item):
-    """The LINE that a set or a draw makes."""
-    return item if item[0] == "set" else ("draw", item[1], ())

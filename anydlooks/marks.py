@@ -26,7 +26,7 @@ def fits_line(machine, line, mark):
     if price_of_word(machine, word) is None:
         return False
     if word == "read":
-        if len(mark) != 3 or line[0] != "set" or not line[2]:
+        if len(mark) != 3 or line[0] != "set":
             return False
         return is_row(mark[2], machine[0], len(line[2])) and any(mark[2])
     return len(mark) == 2 and (word != "pass" or machine[1][line[1]] is not None)

@@ -1,11 +1,12 @@
 """TABLES of pieces of programs: at which least prices ASKINGS go through them."""
 
 from anydlooks.grids import (
-    Places, call_grid, joined_grid, line_grid, line_of_item, many_grid, places_of, times_grid, way_grid,
+    Places, call_grid, joined_grid, line_grid, many_grid, places_of, times_grid, way_grid,
 )
 from anydlooks.plain import as_set, ascends, frozen, is_below, is_tuple_of
 from anydlooks.residues import is_row
 from anydlooks.rule import ahead_of, asking_length, line_choices, quiet_asking, with_added
+from anydlooks.ways import line_of_item
 
 
 def is_table(machine, most, thing):

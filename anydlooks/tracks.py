@@ -4,6 +4,7 @@ from anydlooks.courses import followed, item_size, way_size
 from anydlooks.marks import fit_lines, has_line, is_list_of_terms
 from anydlooks.plain import as_set, is_tuple_of
 from anydlooks.rule import NOTHING_SEEN, ahead_of, bad_form, quiet_asking, seen_lines, with_added
+from anydlooks.ways import line_of_item
 
 
 def _count_below(numbers, bound):
@@ -55,10 +56,8 @@ class Track:
         return None
 
     def _line_of(self, item, number):
-        if item[0] == "set":
-            return item
-        if item[0] == "draw":
-            return "draw", item[1], ()
+        if item[0] != "call":
+            return line_of_item(item)
         inner = self.course.sizes[item[1]]
         if number < inner:
             return self._line_in(self.course.blocks[item[1]], number)
@@ -100,8 +99,8 @@ class Track:
             asked, added = self._put_back(item[2], first + inner, asked)
             asked = self._block(item[1], first, inner, asked)
             return None if asked is None else with_added(self.machine[0], asked, added)
-        line = item if item[0] == "set" else ("draw", item[1], ())
-        asked, wanted = ahead_of(self.machine, line, asked, self.seen.get(first, NOTHING_SEEN))
+        seen = self.seen.get(first, NOTHING_SEEN)
+        asked, wanted = ahead_of(self.machine, line_of_item(item), asked, seen)
         return None if item[0] == "draw" and wanted else asked
 
     def _block(self, number, first, size, asked):

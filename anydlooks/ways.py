@@ -59,6 +59,11 @@ def way_with(way, rest, items):
     return (*way[:place], new, *way[place + 1:])
 
 
+def line_of_item(item):
+    """The LINE that a set or a draw makes."""
+    return item if item[0] == "set" else ("draw", item[1], ())
+
+
 def calls_in(way):
     """The numbers of the blocks that items of the way call, at whatever depth."""
     return [item[1] for _, item in nested_items((), way) if item[0] == "call"]

@@ -263,6 +263,8 @@ class Errors(unittest.TestCase):
         """1,024 is let for registers and buses alone, too."""
         ten = ((2, (None,) * 10, (("put", 1),)), ((0, 9),), ((("set", 3, ((0, 1), (9, 1))),),))
         self.assertEqual(least_terms(ten, ()), (((0, "put"), 1),))
+        still = (ten[0], ten[1], ((),))
+        self.assertEqual((least_terms(still, ()), walk_terms(still, (), (nobody(ten[0]),))), (None, ()))
         eleven = ((2, (None,) * 11, (("put", 1),)), ((0, 9),), ((("set", 3, ((0, 1), (9, 1))),),))
         with self.assertRaises(TooMany):
             least_terms(eleven, ())

@@ -247,6 +247,24 @@ class Tellings(unittest.TestCase):
             self.assertIs(is_telling(turned, ((rounds,), (((4 * rounds, "put"), 1), ((4 * rounds + 2, "turn"), 1)))), False)
             self.assertIs(is_telling(turned, ((rounds,), (((-4, "put"), 1), ((-2, "turn"), 1)))), False)
 
+    def test_rounds_behind_lines(self):
+        machine = (2, (None,) * 3, (("put", 1), ("read", 1)))
+        body = (("set", 2, ()), ("draw", 2), ("set", 2, ((0, 1), (1, 1))))
+        for ahead in (0, 1, 2, 5):
+            program = (machine, ((0, 1),), ((("draw", 2),) * ahead + (("many", body), ("set", 2, ())),))
+            for rounds in (1, 5, 10 ** 20):
+                for turn in {0, rounds // 2, rounds - 1}:
+                    for place in range(3):
+                        at = ahead + 3 * turn + place
+                        self.assertIs(is_telling(program, ((rounds,), (((at, "put"), 1),))), place == 2)
+                        self.assertIs(is_telling(program, ((rounds,), (((at, "read", (1, 1)), 1),))), place == 2)
+                        self.assertIs(is_telling(program, ((rounds,), (((at, "read", (1, 0)), 1),))), False)
+                        self.assertIs(is_telling(program, ((rounds,), (((at, "read", ()), 1),))), False)
+                at = ahead + 3 * rounds
+                self.assertIs(is_telling(program, ((rounds,), (((at, "read", (1, 1)), 1),))), False)
+                self.assertIs(is_telling(program, ((rounds,), (((2 + ahead, "put"), 1), ((at, "put"), 1)))), True)
+                self.assertIs(is_telling(program, ((rounds,), (((2 + ahead, "put"), 1), ((at + 1, "put"), 1)))), False)
+
     def test_many_calls(self):
         machine = (2, (None,) * 3, plain)
         step = (("set", 2, ((0, 1), (2, 1))), ("set", 0, ((1, 1),)), ("set", 1, ((2, 1),)))

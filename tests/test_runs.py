@@ -120,6 +120,16 @@ class Follow(unittest.TestCase):
                 with self.assertRaises(Unfit):
                     call(program, list(row))
 
+    def test_rest_in_order(self):
+        line = ("draw", 0)
+        zero, one = ("one", ((), (line,))), ("one", ((line,), ()))
+        program = (deep[0], deep[1], ((("call", 1, ()), one, zero, one), (zero, zero, one, zero)))
+        self.assertEqual(finished(program, ()), (0, 0, 1, 0, 1, 0, 1))
+        self.assertEqual(finished(program, (1,)), (1, 0, 1, 0, 1, 0, 1))
+        rounds = (deep[0], deep[1], ((("many", (one, zero, zero)), one, one, zero),))
+        self.assertEqual(finished(rounds, (2, 0)), (2, 0, 0, 0, 1, 0, 0, 1, 1, 0))
+        self.assertEqual(finished(rounds, (2, 1, 0, 0, 0)), (2, 1, 0, 0, 0, 0, 0, 1, 1, 0))
+
     def test_great_numbers(self):
         self.assertEqual((asked(turned, (10 ** 6,)), sure_lines(turned, (10 ** 6,))), (None, 4 * 10 ** 6))
         self.assertEqual(finished(turned, (10 ** 6,)), (10 ** 6,))
@@ -174,6 +184,11 @@ class Least(unittest.TestCase):
             (((("one", ((line, line), (("many", ()), line))),),), (1, 0)),
             (((("call", 1, (0,)),), (("one", ((("call", 1, ()),), ())),)), (1,)),
             (((("many", (line,)), ("one", ((line,), ())), ("many", ())),), (0, 1, 0)),
+            # A put back is a LINE as any other.
+            (((("one", ((line,), (("call", 1, (0,)),))),), ()), (0,)),
+            (((("one", ((("call", 1, (0,)),), (line,))),), ()), (0,)),
+            (((("one", ((line, line), (("call", 1, (0, 1)),))),), ()), (0,)),
+            (((("one", ((line, line), (("call", 1, (0,)),))),), ()), (1,)),
         ]
         for blocks, run in cases:
             self.assertEqual(least_run((machine, dealt, blocks)), run)
@@ -222,6 +237,8 @@ class All(unittest.TestCase):
         def program(*items):
             return machine, dealt, (tuple(items),)
         self.assertEqual(len(runs_to(program(*[bits] * 10), 10)), 1024)
+        with self.assertRaises(TooMany):
+            runs_to(program(*[bits] * 36), 40)
         for most, good in ((4, True), (5, True), (8, True), (9, False), (11, False)):
             eleven = program(*[bits] * 11)
             wanted = [1, 11, 55, 165, 330, 462, 462, 330, 165][:most + 1]
