@@ -6,7 +6,7 @@ triples the least is that of the least run.
 
 from anydlooks.courses import followed
 from anydlooks.errors import TooMany, Unfit
-from anydlooks.ways import fewest_in, fewest_lines_of
+from anydlooks.ways import all_items, fewest_in, fewest_lines_of, fewest_of, in_rings, inner_ways
 
 _MOST_RUNS = 2000
 
@@ -75,13 +75,13 @@ def finished_run(program, row):
     return (*row, *rest)
 
 
-def least_run_to(blocks, path):
-    """The least RUN of block 0 that comes to the item at path."""
+def least_to(blocks, path):
+    """The triple of the least RUN of block 0 that comes to the item at path."""
     table = least_runs(blocks)
     reach = [None] * len(blocks)
     for _ in blocks:
         reach = [_to_in((number,), way, path, table, reach) for number, way in enumerate(blocks)]
-    return reach[0][2]
+    return reach[0]
 
 
 def _to_in(prefix, way, path, table, reach):
@@ -113,6 +113,8 @@ def all_runs(program, many):
     Each row that is live begins at least one RUN more, so live ones count, too.
     """
     fewest = fewest_lines_of(program[2])
+    if _are_endless(program, fewest, many):
+        raise TooMany()
     found, live = [], [((), followed(program, ()))]
     live = [own for own in live if _lines_ahead(own[1], fewest) <= many]
     while live:
@@ -151,10 +153,35 @@ def _numbers(course, fewest, many):
     item, rest = course.wanted[1], many - _lines_ahead(course, fewest)
     if item[0] == "one":
         return [number for number, way in enumerate(item[1]) if fewest_in(way, fewest) <= rest]
-    once = fewest_in(item[1], fewest)
-    if rest < 0:
-        return []
-    if not once:
-        # Any number of times makes no more lines, so there is no end of these runs.
-        raise TooMany()
-    return list(range(rest // once + 1))
+    return list(range(rest // fewest_in(item[1], fewest) + 1)) if rest >= 0 else []
+
+
+def _are_endless(program, fewest, many):
+    """Whether there is no end of RUNS with at most many LINES.
+
+    There is none just if one of them comes to a "many" whose way can make no lines, or to a
+    block that can come to itself again while no lines are made.
+    """
+    blocks = program[2]
+    calls = [(number, callee) for number, way in enumerate(blocks) for callee in _still_callees(way, fewest)]
+    rings = in_rings(calls, len(blocks))
+    if 0 in rings and fewest[0] <= many:
+        return True
+    for path, item in all_items(program):
+        if item[0] == "many" and not fewest_in(item[1], fewest) or item[0] == "call" and item[1] in rings:
+            if least_to(blocks, path)[0] <= many:
+                return True
+    return False
+
+
+def _still_callees(way, fewest):
+    """The blocks that the way can come to while no lines are made outside of them."""
+    lines, found = [fewest_of(item, fewest) for item in way], []
+    for place, item in enumerate(way):
+        if any(lines[:place] + lines[place + 1:]):
+            continue
+        if item[0] == "call" and not item[2]:
+            found.append(item[1])
+        for _, inner in inner_ways((), item):
+            found.extend(_still_callees(inner, fewest))
+    return found

@@ -2,7 +2,9 @@
 
 from anydlooks.errors import NoBus, NoRegister, Unfit
 from anydlooks.plain import as_set, ascends, frozen, is_below, is_count, is_counts, is_number, is_tuple_of, power
-from anydlooks.ways import ENDLESS, all_items, calls_in, fewest_lines_of, found_item, most_lines_of, way_with
+from anydlooks.ways import (
+    ENDLESS, all_items, calls_in, fewest_lines_of, found_item, in_rings, led_to, most_lines_of, way_with,
+)
 
 _WORDS = ("pass", "put", "read", "turn")
 
@@ -180,21 +182,10 @@ def _calls(blocks):
     return as_set([(number, callee) for number, way in enumerate(blocks) for callee in calls_in(way)])
 
 
-def _led_to(calls, start):
-    """The blocks to which calls, one or more, lead from one of start."""
-    found = as_set([callee for block, callee in calls if block in start])
-    while True:
-        more = as_set(found + tuple([callee for block, callee in calls if block in found]))
-        if more == found:
-            return found
-        found = more
-
-
 def rings(program):
     """The set of the blocks from which calls lead back to themselves."""
     blocks = frozen(program)[2]
-    calls = _calls(blocks)
-    return tuple([number for number in range(len(blocks)) if number in _led_to(calls, (number,))])
+    return in_rings(_calls(blocks), len(blocks))
 
 
 def fruitful(program):
@@ -205,7 +196,7 @@ def fruitful(program):
 
 def reached(program):
     """The set of 0 and the blocks to which calls lead from it."""
-    return as_set((0, *_led_to(_calls(frozen(program)[2]), (0,))))
+    return as_set((0, *led_to(_calls(frozen(program)[2]), (0,))))
 
 
 def is_clean(program):

@@ -2,7 +2,7 @@
 
 from anydlooks.courses import followed, whole_course, written_out
 from anydlooks.errors import NoLine, Unfit
-from anydlooks.leastruns import all_runs, finished_run, least_run_to, least_runs
+from anydlooks.leastruns import all_runs, finished_run, least_to, least_runs
 from anydlooks.plain import frozen, is_below
 from anydlooks.ways import found_item
 
@@ -66,7 +66,7 @@ def least_run_at(program, path):
     """The least RUN that comes to the ITEM at path."""
     program, path = frozen(program), frozen(path)
     found_item(program, path)
-    return least_run_to(program[2], path)
+    return least_to(program[2], path)[2]
 
 
 def runs_to(program, many):

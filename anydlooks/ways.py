@@ -1,7 +1,7 @@
 """Items and ways: where they stand, and how many lines they make."""
 
 from anydlooks.errors import NoItem
-from anydlooks.plain import is_counts
+from anydlooks.plain import as_set, is_counts
 
 # How many lines, where there is no greatest number of them.
 ENDLESS = -1
@@ -69,13 +69,29 @@ def calls_in(way):
     return [item[1] for _, item in nested_items((), way) if item[0] == "call"]
 
 
+def led_to(calls, start):
+    """The blocks to which calls, one or more, pairs (block, callee), lead from one of start."""
+    found = as_set([callee for block, callee in calls if block in start])
+    while True:
+        more = as_set(found + tuple([callee for block, callee in calls if block in found]))
+        if more == found:
+            return found
+        found = more
+
+
+def in_rings(calls, many):
+    """The set of those of so many blocks from which calls lead back to themselves."""
+    return tuple([number for number in range(many) if number in led_to(calls, (number,))])
+
+
 def fewest_in(way, table):
     """The fewest lines of a run of the way, table having them for each block; None without a run."""
-    lines = [_fewest_of(item, table) for item in way]
+    lines = [fewest_of(item, table) for item in way]
     return None if None in lines else sum(lines)
 
 
-def _fewest_of(item, table):
+def fewest_of(item, table):
+    """The fewest lines of a run of the item, likewise."""
     if item[0] == "many":
         return 0
     if item[0] == "one":

@@ -117,7 +117,7 @@ class Chances(unittest.TestCase):
             self.assertEqual(found is None, bool(wanted))
             if found is not None:
                 self.assertIs(is_cover(program, run, looks, found), True)
-        self.assertGreater(several, 1)
+        self.assertGreater(several, 0)
 
     def test_covers(self):
         tried = 0

@@ -8,7 +8,7 @@ from anydlooks.programs import (
     block_calls, fruitful, is_clean, is_machine, is_program, is_way, item_at, items_of, longest, on_bus, reached,
     readers, replaced, rings, shortest, sizes, writers,
 )
-from reckon import nest, random_program, random_way, rng_of, things_like, way_runs
+from reckon import nest, random_program, random_way, rng_of, things_like
 from samples import bus, deep, lost, new_way, plain, renew, round_way, thrice, turned
 
 
@@ -186,22 +186,17 @@ class Parts(unittest.TestCase):
 
     def test_longest(self):
         seen = {True: 0, False: 0}
-        for program in programs(8, 250, size=3):
+        for program in programs(8, 400, size=3):
+            blocks, most = program[2], longest(program)
             if shortest(program) is None:
-                self.assertIsNone(longest(program))
+                self.assertIsNone(most)
                 continue
-            # All runs of few numbers; a greatest number of lines is reached by then, or there is none.
-            blocks, first = program[2], []
-            for numbers in (3, 5):
-                first.append(max((own for _, own in way_runs(blocks, blocks[0], 60, numbers, 2)), default=0))
-            most = longest(program)
-            if most is not None:
-                self.assertLessEqual(first[1], most)
+            few, many = most_lines(blocks, len(blocks), 1), most_lines(blocks, 600, 600)
+            self.assertEqual(most, few if few == many else None, program)
             if not rings(program):
-                wanted = straight_longest(blocks, blocks[0])
-                self.assertEqual(most, wanted, program)
-                seen[most is None] += 1
-        self.assertGreater(min(seen.values()), 10)
+                self.assertEqual(most, straight_longest(blocks, blocks[0]))
+            seen[most is None] += 1
+        self.assertGreater(min(seen.values()), 50)
 
     def test_longest_of_rings(self):
         machine, dealt = deep[0], deep[1]
@@ -259,6 +254,26 @@ def way_runs_deep(blocks, way, depth):
             return None
         total += own
     return total
+
+
+def most_lines(blocks, depth, times):
+    """The most lines of block 0, calls at most so deep, each "many" gone at most so many times; None without."""
+    def of_way(way, table):
+        lines = [of_item(item, table) for item in way]
+        return None if None in lines else min(sum(lines), 10 ** 6)
+
+    def of_item(item, table):
+        if item[0] == "many":
+            return (of_way(item[1], table) or 0) * times
+        if item[0] == "call":
+            return None if table[item[1]] is None else table[item[1]] + len(item[2])
+        if item[0] == "one":
+            return max([own for own in (of_way(way, table) for way in item[1]) if own is not None], default=None)
+        return 1
+    table = [None] * len(blocks)
+    for _ in range(depth):
+        table = [of_way(way, table) for way in blocks]
+    return table[0]
 
 
 def straight_longest(blocks, way):

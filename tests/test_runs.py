@@ -206,6 +206,54 @@ def passed(program, run):
     return found
 
 
+ENDLESS = float("inf")
+
+
+def times(one, other):
+    """How many runs of both have so many lines, from how many of each have."""
+    found = [0] * len(one)
+    for k, own in enumerate(one):
+        for j, more in enumerate(other[:len(one) - k]):
+            if own and more:
+                # What is above a million is far too many, however far.
+                found[k + j] = min(found[k + j] + own * more, 10 ** 6)
+    return found
+
+
+def counts_of_way(way, table, most):
+    found = [1] + [0] * most
+    for item in way:
+        own = [0, 1] + [0] * most
+        if item[0] == "call":
+            own = [0] * len(item[2]) + table[item[1]]
+        elif item[0] == "one":
+            own = [sum(more) for more in zip(*[counts_of_way(inner, table, most) for inner in item[1]])]
+        elif item[0] == "many":
+            once, own, rounds = counts_of_way(item[1], table, most), [1] + [0] * most, [1] + [0] * most
+            if once[0]:
+                # As many more rounds without lines as you like, wherever there is one round.
+                own = [ENDLESS if any(more[:k + 1]) else 0 for more in [own] for k in range(most + 1)]
+            else:
+                for _ in range(most):
+                    rounds = times(rounds, once)
+                    own = [a + b for a, b in zip(own, rounds)]
+        found = times(found, own[:most + 1])
+    return found
+
+
+def counts_by(program, most):
+    """How many RUNS have just so many LINES, ENDLESS where more come the deeper calls may lie."""
+    blocks = program[2]
+    table = [[0] * (most + 1) for _ in blocks]
+    rounds = (most + 1) * len(blocks) + 1
+    for _ in range(rounds):
+        table = [counts_of_way(way, table, most) for way in blocks]
+    later = table
+    for _ in range(2 * rounds):
+        later = [counts_of_way(way, later, most) for way in blocks]
+    return [own if own == more else ENDLESS for own, more in zip(table[0], later[0])]
+
+
 class All(unittest.TestCase):
 
     def test_all_runs(self):
@@ -229,6 +277,19 @@ class All(unittest.TestCase):
             self.assertEqual(counts, [sum(order(program, run)[0] == k for run in found) for k in range(most + 1)])
         self.assertGreater(listed, 100)
         self.assertGreater(refused, 10)
+
+    def test_how_many(self):
+        seen = {True: 0, False: 0}
+        for program in clean_programs(8, 200, size=3):
+            for most in (0, 1, 3, 6):
+                wanted = counts_by(program, most)
+                seen[sum(wanted) > 2000] += 1
+                if sum(wanted) > 2000:
+                    with self.assertRaises(TooMany):
+                        run_counts(program, most)
+                else:
+                    self.assertEqual(run_counts(program, most), wanted, program)
+        self.assertGreater(min(seen.values()), 50)
 
     def test_limits(self):
         machine, dealt, line = deep[0], deep[1], ("draw", 0)
@@ -287,6 +348,16 @@ class All(unittest.TestCase):
                 runs_to((machine, dealt, blocks), 1)
             with self.assertRaises(TooMany):
                 run_counts((machine, dealt, blocks), 1)
+        # One within the other, each of which goes on behind the inner one.
+        again = (((("one", ((line, line), (("call", 0, ()),))), ("many", (("call", 0, (0,)),))),),
+                 ((("one", ((line,), (("call", 1, ()),))), ("one", ((), (line,)))), (("call", 0, ()), ("many", (line,)))),
+                 ((("one", ((line,), (("call", 0, ()), ("one", ((), ()))))),),))
+        for blocks in again:
+            with self.assertRaises(TooMany):
+                runs_to((machine, dealt, blocks), 4)
+            with self.assertRaises(TooMany):
+                run_counts((machine, dealt, blocks), 2)
+            self.assertEqual(runs_to((machine, dealt, blocks), 0), [])
         # No end of them, but only above so many lines.
         late = (machine, dealt, ((("one", ((), (line, line, ("many", ())))),),))
         self.assertEqual((runs_to(late, 1), run_counts(late, 1)), ([(0,)], [1, 0]))
