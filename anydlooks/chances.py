@@ -73,9 +73,9 @@ def is_cover(program, run, looks, thing):
         return False
     if not all([is_row(own, sight.prime, len(sight.sources)) for own in thing]):
         return False
-    for number, own in enumerate(thing):
-        sums = [product(sight.prime, own, row) for row in sight.secret_rows()]
-        if sums != [int(other == number) for other in range(len(sums))]:
+    for number, values in enumerate(thing):
+        sums = _all_products(sight.prime, sight.secret_rows(), values)
+        if sums != tuple([int(own == number) for own in range(len(sums))]):
             return False
     return not any([product(sight.prime, own, row) for own in thing for row in rows])
 
@@ -137,13 +137,17 @@ def least_tellers(program, run, looks):
     if len(looks) > 10:
         raise TooMany()
     found = []
-    choices = sorted(all_rows(2, len(looks)), key=lambda own: sum(own))
-    for choice in choices:
+    # Smaller sets come first, so what holds a set that was found is not least.
+    for choice in sorted(all_rows(2, len(looks)), key=sum):
         if any([_holds(choice, other) for other in found]):
             continue
         if _tell(sight, [row for row, own in zip(rows, choice) if own]):
             found.append(choice)
-    return sorted([tuple([mark for mark, own in zip(looks, choice) if own]) for choice in found])
+    return sorted([_chosen(looks, own) for own in found])
+
+
+def _chosen(looks, choice):
+    return tuple([mark for mark, own in zip(looks, choice) if own])
 
 
 def _holds(choice, other):

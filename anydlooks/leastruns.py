@@ -16,8 +16,8 @@ def _joined(triples):
     if None in triples:
         return None
     run = []
-    for own in triples:
-        run.extend(own[2])
+    for triple in triples:
+        run.extend(triple[2])
     return sum([own[0] for own in triples]), len(run), tuple(run)
 
 
@@ -176,7 +176,7 @@ def _are_endless(program, fewest, many):
 
 def _still_callees(way, fewest):
     """The blocks that the way can come to while no lines are made outside of them."""
-    lines, found = [fewest_of(item, fewest) for item in way], []
+    lines, found = [fewest_of(own, fewest) for own in way], []
     for place, item in enumerate(way):
         if any(lines[:place] + lines[place + 1:]):
             continue

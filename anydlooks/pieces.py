@@ -69,7 +69,7 @@ def least_of(tables):
         for ahead, behind, price in table:
             key = (ahead, behind)
             found[key] = min(price, found.get(key, price))
-    return tuple(sorted([(ahead, behind, price) for (ahead, behind), price in found.items()]))
+    return tuple(sorted([(*pair, found[pair]) for pair in found]))
 
 
 def many_table(machine, table, most):

@@ -70,8 +70,8 @@ def seen_lines(prime, terms):
 def bad_form(dealt, asking):
     """The FORM of a bad ASKING; None if it is not bad."""
     form = [asking[own[0]] for own in dealt]
-    for residue, own in zip(form, dealt):
-        if any([asking[slot] != residue for slot in own]):
+    for residue, parts in zip(form, dealt):
+        if any([asking[slot] != residue for slot in parts]):
             return None
     return tuple(form) if any(form) else None
 

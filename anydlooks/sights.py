@@ -18,7 +18,7 @@ class Sight:
         self.machine = program[0]
         self.dealt = program[1]
         self.prime = program[0][0]
-        self.lines = [line for line, _ in written_out(whole_course(program, run))]
+        self.lines = [own[0] for own in written_out(whole_course(program, run))]
         self.sources = _sources(self.dealt, self.lines)
         self.states = [_beginning(self.machine, self.sources)]
         self.writes = []

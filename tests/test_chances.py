@@ -88,8 +88,13 @@ class Chances(unittest.TestCase):
         self.assertGreater(told, 60)
 
     def test_forms(self):
+        twin = ((2, (None,) * 5, (("put", 1), ("turn", 1))), ((0, 1), (2, 3)), (
+            (("set", 4, ((0, 1), (2, 1))), ("set", 4, ((1, 1),)), ("set", 4, ((3, 1),)), ("set", 4, ((2, 1),))),))
+        nine = ((3, (0, 0, None, None), (("put", 1), ("pass", 1))), ((0, 2), (1, 3)), (
+            (("set", 2, ((0, 1), (2, 1))), ("set", 1, ((1, 2), (3, 2))), ("set", 0, ((1, 1),)), ("draw", 3)),))
+        plain_cases = list(small_cases(2, 250)) + self.parts_of(twin, 3) + self.parts_of(nine, 3)
         several = 0
-        for rng, program, run, looks in small_cases(2, 250):
+        for rng, program, run, looks in plain_cases:
             prime = program[0][0]
             wanted = forms_by(program, run, looks)
             lead_rows = told_forms(program, run, looks)
@@ -117,7 +122,13 @@ class Chances(unittest.TestCase):
             self.assertEqual(found is None, bool(wanted))
             if found is not None:
                 self.assertIs(is_cover(program, run, looks, found), True)
-        self.assertGreater(several, 0)
+        self.assertGreater(several, 20)
+
+    def parts_of(self, program, most):
+        """The program's one RUN with all LOOKS of at most so many marks, and some more."""
+        marks = [mark for k in range(4) for mark in all_marks(program, Play(program, ()).lines, k)]
+        return [(None, program, (), own) for size in range(most + 2) for own in itertools.combinations(marks, size)
+                if len(own) <= most or own[0][0] == 0]
 
     def test_covers(self):
         tried = 0
