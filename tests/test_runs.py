@@ -146,9 +146,10 @@ class Least(unittest.TestCase):
             every = some_runs(program, 8, 6, 10 ** 6)
             if not every:
                 continue
-            self.assertEqual(least_run(program), min(every, key=lambda run: order(program, run)), program)
-            self.assertEqual(finished(program, ()), least_run(program))
-            many += 1
+            found = least_run(program)
+            self.assertLessEqual(order(program, found), min(order(program, run) for run in every), program)
+            self.assertEqual(finished(program, ()), found)
+            many += found in every
         self.assertGreater(many, 100)
 
     def test_least_at(self):
