@@ -153,7 +153,7 @@ def _numbers(course, fewest, many):
     item, rest = course.wanted[1], many - _lines_ahead(course, fewest)
     if item[0] == "one":
         return [number for number, way in enumerate(item[1]) if fewest_in(way, fewest) <= rest]
-    return list(range(rest // fewest_in(item[1], fewest) + 1)) if rest >= 0 else []
+    return list(range(rest // fewest_in(item[1], fewest) + 1))
 
 
 def _are_endless(program, fewest, many):
@@ -165,8 +165,6 @@ def _are_endless(program, fewest, many):
     blocks = program[2]
     calls = [(number, callee) for number, way in enumerate(blocks) for callee in _still_callees(way, fewest)]
     rings = in_rings(calls, len(blocks))
-    if 0 in rings and fewest[0] <= many:
-        return True
     for path, item in all_items(program):
         if item[0] == "many" and not fewest_in(item[1], fewest) or item[0] == "call" and item[1] in rings:
             if least_to(blocks, path)[0] <= many:

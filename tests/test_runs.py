@@ -339,6 +339,12 @@ class All(unittest.TestCase):
             runs_to(other, 40)
         with self.assertRaises(TooMany):
             run_counts(other, 40)
+        one_more = (machine, dealt, ((("one", (other[2][0], ())),),))
+        self.assertEqual(len(runs_to(one_more, 38)), 1951)
+        with self.assertRaises(TooMany):
+            runs_to(one_more, 39)
+        with self.assertRaises(TooMany):
+            run_counts(one_more, 39)
 
     def test_without_end(self):
         machine, dealt, line = deep[0], deep[1], ("draw", 0)
@@ -359,6 +365,14 @@ class All(unittest.TestCase):
             with self.assertRaises(TooMany):
                 run_counts((machine, dealt, blocks), 2)
             self.assertEqual(runs_to((machine, dealt, blocks), 0), [])
+        far = ("draw", 1)
+        with self.assertRaises(TooMany):
+            runs_to((machine, dealt, ((("one", ((far, far), (("call", 0, ()),))), ("many", (("call", 0, (0,)),))),)), 4)
+        ring = (("one", ((), (("call", 1, ()),))),)
+        late = (machine, dealt, ((("one", ((), (far,), (far, far, ("call", 1, ())))),), ring))
+        self.assertEqual(runs_to(late, 1), [(0,), (1,)])
+        with self.assertRaises(TooMany):
+            runs_to(late, 2)
         # No end of them, but only above so many lines.
         late = (machine, dealt, ((("one", ((), (line, line, ("many", ())))),),))
         self.assertEqual((runs_to(late, 1), run_counts(late, 1)), ([(0,)], [1, 0]))
