@@ -265,6 +265,20 @@ class Tellings(unittest.TestCase):
                 self.assertIs(is_telling(program, ((rounds,), (((2 + ahead, "put"), 1), ((at, "put"), 1)))), True)
                 self.assertIs(is_telling(program, ((rounds,), (((2 + ahead, "put"), 1), ((at + 1, "put"), 1)))), False)
 
+    def test_rounds_that_come_back(self):
+        # Each round exchanges the parts and clears register 2; what is asked of that is asked no more.
+        body = (("set", 2, ()), ("set", 3, ((0, 1),)), ("set", 0, ((1, 1),)), ("set", 1, ((3, 1),)))
+        program = ((2, (None,) * 4, plain), ((0, 1),), ((("many", body), ("set", 2, ((0, 1), (2, 1)))),))
+        for rounds in (1, 2, 3, 4, 7, 10 ** 30, 10 ** 30 + 1):
+            odd = rounds % 2 == 1
+            for turn in {0, rounds - 1, rounds // 2}:
+                terms = (((4 * turn + 1, "put"), 1), ((4 * rounds, "put"), 1))
+                self.assertIs(is_telling(program, ((rounds,), terms)), (rounds - turn) % 2 == 1)
+            terms = (((1, "put"), 1), ((4 * rounds, "put"), 1))
+            self.assertIs(is_telling(program, ((rounds,), terms)), odd)
+            if rounds < 8:
+                self.check(program, (rounds,), terms)
+
     def test_many_calls(self):
         machine = (2, (None,) * 3, plain)
         step = (("set", 2, ((0, 1), (2, 1))), ("set", 0, ((1, 1),)), ("set", 1, ((2, 1),)))
