@@ -1,6 +1,7 @@
 """ASKINGS of one RUN: what is asked behind so many LINES, and which terms are the cheapest."""
 
 from anydlooks.cheapest import cheapest_terms, check_size, walk_and_draws
+from anydlooks.courses import whole_course, written_out
 from anydlooks.errors import Unfit
 from anydlooks.plain import frozen
 from anydlooks.residues import is_row
@@ -73,39 +74,40 @@ def walk_terms(program, run, walk):
 
 
 def _all_told(program, run):
-    """The Sight of the RUN and the triples (price, count, terms) of the cheapest TELLINGS, by FORM."""
-    sight = Sight(frozen(program), frozen(run))
-    check_size(sight.machine, sight.lines)
-    worths = cheapest_terms(sight.machine, sight.lines, None)
+    """The LINES of the RUN and the triples (price, count, terms) of the cheapest TELLINGS, by FORM."""
+    machine, dealt, _ = program
+    lines = [line for line, _ in written_out(whole_course(program, run))]
+    check_size(machine, lines)
     told = {}
-    for asking, worth in worths.items():
-        form = bad_form(sight.dealt, asking)
+    for asking, worth in cheapest_terms(machine, lines, None).items():
+        form = bad_form(dealt, asking)
         if form is not None:
             told[form] = min(worth, told.get(form, worth))
-    return sight, told
+    return lines, told
 
 
 def least_terms(program, run):
     """The cheapest terms that make a TELLING with run; None if nothing tells."""
-    told = _all_told(program, run)[1]
+    told = _all_told(frozen(program), frozen(run))[1]
     return min(list(told.values()))[2] if told else None
 
 
 def least_told(program, run):
     """The price of these; None if nothing tells."""
-    told = _all_told(program, run)[1]
+    told = _all_told(frozen(program), frozen(run))[1]
     return min(list(told.values()))[0] if told else None
 
 
 def told_walk(program, run):
     """The WALK of these; None if nothing tells."""
-    sight, told = _all_told(program, run)
+    program = frozen(program)
+    lines, told = _all_told(program, frozen(run))
     if not told:
         return None
-    return walk_and_draws(sight.machine, sight.lines, min(list(told.values()))[2])[0]
+    return walk_and_draws(program[0], lines, min(list(told.values()))[2])[0]
 
 
 def form_prices(program, run):
     """The ascending list of the pairs of a FORM and the least price at which it is told."""
-    told = _all_told(program, run)[1]
+    told = _all_told(frozen(program), frozen(run))[1]
     return sorted([(form, worth[0]) for form, worth in told.items()])

@@ -9,17 +9,20 @@ from anydlooks.rule import (
 _MOST_STATES = 1024
 
 
-def _begun(lines, number):
-    """The put backs, later ones first, whose calls begin when so many LINES lie ahead."""
-    found = [line for line in lines[number:] if line[0] == "back" and line[2] == number]
-    return [line[1] for line in reversed(found)]
+def _all_begun(lines):
+    """For each LINE the registers of the put backs, later ones first, whose calls begin ahead of it."""
+    found = [[] for _ in lines]
+    for line in reversed(lines):
+        if line[0] == "back":
+            found[line[2]].append(line[1])
+    return found
 
 
 def walk_and_draws(machine, lines, terms):
     """The WALK of the terms, and the list of what the draws are asked."""
     seen = seen_lines(machine[0], terms)
     asked, held = quiet_asking(machine), []
-    walk, draws = [asked], []
+    walk, draws, begun = [asked], [], _all_begun(lines)
     for number in reversed(range(len(lines))):
         line = lines[number]
         asked, wanted = ahead_of(machine, line, asked, seen.get(number, NOTHING_SEEN))
@@ -27,7 +30,7 @@ def walk_and_draws(machine, lines, terms):
             draws.append(wanted)
         elif line[0] == "back":
             held.append(wanted)
-        for slot in reversed(_begun(lines, number)):
+        for slot in reversed(begun[number]):
             asked = with_added(machine[0], asked, [(slot, held.pop())])
         walk.append(asked)
     return tuple(reversed(walk)), list(reversed(draws))
@@ -35,9 +38,12 @@ def walk_and_draws(machine, lines, terms):
 
 def check_size(machine, lines):
     """Raises TooMany() if ASKINGS, with what put backs hold meanwhile, can be too many."""
-    backs = [(number, line[2]) for number, line in enumerate(lines) if line[0] == "back"]
-    held = [len([own for own, start in backs if start <= number <= own]) for number in range(len(lines))]
-    if power(machine[0], asking_length(machine) + max(held, default=0)) > _MOST_STATES:
+    begun, held, most = _all_begun(lines), 0, 0
+    for number, line in enumerate(lines):
+        held += len(begun[number])
+        most = max(most, held)
+        held -= int(line[0] == "back")
+    if power(machine[0], asking_length(machine) + most) > _MOST_STATES:
         raise TooMany()
 
 
@@ -51,9 +57,10 @@ def cheapest_terms(machine, lines, walk):
     best = {quiet_asking(machine): (0, 0, ())}
     if walk is not None and walk[-1] not in best:
         return {}
+    begun = _all_begun(lines)
     for number in reversed(range(len(lines))):
         best = _ahead_of_line(machine, lines[number], number, best)
-        best = _with_begun(machine, _begun(lines, number), best)
+        best = _with_begun(machine, begun[number], best)
         if walk is not None:
             length = asking_length(machine)
             best = {state: best[state] for state in best if state[:length] == walk[number]}

@@ -33,7 +33,8 @@ class Course:
     steps tell what was gone through, as tuples (word, path, item, number, lines), lines
     being how many LINES lay ahead. "do": a set, a draw, or a call in which nothing is chosen.
     "round": a "many" gone round number times, in whose way nothing is chosen. "begin" and
-    "end": any other call, behind which number tells how many LINES lay ahead of it.
+    "end": any other call, behind which number tells how many LINES lay ahead of it. "turn"
+    and "over": one time round of any other "many".
     """
 
     def __init__(self, blocks, sizes, frames):
@@ -55,8 +56,12 @@ class Course:
             elif word == "call":
                 self.steps.append(("end", path, what, number, self.lines))
                 self.lines += len(what[2])
+            elif word == "over":
+                self.steps.append(("over", path, what, 0, self.lines))
             elif number:
+                self.steps.append(("turn", path, what, 0, self.lines))
                 self.frames.append(("loop", path, what, number - 1))
+                self.frames.append(("over", path, what, 0))
                 self.frames.append(("way", path, what, 0))
 
     def _enter(self, prefix, way, place):

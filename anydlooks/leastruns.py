@@ -143,7 +143,7 @@ def _lines_ahead(course, fewest):
             total += fewest_in(what[number:], fewest)
         elif word == "loop":
             total += fewest_in(what, fewest) * number
-        else:
+        elif word == "call":
             total += len(what[2])
     return total
 

@@ -1,8 +1,8 @@
 """TABLES of pieces of programs: at which least prices ASKINGS go through them."""
 
-from anydlooks.grids import (
-    Places, call_grid, joined_grid, line_grid, many_grid, places_of, times_grid, way_grid,
-)
+from anydlooks.blocks import BY_PRICE, Pieces, Places, places_of
+from anydlooks.grids import Grids
+from anydlooks.moves import full_view
 from anydlooks.plain import as_set, ascends, frozen, is_below, is_tuple_of
 from anydlooks.residues import is_row
 from anydlooks.rule import ahead_of, asking_length, line_choices, quiet_asking, with_added
@@ -37,17 +37,20 @@ def asked_ahead(table, behind):
     return sorted([(own[0], own[2]) for own in frozen(table) if own[1] == behind])
 
 
+def _pieces(machine, most):
+    return Pieces(machine, full_view(machine), most, BY_PRICE, False)
+
+
 def line_table(machine, item, most):
     """The TABLE of the LINE of a set or a draw."""
-    machine = frozen(machine)
-    places = places_of(machine)
-    return places.table(line_grid(machine, places, line_of_item(frozen(item)), most))
+    pieces = _pieces(frozen(machine), most)
+    return pieces.places.table(pieces.line(line_of_item(frozen(item))))
 
 
 def still_table(machine):
     """The TABLE of the WAY ()."""
     places = places_of(frozen(machine))
-    return places.table(places.still_grid(0))
+    return places.table(Grids(len(places.askings), 1, None).still())
 
 
 def _places_in(tables):
@@ -59,7 +62,8 @@ def joined(one, other, most):
     """The TABLE of a piece with the TABLE one and then one with other."""
     one, other = frozen(one), frozen(other)
     places = _places_in((one, other))
-    return places.table(joined_grid(places.grid(one, most), places.grid(other, most)))
+    grids = Grids(len(places.askings), 1, most)
+    return places.table(grids.joined(places.grid(grids, one), places.grid(grids, other)))
 
 
 def least_of(tables):
@@ -75,13 +79,15 @@ def least_of(tables):
 def many_table(machine, table, most):
     """The TABLE of none, one or more pieces with this TABLE."""
     places = places_of(frozen(machine))
-    return places.table(many_grid(places.still_grid(most), places.grid(frozen(table), most)))
+    grids = Grids(len(places.askings), 1, most)
+    return places.table(grids.many(places.grid(grids, frozen(table))))
 
 
 def times_table(machine, table, many, most):
     """The TABLE of just so many pieces with this TABLE."""
     places = places_of(frozen(machine))
-    return places.table(times_grid(places.still_grid(most), places.grid(frozen(table), most), many))
+    grids = Grids(len(places.askings), 1, most)
+    return places.table(grids.times(places.grid(grids, frozen(table)), many))
 
 
 def kept_table(machine, kept, most):
@@ -111,14 +117,13 @@ def _ahead_of_back(machine, slot, states, most):
 
 def call_table(machine, kept, table, most):
     """The TABLE of a call of a block with this TABLE, with its put backs."""
-    machine = frozen(machine)
-    places = places_of(machine)
-    return places.table(call_grid(machine, places, frozen(kept), places.grid(frozen(table), most), most))
+    pieces = _pieces(frozen(machine), most)
+    grid = pieces.places.grid(pieces.grids, frozen(table))
+    return pieces.places.table(pieces.call(frozen(kept), grid))
 
 
 def way_table(program, way, tables, most):
-    """The TABLE of a WAY, tables having one for each block."""
-    machine = frozen(program)[0]
-    places = places_of(machine)
-    grids = [places.grid(own, most) for own in frozen(tables)]
-    return places.table(way_grid(machine, places, frozen(way), grids, most))
+    """The TABLE of a WAY, tables having one TABLE for each block."""
+    pieces = _pieces(frozen(program)[0], most)
+    grids = [pieces.places.grid(pieces.grids, own) for own in frozen(tables)]
+    return pieces.places.table(pieces.way(frozen(way), grids))

@@ -3,7 +3,7 @@
 from anydlooks.errors import NoBus, NoRegister, Unfit
 from anydlooks.plain import as_set, ascends, frozen, is_below, is_count, is_counts, is_number, is_tuple_of, power
 from anydlooks.ways import (
-    ENDLESS, all_items, calls_in, fewest_lines_of, found_item, in_rings, led_to, most_lines_of, way_with,
+    ENDLESS, all_items, calls_in, fewest_lines_of, found_item, in_rings, led_to, most_lines_of, program_with,
 )
 
 _WORDS = ("pass", "put", "read", "turn")
@@ -136,9 +136,7 @@ def replaced(program, path, items):
     found_item(program, path)
     if not isinstance(items, tuple):
         raise Unfit()
-    blocks = list(program[2])
-    blocks[path[0]] = way_with(blocks[path[0]], path[1:], items)
-    result = (program[0], program[1], tuple(blocks))
+    result = program_with(program, path, items, 1)
     if not is_program(result):
         raise Unfit()
     return result

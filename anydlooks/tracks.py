@@ -1,8 +1,8 @@
 """Terms of RUNS of any length, told backwards; what nobody looks at is gone through once."""
 
 from anydlooks.courses import followed, item_size, way_size
-from anydlooks.marks import fit_lines, has_line, is_list_of_terms
-from anydlooks.plain import as_set, is_tuple_of
+from anydlooks.marks import fit_lines, has_line, is_list_of_terms, price_of_looks
+from anydlooks.plain import all_rows, as_set, is_tuple_of
 from anydlooks.rule import NOTHING_SEEN, ahead_of, bad_form, quiet_asking, seen_lines, with_added
 from anydlooks.ways import line_of_item
 
@@ -63,6 +63,12 @@ class Track:
             return self._line_in(self.course.blocks[item[1]], number)
         return "back", item[2][number - inner], 0
 
+    def are_looks(self, looks):
+        """Whether looks, a tuple, are LOOKS of the RUN."""
+        if not all([has_line(own, self.course.lines) for own in looks]):
+            return False
+        return fit_lines(self.machine, [self.line_at(mark[0]) for mark in looks], looks)
+
     def first_asked(self, terms):
         """What is asked at the beginning; None if the terms are not heard."""
         self.seen = seen_lines(self.machine[0], terms)
@@ -77,7 +83,7 @@ class Track:
                 held.append(added)
             elif word == "round":
                 asked = self._round(item[1], number, lines, asked)
-            else:
+            elif word == "do":
                 asked = self._item(item, lines, asked)
             if asked is None:
                 return None
@@ -161,21 +167,41 @@ class Track:
         return found[times]
 
 
+def track_of(program, run):
+    """The Track of a RUN; None if it is none."""
+    course = followed(program, run)
+    if course is None or course.wanted is not None:
+        return None
+    return Track(program[0], course)
+
+
 def told_form(program, thing):
     """The FORM of a TELLING; None if thing is none."""
     if not is_tuple_of(thing, 2):
         return None
     run, terms = thing
-    course = followed(program, run)
-    if course is None or course.wanted is not None:
+    track = track_of(program, run)
+    if track is None or not is_list_of_terms(terms, program[0][0]) or not terms:
         return None
-    if not is_list_of_terms(terms, program[0][0]) or not terms:
-        return None
-    looks = [mark for mark, _ in terms]
-    if not all([has_line(own, course.lines) for own in looks]):
-        return None
-    track = Track(program[0], course)
-    if not fit_lines(program[0], [track.line_at(mark[0]) for mark in looks], looks):
+    if not track.are_looks([mark for mark, _ in terms]):
         return None
     asked = track.first_asked(terms)
     return None if asked is None else bad_form(program[1], asked)
+
+
+def told_together(program, forms, most, thing):
+    """Whether thing is a pair of a RUN and LOOKS of price most at most that tell each of the forms."""
+    if not is_tuple_of(thing, 2) or not isinstance(thing[1], tuple):
+        return False
+    run, looks = thing
+    track = track_of(program, run)
+    if track is None or not track.are_looks(looks) or price_of_looks(program[0], looks) > most:
+        return False
+    left = list(forms)
+    for factors in all_rows(program[0][0], len(looks)):
+        asked = track.first_asked([(mark, factor) for mark, factor in zip(looks, factors) if factor])
+        form = None if asked is None else bad_form(program[1], asked)
+        left = [own for own in left if own != form]
+        if not left:
+            return True
+    return False

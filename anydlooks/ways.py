@@ -44,19 +44,26 @@ def found_item(program, path):
     raise NoItem(path)
 
 
-def way_with(way, rest, items):
-    """The way with items in the place of the item to which rest, the end of its path, leads."""
+def way_with(way, rest, items, taken):
+    """The way with items in the place of as many as are taken, to which rest, the end of a path, leads."""
     place = rest[0]
     if len(rest) == 1:
-        return way[:place] + items + way[place + 1:]
+        return way[:place] + items + way[place + taken:]
     item = way[place]
     if item[0] == "many":
-        new = ("many", way_with(item[1], rest[1:], items))
+        new = ("many", way_with(item[1], rest[1:], items, taken))
     else:
         ways = list(item[1])
-        ways[rest[1]] = way_with(ways[rest[1]], rest[2:], items)
+        ways[rest[1]] = way_with(ways[rest[1]], rest[2:], items, taken)
         new = ("one", tuple(ways))
     return (*way[:place], new, *way[place + 1:])
+
+
+def program_with(program, path, items, taken):
+    """The program with items in the place of as many as are taken at path."""
+    blocks = list(program[2])
+    blocks[path[0]] = way_with(blocks[path[0]], path[1:], items, taken)
+    return program[0], program[1], tuple(blocks)
 
 
 def line_of_item(item):

@@ -5,7 +5,13 @@ import importlib
 import inspect
 import unittest
 
-from samples import bus, deep, renew, small, thrice, turned
+from anydlooks.closed import closed_tables
+from anydlooks.each import reach
+from anydlooks.least import least_relations
+from anydlooks.times import times_paper
+from samples import (
+    bus, crowd, deep, four, half, mask, masked, over, renew, small, still, thrice, tiny, turned, twin,
+)
 from test_language import INTERFACE
 
 THREE = ((1, 2, 0), (2, 1, 0), (0, 1, 1))
@@ -88,7 +94,101 @@ CALLS = {
     },
 }
 
-LISTS = ("items_of", "runs_to", "run_counts", "least_tellers", "draws_asked", "form_prices", "asked_ahead")
+TABLES = closed_tables(tiny, 1)
+WAY = (("draw", 3), ("set", 0, ((0, 1), (3, 1))), ("set", 1, ((1, 1), (3, 1))))
+
+CALLS.update({
+    "closed": {
+        "made_of": dict(program=tiny, tables=TABLES, most=1), "deep_tables": dict(program=tiny, most=1, many=2),
+        "closed_tables": dict(program=tiny, most=1), "closing": dict(program=tiny, most=1),
+        "are_closed": dict(program=tiny, most=1, thing=TABLES),
+        "block_price": dict(program=tiny, number=1, ahead=(1, 0), behind=(0, 1), most=1),
+        "bad_entries": dict(program=tiny, table=TABLES[0]), "withstands": dict(program=tiny, most=0),
+        "shield": dict(program=tiny, most=0), "is_shield": dict(program=tiny, most=0, thing=closed_tables(tiny, 0)),
+    },
+    "least": {
+        "least_price": dict(program=deep), "never_told": dict(program=half), "least_relations": dict(program=tiny),
+        "are_relations": dict(program=tiny, thing=least_relations(tiny)), "never_paper": dict(program=half),
+        "is_never_paper": dict(program=half, thing=least_relations(half)), "least_telling": dict(program=deep, most=2),
+        "cheapest_telling": dict(program=deep), "fewest_lines": dict(program=deep, most=2),
+        "line_steps": dict(program=deep, most=6),
+        "run_between": dict(program=tiny, number=1, ahead=(1, 0), behind=(0, 1), most=1),
+    },
+    "sums": {
+        "form_price": dict(program=twin, form=(0, 1)), "priced_forms": dict(program=twin), "forms_to": dict(program=twin, most=3),
+        "form_telling": dict(program=twin, form=(1, 1), most=3),
+        "is_form_telling": dict(program=deep, form=(1,), most=2, thing=((1, 0), BOTH)),
+        "form_shield": dict(program=tiny, form=(1,), most=0),
+        "is_form_shield": dict(program=tiny, form=(1,), most=0, thing=closed_tables(tiny, 0)),
+        "together": dict(program=twin, forms=((0, 1), (1, 0)), most=4), "bundle": dict(program=twin, forms=((0, 1), (1, 0)), most=4),
+        "is_bundle": dict(program=twin, forms=((0, 1),), most=2, thing=((), ((2, "put"), (3, "put")))),
+        "learnt": dict(program=twin, most=3),
+    },
+    "times": {
+        "price_times": dict(program=masked, path=(0, 0), many=10 ** 18), "times_prices": dict(program=masked, path=(0, 0), many=9),
+        "times_form": dict(program=masked, path=(0, 0)),
+        "is_times_form": dict(program=masked, path=(0, 0), thing=((1, 2), (1, 1))),
+        "times_paper": dict(program=masked, path=(0, 0)),
+        "is_times_paper": dict(program=masked, path=(0, 0), thing=times_paper(masked, (0, 0))),
+        "told_times": dict(program=masked, path=(0, 0), most=2), "telling_times": dict(program=masked, path=(0, 0), many=3),
+        "is_telling_times": dict(program=masked, path=(0, 0), many=2, thing=((2,), (((2, "turn"), 1), ((4, "turn"), 1)))),
+        "unrolled": dict(program=masked, path=(0, 0), many=2),
+    },
+    "each": {
+        "turns": dict(program=deep, run=(1, 1, 0)), "turn_count": dict(program=deep, run=(1, 1, 0)),
+        "height": dict(program=deep, run=(1, 0), looks=((1, "put"), (2, "put"))), "least_height": dict(program=deep),
+        "withstands_each": dict(program=renew, most=2), "reach": dict(program=tiny, most=0),
+        "is_reach": dict(program=tiny, most=1, thing=reach(tiny, 1)), "each_telling": dict(program=deep, most=1),
+        "is_each_telling": dict(program=turned, most=1, thing=((2,), (((1, "turn"), 1), ((5, "put"), 1)))),
+    },
+    "persons": {
+        "is_persons": dict(program=bus, thing=crowd), "seen_marks": dict(program=bus, persons=crowd, group=(0, 2), run=()),
+        "learns": dict(program=bus, persons=crowd, group=(0, 2)), "learnt_forms": dict(program=bus, persons=crowd, group=(0,)),
+        "group_telling": dict(program=bus, persons=crowd, group=(1, 2)),
+        "is_group_telling": dict(program=bus, persons=crowd, group=(1, 2), thing=((), (((0, "put"), 1), ((1, "put"), 1)))),
+        "quiet_paper": dict(program=half, persons=((("put", 2),),), group=(0,)),
+        "is_quiet_paper": dict(program=half, persons=((("put", 2),),), group=(0,), thing=least_relations(half)),
+        "learning_groups": dict(program=bus, persons=crowd), "quiet_groups": dict(program=bus, persons=crowd),
+        "groups_for": dict(program=bus, persons=crowd, form=(1,)), "rest_price": dict(program=bus, persons=crowd, group=(1,), most=3),
+        "rest_telling": dict(program=bus, persons=crowd, group=(1,), most=3), "least_cuts": dict(program=bus, persons=crowd, group=(0, 1, 2)),
+    },
+    "draws": {
+        "draws": dict(program=mask), "left_out": dict(program=mask, paths=((0, 0),)),
+        "taken_from": dict(program=mask, path=(0, 0), slot=1), "can_go": dict(program=mask, most=0),
+        "greatest_spared": dict(program=mask, most=1), "fewest_draws": dict(program=mask, most=1),
+        "sources_for": dict(program=mask, path=(0, 0), most=1), "with_fewest": dict(program=mask, most=1),
+        "comes_of": dict(program=mask, thing=mask),
+    },
+    "renewals": {
+        "renewal": dict(machine=four, registers=(0, 1), slot=3), "keeps_sum": dict(machine=four, registers=(0, 1), way=WAY),
+        "renews": dict(machine=four, registers=(0, 1), way=WAY), "how_free": dict(machine=four, registers=(0, 1), way=WAY),
+        "spots": dict(program=deep), "put_in": dict(program=still, path=(0, 1), way=WAY),
+        "renewed": dict(program=deep, paths=((1, 0, 0, 0), (1, 0, 1, 2)), registers=(0, 1), slot=2),
+        "helping": dict(program=over, registers=(0, 1), slot=3, most=1), "harming": dict(program=still, registers=(0, 1), slot=3, most=2),
+        "fewest_renewals": dict(program=over, registers=(0, 1), slot=3, most=1, many=2),
+    },
+})
+
+LISTS = ("priced_forms", "learnt", "times_prices", "learning_groups", "quiet_groups", "groups_for", "least_cuts", "items_of", "runs_to", "run_counts", "least_tellers", "draws_asked", "form_prices", "asked_ahead")
+
+RAISING = (
+    ("closed", "shield", dict(program=deep, most=2)),
+    ("closed", "block_price", dict(program=tiny, number=2, ahead=(0, 0), behind=(0, 0), most=1)),
+    ("least", "never_paper", dict(program=tiny)),
+    ("least", "run_between", dict(program=tiny, number=-1, ahead=(0, 0), behind=(0, 0), most=1)),
+    ("sums", "form_shield", dict(program=deep, form=(1,), most=2)),
+    ("times", "times_form", dict(program=masked, path=(0, 2))), ("times", "unrolled", dict(program=masked, path=(0, 1), many=2)),
+    ("each", "height", dict(program=deep, run=(0,), looks=((0, "pass"),))), ("each", "turns", dict(program=deep, run=(1,))),
+    ("persons", "learns", dict(program=bus, persons=crowd, group=(1, 4))),
+    ("persons", "seen_marks", dict(program=bus, persons=crowd, group=(1,), run=(0,))),
+    ("draws", "left_out", dict(program=mask, paths=((0, 0), (0, 1)))),
+    ("draws", "taken_from", dict(program=mask, path=(0, 0), slot=3)),
+    ("renewals", "renewal", dict(machine=four, registers=(0, 1), slot=1)),
+    ("renewals", "put_in", dict(program=still, path=(0, 2), way=WAY)),
+    ("renewals", "renewed", dict(program=still, paths=((0, 1), (7, 7)), registers=(0, 1), slot=3)),
+)
+
+TRUTHS = ("tells", "plan_tells", "withstands", "never_told", "withstands_each", "learns", "comes_of", "keeps_sum", "renews")
 
 
 def listed(value):
@@ -140,7 +240,7 @@ class General(unittest.TestCase):
                 self.assertNotEqual(function(**arguments), result, word)
             else:
                 self.assertFalse(has_list(result), word)
-            if word.startswith("is_") or word in ("tells", "plan_tells"):
+            if word.startswith(("is_", "are_")) or word in TRUTHS:
                 self.assertIn(result, (True, False))
                 self.assertIs(type(result), bool, word)
 
@@ -151,6 +251,19 @@ class General(unittest.TestCase):
                 if arguments["thing"] != ():
                     given = dict(arguments, thing=listed(arguments["thing"]))
                     self.assertIs(function(**given), False, word)
+
+    def test_calls_that_raise(self):
+        """They leave their arguments as they were, too."""
+        for module, word, arguments in RAISING:
+            function = getattr(importlib.import_module("anydlooks." + module), word)
+            given = {name: listed(own) for name, own in arguments.items()}
+            before = copy.deepcopy(given)
+            for _ in range(2):
+                with self.assertRaises((LookupError, ValueError)) as caught:
+                    function(**given)
+                self.assertTrue(type(caught.exception).__module__ == "anydlooks.errors", word)
+                self.assertFalse(has_list(tuple(vars(caught.exception).values())), word)
+            self.assertEqual(repr(given), repr(before), word)
 
     def test_odd_things(self):
         odd = [None, True, False, 0, -1, 10 ** 1000, -10 ** 1000, "", "set", "a" * 10000, [], [[]], ((),), (None,) * 3, (0,) * 5000]

@@ -24,6 +24,7 @@ BARRED_WORDS = re.compile(r"\b(type|typing|enum|Enum|IntEnum|StrEnum|Flag|IntFla
                           r"|namedtuple|NamedTuple|TypedDict|TYPE_CHECKING|abstractmethod)\b")
 STATEMENTS = (ast.Assign, ast.AugAssign, ast.If, ast.While, ast.For, ast.Return, ast.Break, ast.Continue, ast.Pass,
               ast.Raise, ast.Expr, ast.FunctionDef, ast.ClassDef, ast.ImportFrom)
+TAKERS = ("list", "tuple", "dict", "sorted", "sum", "any", "all", "enumerate", "zip", "min", "max")
 INTERFACE = {
     "errors": "NoBlock NoRegister NoBus NoLine NoItem NoPerson NothingDone BadLine CanNot TooMany Unfit",
     "residues": "is_row inverse row_by product basis rank rest_of is_within members factors_for relations across"
@@ -40,6 +41,18 @@ INTERFACE = {
                " form_prices",
     "pieces": "is_table price_in asked_ahead line_table still_table joined least_of many_table times_table kept_table"
               " call_table way_table",
+    "closed": "made_of deep_tables closed_tables closing are_closed block_price bad_entries withstands shield is_shield",
+    "least": "least_price never_told least_relations are_relations never_paper is_never_paper least_telling"
+             " cheapest_telling fewest_lines line_steps run_between",
+    "sums": "form_price priced_forms forms_to form_telling is_form_telling form_shield is_form_shield together bundle"
+            " is_bundle learnt",
+    "times": "price_times times_prices times_form is_times_form times_paper is_times_paper told_times telling_times"
+             " is_telling_times unrolled",
+    "each": "turns turn_count height least_height withstands_each reach is_reach each_telling is_each_telling",
+    "persons": "is_persons seen_marks learns learnt_forms group_telling is_group_telling quiet_paper is_quiet_paper"
+               " learning_groups quiet_groups groups_for rest_price rest_telling least_cuts",
+    "draws": "draws left_out taken_from can_go greatest_spared fewest_draws sources_for with_fewest comes_of",
+    "renewals": "renewal keeps_sum renews how_free spots put_in renewed helping harming fewest_renewals",
 }
 
 
@@ -136,7 +149,7 @@ class Language(unittest.TestCase):
                 if isinstance(node, (ast.FunctionDef, ast.ClassDef)):
                     if node.name in INTERFACE.get(name[:-3], "").split():
                         continue
-                    many = sum(len(re.findall(r"\b" + node.name + r"\b", more)) for _, more in texts)
+                    many = sum(more.count(node.name) and len(re.findall(r"\b" + node.name + r"\b", more)) for _, more in texts)
                     self.assertGreater(many, 1, (name, node.name))
 
     def test_names(self):
@@ -164,30 +177,37 @@ class Language(unittest.TestCase):
                     self.assertNotIn(chr(37), node.value, name)
 
     def test_calls(self):
-        methods = [node.name for _, text in files() for own in ast.parse(text).body if isinstance(own, ast.ClassDef)
+        trees = [(name, ast.parse(text)) for name, text in files()]
+        every = [node for _, tree in trees for node in ast.walk(tree)]
+        methods = [node.name for _, tree in trees for own in tree.body if isinstance(own, ast.ClassDef)
                    for node in own.body if isinstance(node, ast.FunctionDef)]
-        for name, text in files():
-            tree = ast.parse(text)
+        stored = {node.attr for node in every if isinstance(node, ast.Attribute) and isinstance(node.ctx, ast.Store)}
+        called = {id(node.func) for node in every if isinstance(node, ast.Call)}
+        for name, tree in trees:
             top = [node.name for node in tree.body if isinstance(node, (ast.FunctionDef, ast.ClassDef))]
             top += [more.name for node in tree.body if isinstance(node, ast.ImportFrom) for more in node.names]
-            for node in ast.walk(tree):
-                if not isinstance(node, ast.Call):
-                    continue
+            calls = [node for node in ast.walk(tree) if isinstance(node, ast.Call)]
+            inner = {id(own): node.func.id for node in calls if isinstance(node.func, ast.Name) for own in node.args}
+            for node in calls:
                 where = (name, node.lineno)
                 if isinstance(node.func, ast.Attribute):
                     self.assertIn(node.func.attr, METHODS | set(methods), where)
                 else:
                     self.assertIn(node.func.id, BUILTINS | set(top), where)
                     if node.func.id == "set":
-                        inner = [own for own in ast.walk(tree) if isinstance(own, ast.Call) and node in own.args]
-                        self.assertTrue(inner and inner[0].func.id in ("sorted", "len"), where)
+                        self.assertIn(inner.get(id(node)), ("sorted", "len"), where)
+                    if node.func.id in ("zip", "enumerate", "reversed"):
+                        self.assertTrue(id(node) in self.iterated(tree) or inner.get(id(node)) in TAKERS, where)
+                for own in node.args:
+                    if isinstance(own, ast.Starred):
+                        self.assertIsInstance(own.value, (ast.Name, ast.Attribute), where)
             for node in ast.walk(tree):
                 if isinstance(node, ast.Attribute) and node.attr in methods:
-                    calls = [own for own in ast.walk(tree) if isinstance(own, ast.Call) and own.func is node]
-                    attributes = [own for _, more in files() for own in ast.walk(ast.parse(more))
-                                  if isinstance(own, ast.Attribute) and isinstance(own.ctx, ast.Store)
-                                  and own.attr == node.attr]
-                    self.assertTrue(calls or attributes, (name, node.lineno, "a method passed on"))
+                    self.assertTrue(id(node) in called or node.attr in stored, (name, node.lineno, "a method passed on"))
+
+    def iterated(self, tree):
+        """What loops and comprehensions go over."""
+        return {id(node.iter) for node in ast.walk(tree) if isinstance(node, (ast.For, ast.comprehension))}
 
     def test_classes(self):
         for name, text in files():
