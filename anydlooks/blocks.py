@@ -7,9 +7,9 @@ beside the key, in layers.
 
 from anydlooks.grids import Grids, add_to, bits_of, mask_to
 from anydlooks.moves import Moves
-from anydlooks.plain import all_rows
+from anydlooks.plain import all_rows, as_set
 from anydlooks.rule import asking_length
-from anydlooks.ways import line_of_item
+from anydlooks.ways import calls_in, line_of_item
 
 # More than LINES and numbers of any run can be that is the least of its kind.
 MANY = 1000000000000000000000000000000
@@ -138,20 +138,30 @@ class Pieces:
             return self.call(item[2], grids[item[1]])
         return self.line(line_of_item(item))
 
+    def _block(self, way, grids):
+        """What the rule makes of the grids for a block with this WAY."""
+        found = self.way(way, grids)
+        return self.grids.flat(found) if self.by_turns else found
+
     def made(self, blocks, grids):
         """What the rule makes of the grids, one for each block."""
-        found = [self.way(way, grids) for way in blocks]
-        return [self.grids.flat(own) for own in found] if self.by_turns else found
+        return [self._block(way, grids) for way in blocks]
 
     def gone_over(self, blocks, many):
         """Grids of nothing, gone over many times, or until nothing is new, if many is None.
 
-        Returned is the pair of them and of how many times it took.
+        Returned is the pair of them and of how many times it took. What is made of the same
+        grids of the blocks called is the same again.
         """
-        grids, times = [self.grids.empty() for _ in blocks], 0
+        callees = [as_set(calls_in(way)) for way in blocks]
+        grids, times, new = [self.grids.empty() for _ in blocks], 0, None
         while many is None or times < many:
-            more = self.made(blocks, grids)
-            if more == grids:
+            more = list(grids)
+            for number, way in enumerate(blocks):
+                if new is None or any([new[callee] for callee in callees[number]]):
+                    more[number] = self._block(way, grids)
+            new = [one != other for one, other in zip(grids, more)]
+            if not any(new):
                 break
             grids, times = more, times + 1
         return grids, times

@@ -2,9 +2,10 @@
 
 A place is a triple (block, kept, state): a call of the block with these kept registers, behind
 whose put backs the state is asked; of states that mixing makes of one another only the least
-one has places. Points of a place are the nodes of the block's graph, or, if registers are
-kept, one point alone. All is found in the order of what it costs from the very end on, so that
-nothing is looked for that costs more than what is wanted.
+one has places. Points of a place are the nodes of the block's graph; if registers are kept,
+"behind" and "ahead" of the call, and between them those ahead of the last put back. All is
+found in the order of what it costs from the very end on, so that nothing is looked for that
+costs more than what is wanted.
 """
 
 from anydlooks.digits import Digits

@@ -67,8 +67,7 @@ class Bests:
         mode = "turns" if self.by_turns else "run" if self.kind[3] else "cheap"
         most = self.most if self.kind[3] else keys[0] // (MANY * MANY)
         limits = (rest // MANY, rest % MANY)
-        search = Search(self.program, self.pieces.moves, mode, most, limits, self)
-        front = search.through(self.program[2][number], behind)
+        front = Search(self.program, number, self.pieces.moves, mode, most, limits, self).through(behind)
         found = [own for (asking, _), own in front.items() if asking in wanted]
         return min(found, key=lambda own: own[0])
 

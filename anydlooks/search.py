@@ -11,7 +11,7 @@ what marks cost, and 0 in cost, so that fewest LINES count, for each price at mo
 is like it, but spent is what the marks of one turn cost, and is at most most in each turn.
 """
 
-from anydlooks.ways import calls_in, led_to, line_of_item
+from anydlooks.ways import calls_in, fewest_in, fewest_lines_of, fewest_of, inner_ways, led_to, line_of_item
 
 _START = ((0, 0, 0, ()), ())
 
@@ -58,17 +58,48 @@ def telling_of(best):
     return run, tuple(terms)
 
 
+def _calls_around(way, fewest):
+    """The pairs (block, lines) of the calls in a way: how few lines of its runs are not in the block called."""
+    found, lines = [], fewest_in(way, fewest)
+    for item in way:
+        rest = lines - fewest_of(item, fewest)
+        if item[0] == "call":
+            found.append((item[1], rest + len(item[2])))
+        for _, inner in inner_ways((), item):
+            found.extend([(block, rest + more) for block, more in _calls_around(inner, fewest)])
+    return found
+
+
+def _lines_outside(blocks, start, fewest):
+    """For each block how few LINES of a run of block start that comes to it are not in it; None if none does."""
+    found = [None] * len(blocks)
+    found[start] = 0
+    for _ in blocks:
+        for number, way in enumerate(blocks):
+            if found[number] is not None:
+                for block, lines in _calls_around(way, fewest):
+                    more = found[number] + lines
+                    found[block] = more if found[block] is None else min(more, found[block])
+    return found
+
+
 class Search:
     """The fronts of pieces of a program, to a greatest price, and to limits of LINES and numbers.
 
-    Only what is best by bests, a Bests [prices.py], is kept of blocks.
+    Only what is best by bests, a Bests [prices.py], is kept of blocks; and only what can be part
+    of a run of block start within the limits.
     """
 
-    def __init__(self, program, moves, mode, most, limits, bests):
+    def __init__(self, program, start, moves, mode, most, limits, bests):
         self.blocks = program[2]
+        self.start = start
         self.moves = moves
         self.most = most
         self.limits = limits
+        self.fewest = fewest_lines_of(self.blocks)
+        self.outside = _lines_outside(self.blocks, start, self.fewest)
+        # How many LINES there may be from where the search is to the end of the block.
+        self.room = limits[0]
         self.bests = bests
         self.by_turns = mode == "turns"
         self.layered = mode in ("run", "turns")
@@ -80,10 +111,11 @@ class Search:
         self.dirty = {}
         self.current = None
 
-    def through(self, way, behind):
-        """The front ahead of a way, if this state is asked behind it."""
+    def through(self, behind):
+        """The front ahead of block start, if this state is asked behind it."""
         while True:
-            found = self._way(way, {(behind, 0): _START})
+            self.room = self.limits[0]
+            found = self._way(self.blocks[self.start], {(behind, 0): _START})
             if not self.dirty:
                 return self._done(found)
             self._settle()
@@ -94,6 +126,7 @@ class Search:
             key = min(list(self.dirty), key=lambda own: self.ranks[own[0]])
             self.dirty.pop(key)
             self.current = key
+            self.room = self.limits[0] - self.outside[key[0]]
             found = self._done(self._way(self.blocks[key[0]], {(key[1], 0): _START}))
             found = self.bests.only_best(key, found)
             if _keys(found) != _keys(self.tables[key]):
@@ -119,8 +152,12 @@ class Search:
         return self.tables[key]
 
     def _way(self, way, front):
+        room, lines = self.room, fewest_in(way, self.fewest)
         for item in reversed(way):
+            lines -= fewest_of(item, self.fewest)
+            self.room = room - lines
             front = self._item(item, front)
+        self.room = room
         return front
 
     def _item(self, item, front):
@@ -144,7 +181,7 @@ class Search:
     def _keep(self, found, state, spent, key, marks):
         """Keeps a best one, unless it is too great."""
         cost, lines, count, _ = key
-        if cost + spent <= self.most and lines <= self.limits[0] and count <= self.limits[1]:
+        if cost + spent <= self.most and lines <= self.room and count <= self.limits[1]:
             _put(found, (state, spent), (key, marks))
 
     def _look(self, found, place, best, price, seen):
@@ -207,9 +244,10 @@ class Search:
             held = self._back(slot, held)
         found = {}
         for ((state, added), spent), best in held.items():
-            for (ahead, more), own in self._asked(item[1], state).items():
-                place = (self.moves.with_put_backs(ahead, added), spent + more)
-                self._join(found, place, own, best)
+            if best[0][1] + self.fewest[item[1]] <= self.room:
+                for (ahead, more), own in self._asked(item[1], state).items():
+                    place = (self.moves.with_put_backs(ahead, added), spent + more)
+                    self._join(found, place, own, best)
         return found
 
     def _back(self, slot, held):
@@ -224,7 +262,7 @@ class Search:
         """Puts what a block makes ahead of the best one."""
         (one_cost, one_lines, one_count, one_run), one_marks = own
         (cost, lines, count, run), marks = best
-        if one_lines + lines > self.limits[0] or one_count + count > self.limits[1]:
+        if one_lines + lines > self.room or one_count + count > self.limits[1]:
             return
         key = (one_cost + cost, one_lines + lines, one_count + count, one_run + run)
         if place not in found or key < found[place][0]:

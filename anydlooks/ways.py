@@ -19,10 +19,13 @@ def nested_items(prefix, way):
 
 
 def inner_ways(path, item):
-    """The pairs (prefix, way) of the ways that stand in the item at path."""
+    """The pairs (prefix, way) of the ways that stand in the item at path.
+
+    ("times", way, number), a "many" gone round just so many times, is the package's own.
+    """
     if item[0] == "one":
         return [((*path, number), way) for number, way in enumerate(item[1])]
-    if item[0] == "many":
+    if item[0] in ("many", "times"):
         return [(path, item[1])]
     return []
 
@@ -107,6 +110,9 @@ def fewest_of(item, table):
     if item[0] == "call":
         inner = table[item[1]]
         return None if inner is None else inner + len(item[2])
+    if item[0] == "times":
+        lines = fewest_in(item[1], table)
+        return None if lines is None else lines * item[2]
     return 1
 
 

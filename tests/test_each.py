@@ -70,7 +70,7 @@ class Heights(unittest.TestCase):
     def test_rounds(self):
         """Rounds and rings: RUNS up to bounds tell at no less; the TELLING given tells at it."""
         rng, low = rng_of(3), 0
-        for _ in range(150):
+        for _ in range(90):
             program = clean_program(rng, size=2)
             least = least_height(program)
             runs = [run for run in some_runs(program, 5, 5, 12) if count_terms(program, TurnPlay(program, run).lines) <= 100]
@@ -82,7 +82,7 @@ class Heights(unittest.TestCase):
             self.assertIs(least is None, price is None)
             self.assertTrue(least is None or least <= price)
             low += least is not None and least < price
-        self.assertGreater(low, 2)
+        self.assertGreater(low, 1)
 
     def check(self, program, least):
         self.assertEqual(least_height(program), least, program)

@@ -5,11 +5,12 @@ import unittest
 
 from anydlooks.closed import withstands
 from anydlooks.errors import NoItem, NoRegister, TooMany, Unfit
+from anydlooks.forms import is_telling
 from anydlooks.programs import is_program, is_way, items_of
 from anydlooks.renewals import (
     fewest_renewals, harming, helping, how_free, keeps_sum, put_in, renewal, renewed, renews, spots,
 )
-from reckon import clean_program, random_machine, random_way, rng_of, rows_of
+from reckon import Play, all_terms, clean_program, count_terms, random_machine, random_way, rng_of, rows_of
 from samples import bus, deep, four, mask, over, plain, small, still, turned
 
 
@@ -297,6 +298,30 @@ class Helping(unittest.TestCase):
             fewest_renewals(of(40), (0, 1), 3, 0, 2)
         with self.assertRaises(Unfit):
             fewest_renewals(of(40), (0, 1), 1, 0, 2)
+
+    def test_guarantee(self):
+        """A TELLING behind putting in renewals without marks of theirs is one of the PROGRAM."""
+        rng, kept, lost = rng_of(7), 0, 0
+        for _ in range(60):
+            machine = (2, (None,) * 4, rng.choice((plain, (("put", 1), ("turn", 1)))))
+            way = random_way(rng, (2, (None,) * 3, plain), [], 4, 0, ("set", "set", "set", "draw"))
+            program = (machine, ((0, 1),), (way,))
+            paths = tuple((0, place) for place in range(len(way) + 1) if rng.random() < 0.4)
+            own = renewed(program, paths, (0, 1), 3)
+            moved = [number + 4 * sum(path[1] <= number for path in paths) for number in range(len(way))]
+            lines = Play(program, ()).lines
+            if count_terms(program, lines) > 600:
+                continue
+            for terms in all_terms(program, lines):
+                behind = tuple(((moved[mark[0]], *mark[1:]), residue) for mark, residue in terms)
+                before = is_telling(program, ((), terms))
+                if is_telling(own, ((), behind)):
+                    self.assertTrue(before, (program, paths, terms))
+                    kept += 1
+                else:
+                    lost += before
+        self.assertGreater(kept, 20)
+        self.assertGreater(lost, 20)
 
     def test_examples_of_others(self):
         self.assertEqual(helping(bus, (0, 1), 2, 0), ())

@@ -191,7 +191,7 @@ class Together(unittest.TestCase):
     def test_endless(self):
         """Any programs: bundles are such, at this price; a greater most changes nothing."""
         told = 0
-        for program in self.endless(6, 45):
+        for program in self.endless(6, 26):
             prices = [together(program, BOTH, most) for most in range(7)]
             least = prices[6]
             self.assertEqual(prices, [None if least is None or least > most else least for most in range(7)])
@@ -201,7 +201,7 @@ class Together(unittest.TestCase):
                 self.assertEqual(together(program, (form,), 6), lone if lone is not None and lone <= 6 else None)
             self.bundle_is_one(program, least)
             told += least is not None
-        self.assertGreater(told, 5)
+        self.assertGreater(told, 2)
 
     def endless(self, seed, many):
         """Two secrets, and rounds and rings around some items."""

@@ -182,7 +182,7 @@ class Prices(unittest.TestCase):
         self.assertGreater(found, 10)
 
     def test_told(self):
-        for rng, program, path in [*cases(11, 30), *turning(12, 40)]:
+        for rng, program, path in [*cases(11, 15), *turning(12, 24)]:
             prices = times_prices(program, path, 60)
             for most in (0, 1, 2, 4, 6):
                 start, period, numbers = told_times(program, path, most)
@@ -197,7 +197,7 @@ class Prices(unittest.TestCase):
 class Forms(unittest.TestCase):
 
     def test_is_times_form(self):
-        for rng, program, path in [*cases(13, 12), *turning(14, 12)]:
+        for rng, program, path in [*cases(13, 7), *turning(14, 8)]:
             prices, slopes = form = times_form(program, path)
             self.assertIs(is_times_form(program, path, form), True)
             wanted = times_prices(program, path, 60)
@@ -255,7 +255,7 @@ class Forms(unittest.TestCase):
 class Papers(unittest.TestCase):
 
     def test_papers(self):
-        for rng, program, path in [*cases(15, 20, 16), *turning(16, 20)]:
+        for rng, program, path in [*cases(15, 10, 16), *turning(16, 12)]:
             rows, slopes = paper = times_paper(program, path)
             self.assertIs(is_times_paper(program, path, paper), True)
             longer = rows + tuple(self.next(rows, slopes, k) for k in range(len(slopes)))
@@ -326,7 +326,7 @@ class Tellings(unittest.TestCase):
 
     def test_tellings(self):
         told = none = 0
-        for rng, program, path in [*cases(17, 60), *turning(18, 25)]:
+        for rng, program, path in [*cases(17, 40), *turning(18, 16)]:
             prices = times_prices(program, path, 8)
             for many in (0, 1, 2, 5, 8):
                 found = telling_times(program, path, many)
@@ -342,8 +342,8 @@ class Tellings(unittest.TestCase):
                 self.assertIs(is_telling_times(program, path, many, found), True)
                 for other in range(9):
                     self.assertIs(is_telling_times(program, path, other, found), other == many)
-        self.assertGreater(told, 100)
-        self.assertGreater(none, 30)
+        self.assertGreater(told, 60)
+        self.assertGreater(none, 20)
 
     def test_dearer_ones(self):
         """A TELLING that is dearer than the price is none."""
