@@ -1,13 +1,13 @@
 """Least tables of blocks: at which least prices ASKINGS go through all RUNS of them."""
 
-from anydlooks.blocks import BY_PRICE
 from anydlooks.closures import (
     are_closed_tables, grids_of, is_shield_of, shield_of, table_pieces, tables_of, told_entries,
 )
 from anydlooks.errors import NoBlock
+from anydlooks.joint import Joint
 from anydlooks.moves import full_view
 from anydlooks.plain import frozen, is_below
-from anydlooks.prices import Bests, told_prices
+from anydlooks.prices import nothing_told
 
 
 def made_of(program, tables, most):
@@ -47,8 +47,9 @@ def block_price(program, number, ahead, behind, most):
     program, ahead = frozen(program), frozen(ahead)
     if not is_below(number, len(program[2])):
         raise NoBlock(number)
-    bests = Bests(program, full_view(program[0]), most, BY_PRICE, False)
-    prices = [key for key, _, asking in bests.row(number, frozen(behind)) if asking == ahead]
+    joint = Joint(program, full_view(program[0]), 1, most)
+    state = joint.digits.number(ahead)
+    prices = [price for price, mask in joint.all_ahead(number, joint.digits.number(behind)) if mask >> state & 1]
     return prices[0] if prices else None
 
 
@@ -59,7 +60,7 @@ def bad_entries(program, table):
 
 def withstands(program, most):
     """Whether for all RUNS no LOOKS of a price of at most most tell."""
-    return not told_prices(frozen(program), most)
+    return nothing_told(frozen(program), most)
 
 
 def shield(program, most):

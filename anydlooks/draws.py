@@ -2,13 +2,9 @@
 
 from anydlooks.errors import NoItem, NoRegister, TooMany
 from anydlooks.plain import all_rows, frozen, is_below, is_tuple_of, power
-from anydlooks.prices import told_prices
+from anydlooks.prices import nothing_told
 from anydlooks.programs import is_program
 from anydlooks.ways import all_items, found_item, program_with
-
-
-def _withstands(program, most):
-    return not told_prices(program, most)
 
 
 def _draws(program):
@@ -59,7 +55,7 @@ def taken_from(program, path, slot):
 def can_go(program, most):
     """The set of the PATHS of the draws each of which can be left out alone."""
     program = frozen(program)
-    return tuple([path for path in _draws(program) if _withstands(_without(program, (path,)), most)])
+    return tuple([path for path in _draws(program) if nothing_told(_without(program, (path,)), most)])
 
 
 def _spared(program, most):
@@ -72,7 +68,7 @@ def _spared(program, most):
         own = tuple([path for path, chosen in zip(paths, choice) if chosen])
         if any([_lies_in(other, own) for other in bad]):
             continue
-        if _withstands(_without(program, own), most):
+        if nothing_told(_without(program, own), most):
             found.append(own)
         else:
             bad.append(own)
@@ -100,14 +96,14 @@ def sources_for(program, path, most):
     program, path = frozen(program), frozen(path)
     _check_draws(program, (path,))
     slots = range(len(program[0][1]))
-    return tuple([slot for slot in slots if _withstands(_from(program, path, slot), most)])
+    return tuple([slot for slot in slots if nothing_told(_from(program, path, slot), most)])
 
 
 def _choices(program, path, most):
     """For one draw the programs with it left out, or taken from a register, that tell nothing."""
     found = [_without(program, (path,))]
     found.extend([_from(program, path, slot) for slot in range(len(program[0][1]))])
-    return [own for own in found if _withstands(own, most)]
+    return [own for own in found if nothing_told(own, most)]
 
 
 def with_fewest(program, most):
@@ -116,7 +112,7 @@ def with_fewest(program, most):
     paths = _draws(program)
     if power(len(program[0][1]) + 2, len(paths)) > 300:
         raise TooMany()
-    if not _withstands(program, most):
+    if not nothing_told(program, most):
         return None
     best, live = program, [program]
     for path in paths:

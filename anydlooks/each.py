@@ -6,7 +6,7 @@ from anydlooks.courses import whole_course
 from anydlooks.errors import Unfit
 from anydlooks.moves import full_view
 from anydlooks.plain import frozen
-from anydlooks.prices import Bests, told_prices
+from anydlooks.prices import Bests, least_told_price
 from anydlooks.search import telling_of
 from anydlooks.tracks import Track, told_form
 from anydlooks.turning import Turns
@@ -40,7 +40,7 @@ def _withstands(program, most):
 def least_height(program):
     """The least height of LOOKS that tell in some RUN; None if none do in any."""
     program = frozen(program)
-    high = min(list(told_prices(program, None).values()), default=None)
+    high = least_told_price(program, full_view(program[0]), None)
     if high is None:
         return None
     # What all turns cost together is enough for each; mostly far less is, so that is tried first.

@@ -81,7 +81,10 @@ class Result:
 
 
 class Joint:
-    """The search of a program for states of some tracks, with marks that a view lets."""
+    """The search of a program for states of some tracks, with marks that a view lets.
+
+    What costs more than most is left out; nothing is, if most is None.
+    """
 
     def __init__(self, program, view, tracks, most):
         self.graph = Graph(program[2])
@@ -105,13 +108,21 @@ class Joint:
         It is one of the least cost; None if there is none.
         """
         start = self._place(0, (), 0, 0)
-        for cost in range(self.most + 1):
-            while self.pending.get(cost):
-                self._round(cost)
-                mask = start.known.get(start.end(self.graph), 0) & wanted
-                if mask:
-                    return cost, bits_of(mask)[0]
+        while self.pending:
+            cost = min(list(self.pending))
+            self._round(cost)
+            mask = start.known.get(start.end(self.graph), 0) & wanted
+            if mask:
+                return cost, bits_of(mask)[0]
         return None
+
+    def all_ahead(self, block, behind):
+        """The list of the pairs (cost, mask) of all that is asked ahead of a block, cheapest first."""
+        least, mix = self.digits.least_mixed(behind)
+        place = self._place(block, (), least, 0)
+        while self.pending:
+            self._round(min(list(self.pending)))
+        return [(result.cost, result.by(self.digits, mix)) for result in place.results]
 
     def _place(self, block, kept, state, cost):
         """The Place of a call, asked for now."""
@@ -123,13 +134,12 @@ class Joint:
 
     def _add(self, cost, key, point, mask):
         """Keeps for later what is found at a point of a place at this cost."""
-        if cost <= self.most:
+        if self.most is None or cost <= self.most:
             add_to(self.pending.setdefault(cost, {}), (key, point), mask)
 
     def _round(self, cost):
         """Goes over all that was found at this cost so far."""
-        current = self.pending[cost]
-        self.pending[cost] = {}
+        current = self.pending.pop(cost)
         for (key, point), mask in current.items():
             place = self.places[key]
             new = mask & ~place.known.get(point, 0)
@@ -195,6 +205,5 @@ class Joint:
 
     def _tell(self, use, result):
         (user, point, held), mix, cost = use
-        if cost + result.cost <= self.most:
-            mask = result.by(self.digits, mix)
-            self._add(cost + result.cost, user.key, point, mask if held is None else self.digits.moved(mask, held))
+        mask = result.by(self.digits, mix)
+        self._add(cost + result.cost, user.key, point, mask if held is None else self.digits.moved(mask, held))

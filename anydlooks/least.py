@@ -6,13 +6,14 @@ from anydlooks.closures import are_closed_relations, has_telling, is_quiet, leas
 from anydlooks.errors import CanNot, NoBlock
 from anydlooks.moves import full_view
 from anydlooks.plain import frozen, is_below
-from anydlooks.prices import Bests, told_prices
+from anydlooks.prices import Bests, least_told_price
 from anydlooks.rule import bad_form, quiet_asking
 
 
 def least_price(program):
     """The least price of a TELLING, for all RUNS; None if there is none."""
-    return min(list(told_prices(frozen(program), None).values()), default=None)
+    program = frozen(program)
+    return least_told_price(program, full_view(program[0]), None)
 
 
 def never_told(program):

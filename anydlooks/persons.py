@@ -1,6 +1,6 @@
 """What persons learn who see what is written to some registers and goes over some buses."""
 
-from anydlooks.blocks import BY_ALL, BY_PRICE
+from anydlooks.blocks import BY_ALL
 from anydlooks.cheapest import check_size
 from anydlooks.closures import is_quiet, least_relations_of
 from anydlooks.courses import whole_course, written_out
@@ -8,7 +8,7 @@ from anydlooks.errors import NoPerson, TooMany
 from anydlooks.marks import marks_of_line
 from anydlooks.moves import full_view
 from anydlooks.plain import all_rows, as_set, ascends, frozen, is_below, is_tuple_of
-from anydlooks.prices import Bests
+from anydlooks.prices import Bests, least_told_price, told_prices
 from anydlooks.search import telling_of
 from anydlooks.sights import bus_count
 from anydlooks.tracks import told_form, track_of
@@ -68,13 +68,9 @@ def seen_marks(program, persons, group, run):
     return tuple(sorted(found))
 
 
-def _bests(program, pairs, kind):
-    return Bests(program, _view(program[0], pairs), 0, kind, False)
-
-
 def _learnt(program, pairs):
     """The set of the FORMS that are learnt from what these pairs see."""
-    return tuple(list(_bests(program, pairs, BY_PRICE).told()))
+    return tuple(list(told_prices(program, _view(program[0], pairs), 0)))
 
 
 def learns(program, persons, group):
@@ -89,7 +85,8 @@ def learnt_forms(program, persons, group):
 
 def group_telling(program, persons, group):
     """A TELLING, all of whose marks the group sees, of the least RUN that has one; None without."""
-    best = _bests(frozen(program), _pairs(persons, group), BY_ALL).best_told(None)
+    pairs, program = _pairs(persons, group), frozen(program)
+    best = Bests(program, _view(program[0], pairs), 0, BY_ALL, False).best_told(None)
     return None if best is None else telling_of(best)
 
 
@@ -159,8 +156,7 @@ def groups_for(program, persons, form):
 def rest_price(program, persons, group, most):
     """The least rest price of a TELLING; None if there is none to most."""
     pairs, program = _pairs(persons, group), frozen(program)
-    told = Bests(program, _rest_view(program[0], pairs), most, BY_PRICE, False).told()
-    return min(list(told.values()), default=None)
+    return least_told_price(program, _rest_view(program[0], pairs), most)
 
 
 def rest_telling(program, persons, group, most):

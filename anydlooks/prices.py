@@ -1,7 +1,8 @@
 """What is best over all RUNS of a block, behind which something is asked."""
 
-from anydlooks.blocks import BY_PRICE, MANY, Pieces
+from anydlooks.blocks import MANY, Pieces
 from anydlooks.grids import bits_of
+from anydlooks.joint import Joint
 from anydlooks.moves import full_view
 from anydlooks.rule import bad_form, quiet_asking
 from anydlooks.search import Search
@@ -81,6 +82,38 @@ class Bests:
         return self.best(0, quiet, wanted)
 
 
-def told_prices(program, most):
-    """A dict that tells by FORM the least price of a TELLING of it."""
-    return Bests(program, full_view(program[0]), most, BY_PRICE, False).told()
+def _bad_states(program, digits):
+    """The list of the pairs (state, FORM) of the bad ASKINGS."""
+    found = [(state, bad_form(program[1], digits.digits(state))) for state in range(digits.size)]
+    return [own for own in found if own[1] is not None]
+
+
+def told_prices(program, view, most):
+    """A dict that tells by FORM the least price of a TELLING of it; of price most at most, if it is not None."""
+    joint, found = Joint(program, view, 1, most), {}
+    bad = _bad_states(program, joint.digits)
+    for price, mask in joint.all_ahead(0, 0):
+        for state, form in bad:
+            if mask >> state & 1:
+                found[form] = min(price, found.get(form, price))
+    return {form: found[form] for form in sorted(found)}
+
+
+def cheapest_found(program, view, most, form):
+    """A Joint, and the pair (price, state) by which it tells this FORM, or any if it is None, first; None without."""
+    joint, wanted = Joint(program, view, 1, most), 0
+    for state, own in _bad_states(program, joint.digits):
+        if form in (None, own):
+            wanted |= 1 << state
+    return joint, joint.first(wanted)
+
+
+def least_told_price(program, view, most):
+    """The least price of a TELLING; None if there is none, of price most at most, if it is not None."""
+    first = cheapest_found(program, view, most, None)[1]
+    return None if first is None else first[0]
+
+
+def nothing_told(program, most):
+    """Whether for all RUNS no LOOKS of a price of at most most tell."""
+    return least_told_price(program, full_view(program[0]), most) is None

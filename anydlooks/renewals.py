@@ -2,7 +2,7 @@
 
 from anydlooks.errors import NoItem, NoRegister, TooMany, Unfit
 from anydlooks.plain import frozen, is_below, is_counts
-from anydlooks.prices import told_prices
+from anydlooks.prices import nothing_told
 from anydlooks.programs import is_program, is_way
 from anydlooks.residues import rank, row_by
 from anydlooks.ways import inner_ways, program_with
@@ -149,16 +149,12 @@ def _checked(program, registers, slot):
     return program, renewal(program[0], registers, slot)
 
 
-def _withstands(program, most):
-    return not told_prices(program, most)
-
-
 def _spots_where(program, way, most, wanted):
     """The set of the spots at which the way makes it so that the program withstands, or does not, as is wanted."""
-    if _withstands(program, most) == wanted:
+    if nothing_told(program, most) == wanted:
         return ()
     return tuple([path for path in _all_spots(program)
-                  if _withstands(_with_all(program, (path,), way), most) == wanted])
+                  if nothing_told(_with_all(program, (path,), way), most) == wanted])
 
 
 def helping(program, registers, slot, most):
@@ -183,6 +179,6 @@ def fewest_renewals(program, registers, slot, most, many):
         if len(found) > 200:
             raise TooMany()
     for own in found:
-        if _withstands(_with_all(program, own, way), most):
+        if nothing_told(_with_all(program, own, way), most):
             return own
     return None

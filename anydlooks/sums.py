@@ -1,40 +1,46 @@
 """Which sums of the secrets are told at which price, for all RUNS, alone and together."""
 
-from anydlooks.blocks import BY_ALL
 from anydlooks.closures import is_shield_of, shield_of
 from anydlooks.errors import TooMany
 from anydlooks.joint import Joint
 from anydlooks.marks import price_of_looks
 from anydlooks.moves import full_view
 from anydlooks.plain import as_set, frozen
-from anydlooks.prices import Bests, told_prices
+from anydlooks.prices import cheapest_found, told_prices
 from anydlooks.residues import basis
 from anydlooks.rule import bad_form
-from anydlooks.search import telling_of
 from anydlooks.traces import traced
 from anydlooks.tracks import told_form, told_together
 
 
+def _prices(program, most):
+    program = frozen(program)
+    return told_prices(program, full_view(program[0]), most)
+
+
 def form_price(program, form):
     """The price of the FORM; None if there is no TELLING of it."""
-    return told_prices(frozen(program), None).get(frozen(form))
+    return _prices(program, None).get(frozen(form))
 
 
 def priced_forms(program):
     """The ascending list of the pairs (FORM, price)."""
-    return list(told_prices(frozen(program), None).items())
+    return list(_prices(program, None).items())
 
 
 def forms_to(program, most):
     """The set of the FORMS of price most at most."""
-    return tuple(list(told_prices(frozen(program), most)))
+    return tuple(list(_prices(program, most)))
 
 
 def form_telling(program, form, most):
     """A TELLING of the FORM, of price most at most; None if there is none."""
     program = frozen(program)
-    best = Bests(program, full_view(program[0]), most, BY_ALL, False).best_told(frozen(form))
-    return None if best is None else telling_of(best)
+    joint, first = cheapest_found(program, full_view(program[0]), most, frozen(form))
+    if first is None:
+        return None
+    run, marks = traced(joint, first[1])
+    return run, tuple([(mark, residues[0]) for mark, residues in marks])
 
 
 def is_form_telling(program, form, most, thing):
@@ -75,7 +81,10 @@ def together(program, forms, most):
 def bundle(program, forms, most):
     """A BUNDLE of the forms of the least price; None if it is above most, or there is none."""
     joint, first = _joint(frozen(program), frozen(forms), most)
-    return None if first is None else traced(joint, first[1])
+    if first is None:
+        return None
+    run, marks = traced(joint, first[1])
+    return run, tuple([mark for mark, _ in marks])
 
 
 def is_bundle(program, forms, most, thing):
@@ -89,7 +98,7 @@ def learnt(program, most):
     prime, sharings = program[0][0], len(program[1])
     if sharings > 2:
         raise TooMany()
-    forms = list(told_prices(program, most))
+    forms = list(_prices(program, most))
     whole = basis(prime, forms)
     if len(whole) == 2 and together(program, whole, most) is not None:
         return [whole]

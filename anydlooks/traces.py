@@ -1,10 +1,13 @@
-"""A run, and looks at it, by which a Joint found a state."""
+"""A run, and marks of it, by which a Joint found a state."""
 
 from anydlooks.grids import bits_of
 
 
 def traced(joint, state):
-    """The pair (run, looks) by which the state is asked at the very beginning."""
+    """The pair (run, marks) by which the state is asked at the very beginning.
+
+    marks are pairs (mark, residues), residues being what the tracks have for the mark.
+    """
     place = joint.places[(0, (), 0)]
     todo, told = [("state", place, place.end(joint.graph), state)], Told()
     behind = joint.graph.behind()
@@ -15,15 +18,15 @@ def traced(joint, state):
             todo.extend(list(reversed(_tasks(joint, behind, task))))
         else:
             told.take(task[0], task[1])
-    return tuple(told.run), tuple(told.looks)
+    return tuple(told.run), told.marks
 
 
 class Told:
-    """The numbers of a run and the looks at it, step by step."""
+    """The numbers of a run and the marks of it, step by step."""
 
     def __init__(self):
         self.run = []
-        self.looks = []
+        self.marks = []
         self.lines = 0
         # The places in run of the "many" that are being gone round.
         self.rounds = []
@@ -31,7 +34,7 @@ class Told:
     def take(self, word, what):
         """One more step."""
         if word == "line":
-            self.looks.extend([(self.lines, *rest) for rest, _ in what])
+            self.marks.extend([((self.lines, *rest), residues) for rest, residues in what])
             self.lines += 1
         elif word == "pick":
             self.run.append(what)
