@@ -2,7 +2,7 @@
 
 from anydlooks.grids import bits_of
 from anydlooks.plain import all_rows, power
-from anydlooks.residues import rank
+from anydlooks.residues import product, rank
 
 
 class Digits:
@@ -16,6 +16,7 @@ class Digits:
         self.worths = [power(prime, length * tracks - 1 - place) for place in range(length * tracks)]
         # For each place and digit the mask of the numbers that have at most this digit there.
         self.low = [self._low_masks(worth) for worth in self.worths]
+        self.factors = []
         self.mixed = None
         self.known = {}
 
@@ -64,8 +65,8 @@ class Digits:
             choices = [()]
             for _ in range(self.tracks):
                 choices = [(*own, row) for own in choices for row in all_rows(self.prime, self.tracks)]
-            whole = [own for own in choices if rank(self.prime, own) == self.tracks]
-            self.mixed = [[self._mix(number, own) for number in range(self.size)] for own in whole]
+            self.factors = [own for own in choices if rank(self.prime, own) == self.tracks]
+            self.mixed = [[self._mix(number, own) for number in range(self.size)] for own in self.factors]
         return self.mixed
 
     def least_mixed(self, number):
@@ -75,6 +76,10 @@ class Digits:
             least = min([way[number] for way in ways])
             self.known[number] = (least, [place for place, way in enumerate(ways) if way[least] == number][0])
         return self.known[number]
+
+    def mixed_residues(self, residues, place):
+        """What becomes by this way to mix of what the tracks have for one mark."""
+        return tuple([product(self.prime, row, residues) for row in self.factors[place]])
 
     def mixed_mask(self, mask, place):
         """The mask of what becomes of the states by this way to mix."""

@@ -9,7 +9,7 @@ def traced(joint, state):
     marks are pairs (mark, residues), residues being what the tracks have for the mark.
     """
     place = joint.places[(0, (), 0)]
-    todo, told = [("state", place, place.end(joint.graph), state)], Told()
+    todo, told = [("state", place, place.end(joint.graph), state)], Told(joint.digits)
     behind = joint.graph.behind()
     # What is done first lies last, so told is told in the order of the program.
     while todo:
@@ -24,17 +24,20 @@ def traced(joint, state):
 class Told:
     """The numbers of a run and the marks of it, step by step."""
 
-    def __init__(self):
+    def __init__(self, digits):
+        self.digits = digits
         self.run = []
         self.marks = []
         self.lines = 0
         # The places in run of the "many" that are being gone round.
         self.rounds = []
+        # The ways to mix what the tracks have within the calls that have begun.
+        self.mixes = []
 
     def take(self, word, what):
         """One more step."""
         if word == "line":
-            self.marks.extend([((self.lines, *rest), residues) for rest, residues in what])
+            self.marks.extend([((self.lines, *rest), self._mixed(residues)) for rest, residues in what])
             self.lines += 1
         elif word == "pick":
             self.run.append(what)
@@ -43,8 +46,19 @@ class Told:
             self.run.append(0)
         elif word == "round":
             self.run[self.rounds[-1]] += 1
-        else:
+        elif word == "leave":
             self.rounds.pop()
+        elif word == "mix":
+            self.mixes.append(what)
+        else:
+            self.mixes.pop()
+
+    def _mixed(self, residues):
+        """What the tracks have for a mark of the call that has begun last."""
+        result = residues
+        for mix in reversed(self.mixes):
+            result = self.digits.mixed_residues(result, mix)
+        return result
 
 
 def _when(place, point, state):
@@ -125,7 +139,7 @@ def _called_tasks(joint, called, state, when):
     end = place.end(joint.graph)
     for own, cost, inner in _ahead_of_time(place, end, when[0]):
         if cost == when[1] and joint.digits.mixed_mask(1 << inner, mix) >> state & 1:
-            return [("state", place, end, inner)]
+            return [("mix", mix), ("state", place, end, inner), ("unmix", None)]
     return []
 
 

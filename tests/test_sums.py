@@ -12,7 +12,7 @@ from anydlooks.sums import (
     bundle, form_price, form_shield, form_telling, forms_to, is_bundle, is_form_shield, is_form_telling, learnt,
     priced_forms, together,
 )
-from reckon import Play, count_terms, price, rng_of, rows_of, things_like, way_runs
+from reckon import Play, clean_program, count_terms, price, rng_of, rows_of, things_like, way_runs
 from samples import bus, deep, fork, plain, renew, thrice, tiny, turned, twin
 from test_closed import programs, told_by
 from whole import Naive, all_looks, finite_programs, forms_by_looks, tellings
@@ -98,6 +98,24 @@ class Forms(unittest.TestCase):
                     others = [more for more in all_forms(program) if more != form]
                     self.assertFalse(any(is_form_telling(program, more, most, found) for more in others))
         self.assertGreater(none, 50)
+
+    def test_tellings_of_calls(self):
+        """Calls that keep registers, p 2, 3 and 5: a TELLING of each FORM, not of a multiple."""
+        rng, told = rng_of(9), {}
+        for _ in range(250):
+            program = clean_program(rng, words=("set", "set", "draw", "call", "call", "one", "many"))
+            for form, least in priced_forms(program):
+                found = form_telling(program, form, least)
+                self.assertEqual(form_told(program, found), form, program)
+                self.assertEqual(price_of(program[0], [mark for mark, _ in found[1]]), least)
+                self.assertIs(is_form_telling(program, form, least, found), True)
+                self.assertIs(is_bundle(program, (form,), least, bundle(program, (form,), least)), True)
+                told[program[0][0]] = told.get(program[0][0], 0) + 1
+        self.assertTrue(min(told.get(prime, 0) for prime in (2, 3, 5)) > 5, told)
+        scaled = ((5, (None, None), (("put", 3),)), ((0, 1),), (
+            (("call", 1, (0,)), ("one", ((("call", 1, (0, 1)),), (("draw", 1),)))), (("set", 1, ((1, 2),)),)))
+        for form, least in priced_forms(scaled):
+            self.assertEqual(form_told(scaled, form_telling(scaled, form, 6)), form)
 
     def test_no_too_many(self):
         """Where least_terms would raise TooMany(): form_telling and bundle do not."""

@@ -12,7 +12,7 @@ from anydlooks.times import (
     is_telling_times, is_times_form, is_times_paper, price_times, telling_times, times_form, times_paper,
     times_prices, told_times, unrolled,
 )
-from reckon import clean_program, length_of, nest, rng_of, rows_of, things_like
+from reckon import clean_program, length_of, nest, random_way, rng_of, rows_of, things_like
 from samples import bus, deep, half, masked, plain, turned
 from whole import Naive, bad_form
 
@@ -48,6 +48,23 @@ def turning(seed, many):
         ahead = (("set", 3, ((2, 1),)),) if rng.random() < 0.3 else ()
         behind = (("set", 3, ((0, 1), (1, 1))),) if rng.random() < 0.8 else (("set", 3, ((0, 1),)), ("set", 2, ((1, 1),)))
         yield rng, ((2, (None,) * slots, sorts), ((0, 1),), ((*ahead, ("many", tuple(way)), *behind),)), (0, len(ahead))
+
+
+def mixed(seed, many):
+    """Rounds of any few items, for p 2, 3 and 5, with one dear sort or a cheap one."""
+    rng = rng_of(seed)
+    for _ in range(many):
+        prime = rng.choice((2, 2, 3, 3, 5))
+        slots = {2: rng.choice((4, 5)), 3: 3, 5: 2}[prime]
+        lying = [None] * slots
+        words = sorted(rng.sample(("put", "read", "turn"), rng.randint(1, 2))) if rng.random() < 0.6 else ["turn"]
+        if prime == 2 and slots == 4 and rng.random() < 0.4:
+            lying[rng.randrange(4)] = 0
+            words = sorted({"pass", *words})
+        machine = (prime, tuple(lying), tuple((word, rng.choice((1, 1, 2, 3, 9))) for word in words))
+        way = random_way(rng, machine, [], 4, 1, ("set", "set", "draw", "draw", "one"))
+        ahead, behind = [random_way(rng, machine, [], 2, 0, ("set", "set", "draw")) for _ in range(2)]
+        yield rng, (machine, ((0, 1),), ((*ahead, ("many", way), *behind),)), (0, len(ahead))
 
 
 def long_one(levels, last):
@@ -141,6 +158,21 @@ class Prices(unittest.TestCase):
         self.assertEqual(primes, {2, 3, 5})
         self.assertGreater(rising, 2)
         self.assertTrue({1, 2} <= periods, periods)
+
+    def test_mixed(self):
+        shapes = set()
+        for rng, program, path in mixed(19, 110):
+            own = Reckoned(program, path, 100)
+            wanted = [own.price(number) for number in range(61)]
+            self.assertEqual(times_prices(program, path, 60), wanted, (program, path))
+            form = times_form(program, path)
+            self.assertEqual([by_form(form, number) for number in range(61)], wanted)
+            rows, slopes = paper = times_paper(program, path)
+            self.assertEqual([own.row(number) for number in range(len(rows))], list(rows))
+            self.assertIs(is_times_paper(program, path, paper), True)
+            self.assertIs(is_times_form(program, path, form), True)
+            shapes.add((len(rows), len(slopes), any(any(row) for row in slopes)))
+        self.assertGreater(len(shapes), 7, shapes)
 
     def test_far_away(self):
         """Numbers up to 10 ** 18, by the form and by one another."""
