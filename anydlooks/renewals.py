@@ -5,7 +5,7 @@ from anydlooks.plain import frozen, is_below, is_counts
 from anydlooks.prices import nothing_told
 from anydlooks.programs import is_program, is_way
 from anydlooks.residues import rank, row_by
-from anydlooks.ways import inner_ways, program_with
+from anydlooks.ways import all_spots, program_with
 
 
 def _check_registers(machine, registers):
@@ -87,29 +87,13 @@ def how_free(machine, registers, way):
     return _free(machine, rows)
 
 
-def _all_spots(program):
-    """The list of all spots, ascending."""
-    found = []
-    for number, way in enumerate(program[2]):
-        found.extend(_spots_in((number,), way))
-    return sorted(found)
-
-
-def _spots_in(prefix, way):
-    found = [(*prefix, place) for place in range(len(way) + 1)]
-    for place, item in enumerate(way):
-        for inner, own in inner_ways((*prefix, place), item):
-            found.extend(_spots_in(inner, own))
-    return found
-
-
 def spots(program):
     """The set of all spots."""
-    return tuple(_all_spots(frozen(program)))
+    return tuple(all_spots(frozen(program)[2]))
 
 
 def _check_spot(program, path):
-    if not is_counts(path) or path not in _all_spots(program):
+    if not is_counts(path) or path not in all_spots(program[2]):
         raise NoItem(path)
 
 
@@ -153,7 +137,7 @@ def _spots_where(program, way, most, wanted):
     """The set of the spots at which the way makes it so that the program withstands, or does not, as is wanted."""
     if nothing_told(program, most) == wanted:
         return ()
-    return tuple([path for path in _all_spots(program)
+    return tuple([path for path in all_spots(program[2])
                   if nothing_told(_with_all(program, (path,), way), most) == wanted])
 
 
@@ -172,7 +156,7 @@ def harming(program, registers, slot, most):
 def fewest_renewals(program, registers, slot, most, many):
     """The least of the sets of at most many spots with renewals at which the PROGRAM withstands most."""
     program, way = _checked(program, registers, slot)
-    every, found, sets = _all_spots(program), [()], [()]
+    every, found, sets = all_spots(program[2]), [()], [()]
     for _ in range(many):
         sets = [(*own, path) for own in sets for path in every if not own or path > own[-1]]
         found.extend(sets)

@@ -30,7 +30,7 @@ class Track:
         self.quiet = {}
 
     def line_at(self, number):
-        """The LINE of this number; of a put back without where its call began."""
+        """The LINE of this number."""
         steps = self.course.steps
         low, high = 0, len(steps)
         while high - low > 1:
@@ -39,29 +39,31 @@ class Track:
                 low = middle
             else:
                 high = middle
-        word, _, item, _, lines = steps[low]
+        word, _, item, begun, lines = steps[low]
         if word == "end":
-            return "back", item[2][number - lines], 0
+            return "back", item[2][number - lines], begun
         if word == "round":
-            return self._line_in(item[1], (number - lines) % way_size(item[1], self.course.sizes))
-        return self._line_in((item,), number - lines)
+            rest = (number - lines) % way_size(item[1], self.course.sizes)
+            return self._line_in(item[1], number - rest, rest)
+        return self._line_in((item,), lines, number - lines)
 
-    def _line_in(self, way, number):
-        rest = number
+    def _line_in(self, way, first, number):
+        """The LINE of this number of a way ahead of which first LINES lie."""
+        at, rest = first, number
         for item in way:
             size = item_size(item, self.course.sizes)
             if rest < size:
-                return self._line_of(item, rest)
-            rest -= size
+                return self._line_of(item, at, rest)
+            at, rest = at + size, rest - size
         return None
 
-    def _line_of(self, item, number):
+    def _line_of(self, item, first, number):
         if item[0] != "call":
             return line_of_item(item)
         inner = self.course.sizes[item[1]]
         if number < inner:
-            return self._line_in(self.course.blocks[item[1]], number)
-        return "back", item[2][number - inner], 0
+            return self._line_in(self.course.blocks[item[1]], first, number)
+        return "back", item[2][number - inner], first
 
     def are_looks(self, looks):
         """Whether looks, a tuple, are LOOKS of the RUN."""

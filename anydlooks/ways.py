@@ -69,6 +69,35 @@ def program_with(program, path, items, taken):
     return program[0], program[1], tuple(blocks)
 
 
+def changed_way(way, change):
+    """The way with what change makes of each item, a tuple of items; of "one" and "many" their ways are changed."""
+    found = []
+    for item in way:
+        if item[0] == "one":
+            found.append(("one", tuple([changed_way(own, change) for own in item[1]])))
+        elif item[0] == "many":
+            found.append(("many", changed_way(item[1], change)))
+        else:
+            found.extend(change(item))
+    return tuple(found)
+
+
+def all_spots(blocks):
+    """The list, ascending, of the paths of all items, and of the ends of all ways."""
+    found = []
+    for number, way in enumerate(blocks):
+        found.extend(_spots_in((number,), way))
+    return sorted(found)
+
+
+def _spots_in(prefix, way):
+    found = [(*prefix, place) for place in range(len(way) + 1)]
+    for place, item in enumerate(way):
+        for inner, own in inner_ways((*prefix, place), item):
+            found.extend(_spots_in(inner, own))
+    return found
+
+
 def line_of_item(item):
     """The LINE that a set or a draw makes."""
     return item if item[0] == "set" else ("draw", item[1], ())

@@ -10,7 +10,7 @@ from anydlooks.each import reach
 from anydlooks.least import least_relations
 from anydlooks.times import times_paper
 from samples import (
-    bus, crowd, deep, four, half, mask, masked, over, renew, small, still, thrice, tiny, turned, twin,
+    bus, crowd, deep, four, half, late, hum, mask, masked, over, pair, renew, small, still, thrice, tiny, turned, twin,
 )
 from test_language import INTERFACE
 
@@ -167,9 +167,18 @@ CALLS.update({
         "helping": dict(program=over, registers=(0, 1), slot=3, most=1), "harming": dict(program=still, registers=(0, 1), slot=3, most=2),
         "fewest_renewals": dict(program=over, registers=(0, 1), slot=3, most=1, many=2),
     },
+    "places": {
+        "are_free": dict(program=late, path=(0, 1)), "swapped": dict(program=late, path=(0, 1)), "orders": dict(program=late, block=0),
+        "in_order": dict(program=late, block=0, order=(0, 2, 1)), "best_orders": dict(program=late, block=0, most=3),
+        "clash": dict(program=pair, slot=1, other=2), "is_clash": dict(program=pair, slot=1, other=2, thing=((), 0, 1)),
+        "merged": dict(program=pair, slot=2, other=3), "merged_prices": dict(program=pair, most=3),
+        "laid": dict(program=hum, slot=1, bus=1), "best_laid": dict(program=hum, many=2, most=3),
+    },
 })
 
-LISTS = ("priced_forms", "learnt", "times_prices", "learning_groups", "quiet_groups", "groups_for", "least_cuts", "items_of", "runs_to", "run_counts", "least_tellers", "draws_asked", "form_prices", "asked_ahead")
+# Pairs of something and of a list.
+WITH_LISTS = ("best_orders", "best_laid")
+LISTS = ("orders", "merged_prices", "priced_forms", "learnt", "times_prices", "learning_groups", "quiet_groups", "groups_for", "least_cuts", "items_of", "runs_to", "run_counts", "least_tellers", "draws_asked", "form_prices", "asked_ahead")
 
 RAISING = (
     ("closed", "shield", dict(program=deep, most=2)),
@@ -186,6 +195,8 @@ RAISING = (
     ("renewals", "renewal", dict(machine=four, registers=(0, 1), slot=1)),
     ("renewals", "put_in", dict(program=still, path=(0, 2), way=WAY)),
     ("renewals", "renewed", dict(program=still, paths=((0, 1), (7, 7)), registers=(0, 1), slot=3)),
+    ("places", "swapped", dict(program=late, path=(0, 0, 1))), ("places", "merged", dict(program=pair, slot=1, other=2)),
+    ("places", "laid", dict(program=hum, slot=1, bus=2)), ("places", "in_order", dict(program=pair, block=1, order=(0, 1))),
 )
 
 TRUTHS = ("tells", "plan_tells", "withstands", "never_told", "withstands_each", "learns", "comes_of", "keeps_sum", "renews")
@@ -238,6 +249,9 @@ class General(unittest.TestCase):
                 self.assertFalse(has_list(tuple(result)), word)
                 result.append("more")
                 self.assertNotEqual(function(**arguments), result, word)
+            elif word in WITH_LISTS:
+                self.assertIs(type(result[1]), list, word)
+                self.assertFalse(has_list((result[0], *result[1])), word)
             else:
                 self.assertFalse(has_list(result), word)
             if word.startswith(("is_", "are_")) or word in TRUTHS:

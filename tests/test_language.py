@@ -53,6 +53,7 @@ INTERFACE = {
                " learning_groups quiet_groups groups_for rest_price rest_telling least_cuts",
     "draws": "draws left_out taken_from can_go greatest_spared fewest_draws sources_for with_fewest comes_of",
     "renewals": "renewal keeps_sum renews how_free spots put_in renewed helping harming fewest_renewals",
+    "places": "are_free swapped orders in_order best_orders clash is_clash merged merged_prices laid best_laid",
 }
 
 
@@ -186,6 +187,8 @@ class Language(unittest.TestCase):
         for name, tree in trees:
             top = [node.name for node in tree.body if isinstance(node, (ast.FunctionDef, ast.ClassDef))]
             top += [more.name for node in tree.body if isinstance(node, ast.ImportFrom) for more in node.names]
+            # A function may be handed to another one, which calls it by its parameter's name.
+            given = [own.arg for own in ast.walk(tree) if isinstance(own, ast.arg)]
             calls = [node for node in ast.walk(tree) if isinstance(node, ast.Call)]
             inner = {id(own): node.func.id for node in calls if isinstance(node.func, ast.Name) for own in node.args}
             for node in calls:
@@ -193,7 +196,7 @@ class Language(unittest.TestCase):
                 if isinstance(node.func, ast.Attribute):
                     self.assertIn(node.func.attr, METHODS | set(methods), where)
                 else:
-                    self.assertIn(node.func.id, BUILTINS | set(top), where)
+                    self.assertIn(node.func.id, BUILTINS | set(top) | set(given), where)
                     if node.func.id == "set":
                         self.assertIn(inner.get(id(node)), ("sorted", "len"), where)
                     if node.func.id in ("zip", "enumerate", "reversed"):
