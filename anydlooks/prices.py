@@ -6,6 +6,7 @@ from anydlooks.joint import Joint
 from anydlooks.moves import full_view
 from anydlooks.rule import bad_form, quiet_asking
 from anydlooks.search import Search
+from anydlooks.wide import Wide, is_wide
 
 
 class Bests:
@@ -110,6 +111,8 @@ def cheapest_found(program, view, most, form):
 
 def least_told_price(program, view, most):
     """The least price of a TELLING; None if there is none, of price most at most, if it is not None."""
+    if is_wide(program):
+        return Wide(program, view, most).price()
     first = cheapest_found(program, view, most, None)[1]
     return None if first is None else first[0]
 

@@ -10,7 +10,7 @@ from anydlooks.each import reach
 from anydlooks.least import least_relations
 from anydlooks.times import times_paper
 from samples import (
-    bus, crowd, deep, four, half, late, hum, mask, masked, over, pair, renew, small, still, thrice, tiny, turned, twin,
+    bus, crowd, deep, four, half, host, hum, late, mask, masked, meet, over, pair, renew, small, still, thrice, tiny, turned, twin,
 )
 from test_language import INTERFACE
 
@@ -174,11 +174,18 @@ CALLS.update({
         "merged": dict(program=pair, slot=2, other=3), "merged_prices": dict(program=pair, most=3),
         "laid": dict(program=hum, slot=1, bus=1), "best_laid": dict(program=hum, many=2, most=3),
     },
+    "exchange": {
+        "mended": dict(program=meet, block=1), "may_stand": dict(program=meet, block=2, other=1),
+        "first_less": dict(program=meet, block=0, other=3), "stand_pairs": dict(program=meet), "alike_blocks": dict(program=meet),
+        "host_against": dict(program=meet, block=2, other=3), "is_host_against": dict(program=meet, block=2, other=3, thing=host),
+        "nowhere_less": dict(program=meet, block=2, other=1), "is_host": dict(program=meet, thing=host),
+        "hosted": dict(program=meet, host=host, block=2),
+    },
 })
 
 # Pairs of something and of a list.
 WITH_LISTS = ("best_orders", "best_laid")
-LISTS = ("orders", "merged_prices", "priced_forms", "learnt", "times_prices", "learning_groups", "quiet_groups", "groups_for", "least_cuts", "items_of", "runs_to", "run_counts", "least_tellers", "draws_asked", "form_prices", "asked_ahead")
+LISTS = ("alike_blocks", "orders", "merged_prices", "priced_forms", "learnt", "times_prices", "learning_groups", "quiet_groups", "groups_for", "least_cuts", "items_of", "runs_to", "run_counts", "least_tellers", "draws_asked", "form_prices", "asked_ahead")
 
 RAISING = (
     ("closed", "shield", dict(program=deep, most=2)),
@@ -196,10 +203,12 @@ RAISING = (
     ("renewals", "put_in", dict(program=still, path=(0, 2), way=WAY)),
     ("renewals", "renewed", dict(program=still, paths=((0, 1), (7, 7)), registers=(0, 1), slot=3)),
     ("places", "swapped", dict(program=late, path=(0, 0, 1))), ("places", "merged", dict(program=pair, slot=1, other=2)),
+    ("exchange", "mended", dict(program=thrice, block=0)), ("exchange", "hosted", dict(program=meet, host=host, block=4)),
+    ("exchange", "host_against", dict(program=meet, block=0, other=9)),
     ("places", "laid", dict(program=hum, slot=1, bus=2)), ("places", "in_order", dict(program=pair, block=1, order=(0, 1))),
 )
 
-TRUTHS = ("tells", "plan_tells", "withstands", "never_told", "withstands_each", "learns", "comes_of", "keeps_sum", "renews")
+TRUTHS = ("tells", "plan_tells", "withstands", "never_told", "withstands_each", "learns", "comes_of", "keeps_sum", "renews", "may_stand", "nowhere_less")
 
 
 def listed(value):

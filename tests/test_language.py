@@ -54,6 +54,8 @@ INTERFACE = {
     "draws": "draws left_out taken_from can_go greatest_spared fewest_draws sources_for with_fewest comes_of",
     "renewals": "renewal keeps_sum renews how_free spots put_in renewed helping harming fewest_renewals",
     "places": "are_free swapped orders in_order best_orders clash is_clash merged merged_prices laid best_laid",
+    "exchange": "mended may_stand first_less stand_pairs alike_blocks host_against is_host_against nowhere_less is_host"
+                " hosted",
 }
 
 
@@ -216,6 +218,7 @@ class Language(unittest.TestCase):
         for name, text in files():
             for node in ast.parse(text).body:
                 if isinstance(node, ast.ClassDef):
+                    self.assertTrue(node.name[0].isalpha(), (name, node.name))
                     methods = [own.name for own in node.body if isinstance(own, ast.FunctionDef)]
                     self.assertEqual(len(methods), len(set(methods)), (name, node.name))
                     stored = [own.attr for own in ast.walk(node) if isinstance(own, ast.Attribute)
