@@ -67,13 +67,19 @@ def seen_lines(prime, terms):
     return found
 
 
-def bad_form(dealt, asking):
-    """The FORM of a bad ASKING; None if it is not bad."""
-    form = [asking[own[0]] for own in dealt]
-    for residue, parts in zip(form, dealt):
+def alike_at_parts(dealt, asking):
+    """The tuple of what is asked at the parts of each SHARING; None if that is not alike there."""
+    found = [asking[own[0]] for own in dealt]
+    for residue, parts in zip(found, dealt):
         if any([asking[slot] != residue for slot in parts]):
             return None
-    return tuple(form) if any(form) else None
+    return tuple(found)
+
+
+def bad_form(dealt, asking):
+    """The FORM of a bad ASKING; None if it is not bad."""
+    form = alike_at_parts(dealt, asking)
+    return None if form is None or not any(form) else form
 
 
 def line_choices(machine, line, number):

@@ -76,7 +76,15 @@ class Track:
         self.seen = seen_lines(self.machine[0], terms)
         self.looked_at = sorted(self.seen)
         self.quiet = {}
-        asked, held = quiet_asking(self.machine), []
+        return self._from(quiet_asking(self.machine))
+
+    def quiet_from(self, behind):
+        """Likewise, if nobody looks, but something is asked behind all LINES."""
+        self.seen, self.looked_at, self.quiet = {}, [], {}
+        return self._from(behind)
+
+    def _from(self, behind):
+        asked, held = behind, []
         for word, _, item, number, lines in reversed(self.course.steps):
             if word == "begin":
                 asked = with_added(self.machine[0], asked, held.pop())

@@ -181,6 +181,14 @@ CALLS.update({
         "nowhere_less": dict(program=meet, block=2, other=1), "is_host": dict(program=meet, thing=host),
         "hosted": dict(program=meet, host=host, block=2),
     },
+    "sharing": {
+        "end_form": dict(program=renew, run=(), row=(1, 1, 1, 0, 0)), "end_forms": dict(program=turned, row=(0, 0, 0, 1)),
+        "end_run": dict(program=turned, row=(0, 0, 0, 1), ending=(0,)), "are_parts": dict(program=renew, places=(0, 1, 2)),
+        "part_sets": dict(program=bus), "parts_bar": dict(program=bus, places=(0, 2)),
+        "is_parts_bar": dict(program=deep, places=(0, 2), thing=(((0,),), (1, 0, 1))),
+        "dealt_anew": dict(program=renew, places=(0, 1, 2), others=(3, 4), style="chain"),
+        "added": dict(program=bus, places=(2, 3), others=(0, 1), factor=1),
+    },
 })
 
 # Pairs of something and of a list.
@@ -205,6 +213,10 @@ RAISING = (
     ("places", "swapped", dict(program=late, path=(0, 0, 1))), ("places", "merged", dict(program=pair, slot=1, other=2)),
     ("exchange", "mended", dict(program=thrice, block=0)), ("exchange", "hosted", dict(program=meet, host=host, block=4)),
     ("exchange", "host_against", dict(program=meet, block=0, other=9)),
+    ("sharing", "end_run", dict(program=deep, row=(1, 1, 0), ending=(0,))), ("sharing", "end_form", dict(program=deep, run=(2,), row=(1, 1, 0))),
+    ("sharing", "added", dict(program=bus, places=(0, 1), others=(1, 2), factor=1)),
+    ("sharing", "parts_bar", dict(program=bus, places=(0, 7))),
+    ("sharing", "dealt_anew", dict(program=bus, places=(0, 1), others=(2, 3), style="anew")),
     ("places", "laid", dict(program=hum, slot=1, bus=2)), ("places", "in_order", dict(program=pair, block=1, order=(0, 1))),
 )
 

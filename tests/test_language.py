@@ -56,6 +56,7 @@ INTERFACE = {
     "places": "are_free swapped orders in_order best_orders clash is_clash merged merged_prices laid best_laid",
     "exchange": "mended may_stand first_less stand_pairs alike_blocks host_against is_host_against nowhere_less is_host"
                 " hosted",
+    "sharing": "end_form end_forms end_run are_parts part_sets parts_bar is_parts_bar dealt_anew added",
 }
 
 
