@@ -51,13 +51,14 @@ def is_program(thing):
 def _are_sharings(thing, slots):
     if not isinstance(thing, tuple) or not thing:
         return False
-    if not all([_is_set_below(own, slots) and len(own) >= 2 for own in thing]):
+    if not all([is_set_below(own, slots) and len(own) >= 2 for own in thing]):
         return False
     parts = [slot for own in thing for slot in own]
     return len(set(parts)) == len(parts)
 
 
-def _is_set_below(thing, bound):
+def is_set_below(thing, bound):
+    """Whether thing is a set of numbers from 0 to below bound."""
     return is_counts(thing) and ascends(thing) and all([own < bound for own in thing])
 
 
@@ -76,8 +77,8 @@ def _is_item(machine, many, thing):
     slots = len(machine[1])
     if len(thing) == 3:
         if thing[0] == "set":
-            return is_below(thing[1], slots) and _is_sum(machine[0], slots, thing[2])
-        return thing[0] == "call" and is_below(thing[1], many) and _is_set_below(thing[2], slots)
+            return is_below(thing[1], slots) and is_sum(machine[0], slots, thing[2])
+        return thing[0] == "call" and is_below(thing[1], many) and is_set_below(thing[2], slots)
     if thing[0] == "draw":
         return is_below(thing[1], slots)
     if thing[0] == "many":
@@ -91,7 +92,8 @@ def _are_ways(machine, many, thing):
     return all([_is_way(machine, many, own) for own in thing])
 
 
-def _is_sum(prime, slots, thing):
+def is_sum(prime, slots, thing):
+    """Whether thing is the sum of a set, of so many registers."""
     if not isinstance(thing, tuple) or not all([_is_pair(prime, slots, own) for own in thing]):
         return False
     return ascends([own[0] for own in thing])

@@ -19,6 +19,7 @@ BOTH = (((1, "put"), 1), ((2, "put"), 1))
 TWO = ((2, "put"), (3, "put"))
 STEP = (((0, 0, 0), (1, 0, 0), 1), ((0, 0, 0), (1, 0, 1), 1), ((1, 0, 0), (1, 0, 0), 0))
 PLAN = ((0, "put"), ((), ((2, "turn"), ((), ()))))
+FRESH = (2, 1, (0,), ((("many", (("set", 0, ((0, 1),)), ("renew", 0))),),))
 READ = (((0, "read", (1, 1)), 2),)
 
 # The arguments by their names, in the order in which they stand.
@@ -189,11 +190,18 @@ CALLS.update({
         "dealt_anew": dict(program=renew, places=(0, 1, 2), others=(3, 4), style="chain"),
         "added": dict(program=bus, places=(2, 3), others=(0, 1), factor=1),
     },
+    "sources": {
+        "is_source": dict(thing=FRESH), "source_lines": dict(source=FRESH, run=(2,)), "cell_forms": dict(source=FRESH, run=(2,)),
+        "cell_ends": dict(source=FRESH, cell=0), "compiled": dict(source=FRESH, sorts=(("put", 1), ("turn", 2)), many=2, style="lanes"),
+        "lines_from": dict(source=FRESH, run=(2,), many=3), "cells_of": dict(source=FRESH, many=3, registers=(1, 0, 1, 1)),
+        "least_parts": dict(source=FRESH, sorts=(("put", 1), ("turn", 2)), style="apart", most=1),
+        "with_renew": dict(source=FRESH, path=(0, 0, 1), cell=0),
+    },
 })
 
 # Pairs of something and of a list.
 WITH_LISTS = ("best_orders", "best_laid")
-LISTS = ("alike_blocks", "orders", "merged_prices", "priced_forms", "learnt", "times_prices", "learning_groups", "quiet_groups", "groups_for", "least_cuts", "items_of", "runs_to", "run_counts", "least_tellers", "draws_asked", "form_prices", "asked_ahead")
+LISTS = ("source_lines", "cell_forms", "lines_from", "alike_blocks", "orders", "merged_prices", "priced_forms", "learnt", "times_prices", "learning_groups", "quiet_groups", "groups_for", "least_cuts", "items_of", "runs_to", "run_counts", "least_tellers", "draws_asked", "form_prices", "asked_ahead")
 
 RAISING = (
     ("closed", "shield", dict(program=deep, most=2)),
@@ -217,6 +225,9 @@ RAISING = (
     ("sharing", "added", dict(program=bus, places=(0, 1), others=(1, 2), factor=1)),
     ("sharing", "parts_bar", dict(program=bus, places=(0, 7))),
     ("sharing", "dealt_anew", dict(program=bus, places=(0, 1), others=(2, 3), style="anew")),
+    ("sources", "cell_ends", dict(source=FRESH, cell=1)), ("sources", "compiled", dict(source=FRESH, sorts=(("put", 1),), many=9, style="apart")),
+    ("sources", "least_parts", dict(source=FRESH, sorts=(("put", 1),), style="apart", most=6)),
+    ("sources", "with_renew", dict(source=FRESH, path=(0, 1, 0), cell=0)), ("sources", "source_lines", dict(source=FRESH, run=())),
     ("places", "laid", dict(program=hum, slot=1, bus=2)), ("places", "in_order", dict(program=pair, block=1, order=(0, 1))),
 )
 
