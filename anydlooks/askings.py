@@ -6,7 +6,7 @@ from anydlooks.errors import Unfit
 from anydlooks.plain import frozen
 from anydlooks.residues import is_row
 from anydlooks.rule import asking_length, bad_form, quiet_asking
-from anydlooks.sights import Sight
+from anydlooks.sights import run_sight
 
 
 def is_asking(machine, thing):
@@ -34,7 +34,7 @@ def form_of(program, asking):
 
 
 def _walked(program, run, terms):
-    sight, terms = Sight(frozen(program), frozen(run)), frozen(terms)
+    sight, terms = run_sight(frozen(program), frozen(run)), frozen(terms)
     sight.check_terms(terms)
     return walk_and_draws(sight.machine, sight.lines, terms)
 
@@ -51,7 +51,7 @@ def draws_asked(program, run, terms):
 
 def is_walk(program, run, thing):
     """Whether thing is the WALK of some heard terms, whatever it begins with."""
-    sight = Sight(frozen(program), frozen(run))
+    sight = run_sight(frozen(program), frozen(run))
     if not isinstance(thing, tuple) or len(thing) != len(sight.lines) + 1:
         return False
     length = asking_length(sight.machine)
@@ -63,7 +63,7 @@ def is_walk(program, run, thing):
 
 def walk_terms(program, run, walk):
     """The cheapest of all heard terms with this WALK."""
-    sight, walk = Sight(frozen(program), frozen(run)), frozen(walk)
+    sight, walk = run_sight(frozen(program), frozen(run)), frozen(walk)
     check_size(sight.machine, sight.lines)
     if len(walk) != len(sight.lines) + 1:
         raise Unfit()

@@ -4,12 +4,12 @@ from anydlooks.errors import CanNot, TooMany
 from anydlooks.plain import all_rows, as_set, frozen, power
 from anydlooks.plans import checked_plan, is_plan, ways_of
 from anydlooks.residues import across, basis, common, factors_for, is_row, product, rank, row_by, solution
-from anydlooks.sights import Sight
+from anydlooks.sights import run_sight
 
 
 def _seen(program, run, looks):
     """The Sight of the RUN, the looks, and the spreads of what they show."""
-    sight, looks = Sight(frozen(program), frozen(run)), frozen(looks)
+    sight, looks = run_sight(frozen(program), frozen(run)), frozen(looks)
     sight.check_looks(looks)
     return sight, looks, sight.all_shown(looks)
 
@@ -157,12 +157,12 @@ def _holds(choice, other):
 
 def is_look_plan(program, run, thing):
     """Whether thing is a LOOK PLAN of the RUN."""
-    return is_plan(Sight(frozen(program), frozen(run)), thing)
+    return is_plan(run_sight(frozen(program), frozen(run)), thing)
 
 
 def plan_chances(program, run, plan, secrets):
     """The set of the pairs (way, chance) of the ways of the plan that can come."""
-    sight = Sight(frozen(program), frozen(run))
+    sight = run_sight(frozen(program), frozen(run))
     found = []
     for marks, way in ways_of(checked_plan(sight, frozen(plan))):
         own = _chance(sight, sight.all_shown(marks), secrets, way)
@@ -173,7 +173,7 @@ def plan_chances(program, run, plan, secrets):
 
 def plan_tells(program, run, plan):
     """Whether the chances of the ways of the plan hang on the secrets."""
-    sight = Sight(frozen(program), frozen(run))
+    sight = run_sight(frozen(program), frozen(run))
     for marks, way in ways_of(checked_plan(sight, frozen(plan))):
         rows = sight.all_shown(marks)
         if _tell(sight, rows) and solution(sight.prime, rows, way, len(sight.sources)) is not None:

@@ -4,12 +4,12 @@ from anydlooks.errors import NoLine, Unfit
 from anydlooks.marks import fits_line, has_line, marks_of_line, price_of_looks
 from anydlooks.plain import as_set, frozen, is_below
 from anydlooks.residues import product
-from anydlooks.sights import Sight
+from anydlooks.sights import run_sight
 from anydlooks.tracks import told_form
 
 
 def _sight(program, run):
-    return Sight(frozen(program), frozen(run))
+    return run_sight(frozen(program), frozen(run))
 
 
 def sources(program, run):

@@ -12,13 +12,13 @@ def bus_count(machine):
 
 
 class Sight:
-    """A RUN with its sources and spreads; raises Unfit() if run is no RUN of the program."""
+    """LINES, the first ones of a RUN of the program or all, with sources and spreads."""
 
-    def __init__(self, program, run):
+    def __init__(self, program, lines):
         self.machine = program[0]
         self.dealt = program[1]
         self.prime = program[0][0]
-        self.lines = [own[0] for own in written_out(whole_course(program, run))]
+        self.lines = lines
         self.sources = _sources(self.dealt, self.lines)
         self.states = [_beginning(self.machine, self.sources)]
         self.writes = []
@@ -87,6 +87,11 @@ class Sight:
     def secret_rows(self):
         """The list of the spreads of the secrets."""
         return [_unit(self.sources, [("part", slot) for slot in own]) for own in self.dealt]
+
+
+def run_sight(program, run):
+    """The Sight of a RUN; raises Unfit() if run is none of the program."""
+    return Sight(program, [line for line, _ in written_out(whole_course(program, run))])
 
 
 def _sources(dealt, lines):

@@ -23,7 +23,7 @@ locals methodcaller os quit setattr super type vars sys""".split())
 BARRED_WORDS = re.compile(r"\b(type|typing|enum|Enum|IntEnum|StrEnum|Flag|IntFlag|Generic|Protocol|ABC|ABCMeta"
                           r"|namedtuple|NamedTuple|TypedDict|TYPE_CHECKING|abstractmethod)\b")
 STATEMENTS = (ast.Assign, ast.AugAssign, ast.If, ast.While, ast.For, ast.Return, ast.Break, ast.Continue, ast.Pass,
-              ast.Raise, ast.Expr, ast.FunctionDef, ast.ClassDef, ast.ImportFrom)
+              ast.Raise, ast.Expr, ast.FunctionDef, ast.ClassDef, ast.ImportFrom, ast.Try)
 TAKERS = ("list", "tuple", "dict", "sorted", "sum", "any", "all", "enumerate", "zip", "min", "max")
 INTERFACE = {
     "errors": "NoBlock NoRegister NoBus NoLine NoItem NoPerson NothingDone BadLine CanNot TooMany Unfit",
@@ -58,6 +58,10 @@ INTERFACE = {
                 " hosted",
     "sharing": "end_form end_forms end_run are_parts part_sets parts_bar is_parts_bar dealt_anew added",
     "sources": "is_source source_lines cell_forms cell_ends compiled lines_from cells_of least_parts with_renew",
+    "engine": "Engine",
+    "judge": "is_claim stands paper_against is_paper_against reason_for is_reason_for first_fallen",
+    "texts": "run_word sum_word program_text telling_text run_read sum_read read_program read_telling",
+    "board": "Board", "desk": "is_request replies",
 }
 
 
@@ -113,6 +117,11 @@ class Language(unittest.TestCase):
                     self.assertIsInstance(node.comparators[0], ast.Constant, where)
                 if isinstance(node, ast.Raise):
                     self.assertIsInstance(node.exc, ast.Call, where)
+                if isinstance(node, ast.Try):
+                    self.assertFalse(node.finalbody or node.orelse, where)
+                    for own in node.handlers:
+                        self.assertIn(own.type.id, INTERFACE["errors"].split(), where)
+                        self.assertIsNone(own.name, where)
 
     def test_module_level(self):
         for name, text in files():
@@ -226,6 +235,27 @@ class Language(unittest.TestCase):
                     stored = [own.attr for own in ast.walk(node) if isinstance(own, ast.Attribute)
                               and isinstance(own.ctx, ast.Store)]
                     self.assertFalse(set(methods) & set(stored), (name, node.name))
+                    double = [own for own in methods if own.startswith("__")]
+                    self.assertLessEqual(set(double), {"__init__", "__eq__"}, (name, node.name))
+
+    def test_equality_changes_nothing(self):
+        for name, text in files():
+            for node in ast.walk(ast.parse(text)):
+                if isinstance(node, ast.FunctionDef) and node.name == "__eq__":
+                    for own in ast.walk(node):
+                        self.assertNotIsInstance(own, (ast.Assign, ast.AugAssign, ast.Delete), (name, node.lineno))
+
+    def test_methods_of_the_interface(self):
+        wanted = {"engine": ("Engine", """wants choose draw go_on run drawn lines registers buses secrets look book spent sure
+                             fitting undo twin __eq__"""),
+                  "board": ("Board", """program watches clean put put_block add_block drop_block lay price deal watch unwatch
+                            undo redo cheapest least_price weak broken effect twin __eq__""")}
+        for module, (word, methods) in wanted.items():
+            for node in ast.parse(dict(files())[module + ".py"]).body:
+                if isinstance(node, ast.ClassDef) and node.name == word:
+                    here = [own.name for own in node.body if isinstance(own, ast.FunctionDef)]
+                    self.assertLessEqual(set(methods.split()), set(here), word)
+                    self.assertFalse(node.bases)
 
     def test_interface(self):
         texts = dict(files())
