@@ -19,6 +19,8 @@ BOTH = (((1, "put"), 1), ((2, "put"), 1))
 TWO = ((2, "put"), (3, "put"))
 STEP = (((0, 0, 0), (1, 0, 0), 1), ((0, 0, 0), (1, 0, 1), 1), ((1, 0, 0), (1, 0, 0), 0))
 PLAN = ((0, "put"), ((), ((2, "turn"), ((), ()))))
+QUIET = ("quiet", bus, crowd, (1,))
+TEXT = "prime 2\nregister -\nregister 0\nsort put 1\nshare 0 1\nblock\none\ncall 0 1\nor\nset 0 0:1+1:1\nend\n"
 FRESH = (2, 1, (0,), ((("many", (("set", 0, ((0, 1),)), ("renew", 0))),),))
 READ = (((0, "read", (1, 1)), 2),)
 
@@ -197,11 +199,25 @@ CALLS.update({
         "least_parts": dict(source=FRESH, sorts=(("put", 1), ("turn", 2)), style="apart", most=1),
         "with_renew": dict(source=FRESH, path=(0, 0, 1), cell=0),
     },
+    "judge": {
+        "is_claim": dict(thing=QUIET), "stands": dict(claim=QUIET), "paper_against": dict(claim=("hides", bus, (), ((1, "pass"),))),
+        "is_paper_against": dict(claim=("safe", deep, 2), thing=((1, 0), BOTH)), "reason_for": dict(claim=QUIET),
+        "is_reason_for": dict(claim=("hides", renew, (), TWO), thing=((0, 0, 1, 0, 0),)),
+        "first_fallen": dict(claims=(QUIET, ("safe", deep, 1), ("form", twin, (0, 1), 2))),
+    },
+    "texts": {
+        "run_word": dict(run=(1, 0)), "sum_word": dict(pairs=((0, 1), (2, 2))), "program_text": dict(program=deep),
+        "telling_text": dict(telling=((), READ)), "run_read": dict(word="1,0"), "sum_read": dict(word="0:1+2:2"),
+        "read_program": dict(text=TEXT), "read_telling": dict(text="run -\nlook 0 read 0,1 2"),
+    },
+    "desk": {
+        "is_request": dict(thing="put 0,0 set 2 0:1"), "replies": dict(program=bus, text="watch - 1\nbroken\ncheapest"),
+    },
 })
 
 # Pairs of something and of a list.
 WITH_LISTS = ("best_orders", "best_laid")
-LISTS = ("source_lines", "cell_forms", "lines_from", "alike_blocks", "orders", "merged_prices", "priced_forms", "learnt", "times_prices", "learning_groups", "quiet_groups", "groups_for", "least_cuts", "items_of", "runs_to", "run_counts", "least_tellers", "draws_asked", "form_prices", "asked_ahead")
+LISTS = ("replies", "source_lines", "cell_forms", "lines_from", "alike_blocks", "orders", "merged_prices", "priced_forms", "learnt", "times_prices", "learning_groups", "quiet_groups", "groups_for", "least_cuts", "items_of", "runs_to", "run_counts", "least_tellers", "draws_asked", "form_prices", "asked_ahead")
 
 RAISING = (
     ("closed", "shield", dict(program=deep, most=2)),
@@ -225,13 +241,16 @@ RAISING = (
     ("sharing", "added", dict(program=bus, places=(0, 1), others=(1, 2), factor=1)),
     ("sharing", "parts_bar", dict(program=bus, places=(0, 7))),
     ("sharing", "dealt_anew", dict(program=bus, places=(0, 1), others=(2, 3), style="anew")),
+    ("judge", "stands", dict(claim=("safe", deep, -1))), ("judge", "first_fallen", dict(claims=(QUIET, ("quiet", bus, crowd, (3,))))),
+    ("texts", "read_program", dict(text=TEXT + "or")), ("texts", "read_program", dict(text=TEXT.replace("0:1", "5:1"))),
+    ("texts", "read_telling", dict(text="run -\n\n")), ("desk", "replies", dict(program=bus, text="cost\n")),
     ("sources", "cell_ends", dict(source=FRESH, cell=1)), ("sources", "compiled", dict(source=FRESH, sorts=(("put", 1),), many=9, style="apart")),
     ("sources", "least_parts", dict(source=FRESH, sorts=(("put", 1),), style="apart", most=6)),
     ("sources", "with_renew", dict(source=FRESH, path=(0, 1, 0), cell=0)), ("sources", "source_lines", dict(source=FRESH, run=())),
     ("places", "laid", dict(program=hum, slot=1, bus=2)), ("places", "in_order", dict(program=pair, block=1, order=(0, 1))),
 )
 
-TRUTHS = ("tells", "plan_tells", "withstands", "never_told", "withstands_each", "learns", "comes_of", "keeps_sum", "renews", "may_stand", "nowhere_less")
+TRUTHS = ("stands", "tells", "plan_tells", "withstands", "never_told", "withstands_each", "learns", "comes_of", "keeps_sum", "renews", "may_stand", "nowhere_less")
 
 
 def listed(value):
@@ -294,7 +313,7 @@ class General(unittest.TestCase):
         for word, function, arguments in self.each():
             if "thing" in arguments:
                 self.assertIs(function(**arguments), True, word)
-                if arguments["thing"] != ():
+                if arguments["thing"] != () and not isinstance(arguments["thing"], str):
                     given = dict(arguments, thing=listed(arguments["thing"]))
                     self.assertIs(function(**given), False, word)
 
