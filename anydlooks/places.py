@@ -197,7 +197,7 @@ def merged(program, slot, other):
 def merged_prices(program, most):
     """The list of the pairs ((slot, other), least price of merged) for all that are apart."""
     program = frozen(program)
-    slots, parts = range(len(program[0][1])), _parts(program)
+    slots, parts = list(range(len(program[0][1]))), _parts(program)
     pairs = [(slot, other) for slot in slots for other in slots if slot != other and other not in parts]
     return [((slot, other), _price(_merged(program, slot, other), most)) for slot, other in pairs
             if _clash(program, slot, other) is None]

@@ -32,9 +32,8 @@ class ProgramReader:
 
     def _takes_head(self, words, stage):
         """A line of a stage stands behind one of the same stage, but for the first, or of the one ahead."""
-        if len(self.stack) > 1 or not (stage == self.stage + 1 or stage == self.stage != 0):
-            return False
-        if not self._fits(words, stage):
+        is_next = stage == self.stage + 1 or stage == self.stage and stage > 0
+        if len(self.stack) > 1 or not is_next or not self._fits(words, stage):
             return False
         self.stage = stage
         if stage == 0:

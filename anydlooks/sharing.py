@@ -77,7 +77,7 @@ def _check_registers(program, numbers):
 
 def _rows_at(program, places):
     """The list of the rows that are not alike at places and 0 elsewhere, ascending, and the row of 1s."""
-    slots, unlike = range(len(program[0][1])), []
+    slots, unlike = list(range(len(program[0][1]))), []
     for row in all_rows(program[0][0], len(slots)):
         at_places = [row[slot] for slot in places]
         if len(set(at_places)) > 1 and not any([row[slot] for slot in slots if slot not in places]):

@@ -119,9 +119,9 @@ class Compiler:
 
     def program(self, sorts):
         """The PROGRAM with these sorts."""
-        part_buses = range(self.many) if self.style == "lanes" else [0 if self.style == "one bus" else None] * self.many
-        spare_bus = 0 if self.style == "one bus" else None
-        buses = [bus for _ in range(self.cells) for bus in part_buses] + [spare_bus] * int(self.has_spare)
+        lone = 0 if self.style == "one bus" else None
+        part_buses = list(range(self.many)) if self.style == "lanes" else [lone] * self.many
+        buses = part_buses * self.cells + [lone] * int(self.has_spare)
         dealt = [tuple([self._part(cell, k) for k in range(self.many)]) for cell in self.inputs]
         blocks = [changed_way(way, lambda item: self._items(item)) for way in self.blocks]
         return (self.prime, tuple(buses), sorts), tuple(dealt), tuple(blocks)
