@@ -53,6 +53,12 @@ def form_of(program, run, terms):
     return form_of_spread(program, row) if terms else None
 
 
+def is_too_long(thing):
+    """Whether thing has a run with a number that is too great to be played."""
+    runs = [own for own in thing[:1] if type(own) is tuple] if type(thing) is tuple else []
+    return any(type(number) is int and number >= 1000 for run in runs for number in run)
+
+
 def is_against(claim, thing):
     """Whether thing is a PAPER against the claim, by playing it."""
     word, program, rest = claim[0], claim[1], claim[2:]
@@ -198,7 +204,7 @@ class Judge(unittest.TestCase):
         self.assertGreater(len(papers), 7)
         for claim in claims:
             for paper in papers:
-                things = things_like(paper)
+                things = [thing for thing in things_like(paper) if not is_too_long(thing)]
                 for thing in [paper, *rng.sample(things, min(60, len(things)))]:
                     self.assertIs(is_paper_against(claim, thing), is_against(claim, thing), (claim, thing))
 

@@ -148,8 +148,10 @@ class Orders(unittest.TestCase):
         rng, tried = rng_of(2), 0
         while tried < 60:
             program = clean_program(rng, words=("set", "set", "set", "call", "one", "many"))
-            free = [path for path, _ in items_of(program) if self.can_swap(program, path)]
-            if not free:
+            items = items_of(program)
+            free = [path for path, _ in items if self.can_swap(program, path)]
+            # Draws exchanged take their values in another order.
+            if not free or any(item[0] == "draw" for _, item in items):
                 continue
             tried += 1
             own, values = swapped(program, rng.choice(free)), [rng.randrange(program[0][0]) for _ in range(9)]
