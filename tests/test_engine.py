@@ -253,6 +253,16 @@ class Looking(unittest.TestCase):
             self.assertEqual(engine.spent(), price(program, found))
         self.assertGreater(min(words.get(word, 0) for word in ("pass", "put", "read", "turn")), 20)
 
+    def test_shown_less(self):
+        """What is shown is one less another, not their sum: p above 2."""
+        program = (5, (None, 0, 0), (("pass", 1), ("read", 1), ("turn", 1))), ((0, 1),), ((("set", 2, ((0, 3), (1, 1))), ("set", 1, ((0, 1),))),)
+        engine = Engine(program, ((4, 2),))
+        self.assertEqual((engine.registers(), engine.buses()), ((4, 4, 4), (4,)))
+        shown = ((0, "pass"), 4), ((0, "read", (1, 4)), 2), ((0, "turn"), 4), ((1, "pass"), 0), ((1, "read", (2,)), 3), ((1, "turn"), 2)
+        for mark, residue in shown:
+            self.assertEqual(engine.look(mark), residue, mark)
+        self.assertEqual(engine.book(), shown)
+
     def test_sure(self):
         """Beside all parts and draws of this RUN so far by which the marks show what they did."""
         rng, tried, sures = rng_of(6), 0, 0

@@ -232,6 +232,25 @@ class Hosts(unittest.TestCase):
                 self.assertIs(is_host_against(program, two, one, own), False)
         self.assertGreater(none, 15)
 
+    def test_many_draws(self):
+        """What must not be told by looks that go back to where a bus held 0: a HOST needs draws ahead."""
+        rng, needed = rng_of(14), 0
+        for _ in range(400):
+            program = without_read(rng, 16, size=3)
+            words = [word for word, _ in program[0][2]]
+            if "pass" not in words or set(program[0][1]) == {None}:
+                continue
+            sorts = tuple((word, 9 if word == "put" else rng.choice((1, 2))) for word in words)
+            program = ((*program[0][:2], sorts), *program[1:])
+            for one, two in itertools.permutations(range(len(program[2])), 2):
+                own = host_against(program, one, two)
+                if own is None:
+                    continue
+                self.assertIs(is_host_against(program, one, two, own), True, (program, one, two))
+                less = tuple(item for item in own[2] if item[0] != "draw")
+                needed += not is_host_against(program, one, two, (*own[:2], less, own[3]))
+        self.assertGreater(needed, 2)
+
     def test_shown_by_all_runs(self):
         """Blocks with few RUNS in the HOST told: the least prices, by all terms of all RUNS."""
         told = 0

@@ -215,6 +215,12 @@ class Orders(unittest.TestCase):
             else:
                 with self.assertRaises(TooMany):
                     orders(program, 0)
+        # One more than 24.
+        way = (("set", 3, ((0, 1),)), ("set", 4, ((0, 1), (1, 1))), ("set", 2, ()), ("set", 4, ((4, 1),)), ("set", 1, ((2, 1),)))
+        program = ((2, (None,) * 5, plain), ((0, 1),), (way,))
+        self.assertEqual(len(orders_by(program, 0)), 25)
+        with self.assertRaises(TooMany):
+            orders(program, 0)
         empty = (small, ((0, 1),), ((),))
         self.assertEqual((orders(empty, 0), best_orders(empty, 0, 6)), ([()], (None, [()])))
 
@@ -261,6 +267,32 @@ class Merged(unittest.TestCase):
                         self.assertIs(is_clash(program, slot, other, thing), thing in good, (program, slot, other, thing))
         self.assertGreater(found, 50)
         self.assertGreater(none, 40)
+
+    def test_rounds_of_calls(self):
+        """Registers written, or not, in calls within calls, and rounds of them."""
+        rng, told = rng_of(14), {True: 0, False: 0}
+
+        def line():
+            slot = rng.randrange(2, 4)
+            return ("draw", slot) if rng.random() < 0.3 else ("set", slot, ((rng.randrange(4), 1),))
+
+        def call(block):
+            return "call", block, rng.choice(((), (2,), (3,), (2, 3)))
+        for _ in range(25):
+            last = tuple(line() for _ in range(rng.randint(1, 3)))
+            inner = tuple(rng.choice((line(), call(2))) for _ in range(rng.randint(1, 3)))
+            first = rng.choice(((("many", (call(1), line())), line()), (("many", (call(2), call(1))), call(1)),
+                                (line(), call(1), line()), (call(1), ("many", (line(), call(2))), ("many", (call(2),)))))
+            program = (four, ((0, 1),), (first, (*inner, call(2)), last))
+            for run, _ in way_runs(program[2], first, 18, 2, 4)[-2:]:
+                for slot, other in ((2, 3), (3, 2), (0, 2), (1, 3)):
+                    good, many = clashes(program, run, slot, other), len(Play(program, run).lines)
+                    for number in [None, *range(many)]:
+                        for later in range(many):
+                            thing = (run, number, later)
+                            self.assertIs(is_clash(program, slot, other, thing), thing in good, (program, slot, other, thing))
+                            told[thing in good] += 1
+        self.assertGreater(min(told.values()), 300)
 
     def test_merged(self):
         """What is apart is merged: all that is written stays."""

@@ -217,7 +217,7 @@ class Parts(unittest.TestCase):
                 wanted += [places] if good else []
             self.assertEqual(part_sets(program), tuple(sorted(wanted)))
         self.assertGreater(truths[True], 40)
-        self.assertEqual(kinds, {(1, True), (1, False)})
+        self.assertLessEqual({(1, True), (1, False)}, kinds)
 
     def test_several_forms(self):
         """What the WAYS of a "one" put into the last two registers adds up to unlike secrets, or to none."""
@@ -254,6 +254,21 @@ class Parts(unittest.TestCase):
         one = (2, (None,) * 6, (("put", 1),)), ((0, 1), (2, 3)), ((("one", (move[0], move[0])),),)
         self.assertIs(are_parts(one, (4, 5)), True)
         self.assertEqual(part_sets(one), ((0, 1), (0, 5), (1, 4), (2, 3), (4, 5)))
+
+    def test_two_runs_no_bar(self):
+        """Two RUNS are a bar only for the row of 1s, and only by two FORMS."""
+        one, two = (("set", 4, ((0, 1), (1, 1))), ("draw", 5)), (("set", 4, ((2, 1), (3, 1))), ("draw", 5))
+        program = (2, (None,) * 6, (("put", 1),)), ((0, 1), (2, 3)), ((("one", (one, two)),),)
+        row = (0, 0, 0, 0, 1, 0)
+        self.assertEqual(end_forms(program, row), (((0, 1), (1, 0)), False))
+        for runs, good in ((((0,),), True), (((1,),), True), (((0,), (1,)), False), (((1,), (0,)), False)):
+            self.assertIs(is_parts_bar(program, (4, 5), (runs, row)), good, runs)
+        one, two = (("set", 4, ((0, 1),)), ("set", 5, ((0, 1),))), (("set", 4, ((0, 1),)), ("set", 5, ((1, 1),)))
+        program = (2, (None,) * 6, (("put", 1),)), ((0, 1), (2, 3)), ((("one", (one, two)),),)
+        row = (0, 0, 0, 0, 1, 1)
+        self.assertEqual(end_forms(program, row), (((0, 0), (1, 0)), False))
+        for runs, good in ((((0,),), True), (((1,),), False), (((0,), (1,)), False), (((1,), (0,)), False)):
+            self.assertIs(is_parts_bar(program, (4, 5), (runs, row)), good, runs)
 
     def test_no_multiples(self):
         """What adds up to twice the secret is parts, too; what adds up to nothing is not."""

@@ -452,7 +452,8 @@ class Compiled(unittest.TestCase):
             found = with_renew(source, path, 1)
             self.assertEqual(found, (2, 3, (0,), wanted))
             self.assertIs(is_source(found), True)
-        for path in ((), (0,), (2, 0), (0, 3), (0, 1, 2, 0), (0, 1, 0, 2), (1, 0, 2), (0, 1, 0), (0, -1), (0, 10 ** 30), (0, 0, 0)):
+        for path in ((), (0,), (2, 0), (0, 3), (0, 1, 2, 0), (0, 1, 0, 2), (1, 0, 2), (0, 1, 0), (0, -1), (0, 10 ** 30), (0, 0, 0),
+                     (False, 0), (0, False), (0, True, 0, False)):
             for cell in (0, 7):
                 with self.assertRaises(NoItem) as caught:
                     with_renew(source, list(path), cell)
