@@ -176,8 +176,8 @@ def _merged(program, slot, other):
         if item[0] == "call":
             return (("call", item[1], as_set([names[own] for own in item[2]])),)
         sums = {}
-        for own, residue in item[2]:
-            sums[names[own]] = (sums.get(names[own], 0) + residue) % prime
+        for place, residue in item[2]:
+            sums[names[place]] = (sums.get(names[place], 0) + residue) % prime
         return (("set", names[item[1]], tuple(sorted([pair for pair in sums.items() if pair[1]]))),)
 
     lying = _packed(buses[:other] + buses[other + 1:])

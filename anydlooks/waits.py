@@ -11,7 +11,10 @@ from anydlooks.courses import item_size, way_size
 from anydlooks.touches import block_touches, way_touches
 from anydlooks.tracks import Track
 
-_STILL = {(0, 0): (0, 0, (), ()), (1, 1): (0, 0, (), ()), (2, 2): (0, 0, (), ())}
+
+def _still():
+    """The table of a piece without LINES."""
+    return {(state, state): (0, 0, (), ()) for state in range(3)}
 
 
 def _put(table, key, path):
@@ -67,7 +70,7 @@ class Waits:
         return found
 
     def _way(self, way):
-        found = dict(_STILL)
+        found = _still()
         for item in way:
             found = _joined(found, self._item(item))
         return found
@@ -78,7 +81,7 @@ class Waits:
         if item[0] == "many":
             # Times round in which the state stays are spared, and it changes twice at most.
             once = self._way(item[1])
-            return _least([_chosen(0, _STILL), _chosen(1, once), _chosen(2, _joined(once, once))])
+            return _least([_chosen(0, _still()), _chosen(1, once), _chosen(2, _joined(once, once))])
         if item[0] == "call":
             return self._call(item[2], self.tables[item[1]])
         reads = item[0] == "set" and self.waiting in [slot for slot, _ in item[2]]

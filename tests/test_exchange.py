@@ -7,11 +7,13 @@ from anydlooks.errors import CanNot, NoBlock
 from anydlooks.exchange import (
     alike_blocks, first_less, host_against, hosted, is_host, is_host_against, may_stand, mended, nowhere_less, stand_pairs,
 )
+from anydlooks.forms import is_mark, shown, sources
 from anydlooks.least import least_price
 from anydlooks.moves import full_view
 from anydlooks.pieces import is_table, price_in
 from anydlooks.programs import is_clean, is_program
 from anydlooks.prices import least_told_price
+from anydlooks.residues import rank
 from anydlooks.wide import Wide, is_wide
 from predicates import machine as is_machine_by
 from predicates import program as is_program_by
@@ -410,6 +412,57 @@ class WidePrices(unittest.TestCase):
         self.assertIs(is_wide((*wide[:2], (wide[2][0] + (("many", ()),), *wide[2][1:]))), False)
         self.assertIs(is_wide((*wide[:2], (wide[2][0] + (("call", 1, (0,)),), *wide[2][1:]))), False)
         self.assertIs(is_wide((*wide[:2], (wide[2][0], wide[2][1] + (("one", ((), (("call", 0, ()),))),)))), False)
+
+    def test_long_reads(self):
+        """Reads of many registers, whose rows are too many to be listed."""
+        first = tuple((slot, 1) for slot in range(18))
+        for prime, sorts, wanted in ((2, (("read", 3),), 6), (3, (("read", 4),), 8), (5, (("put", 1), ("read", 3)), 2)):
+            machine = (prime, (None,) * 24, sorts)
+            lines = (("set", 1, first[2:]), ("set", 2, ((18, prime - 1),)), ("set", 3, tuple((slot, 1) for slot in range(18, 24))))
+            host = (machine, (tuple(range(12, 24)),), (("set", 0, first),), lines)
+            block = ((prime, (None, None), sorts), ((0, 1),), ((("call", 1, ()),), ()))
+            self.assertIs(is_host(block, host), True)
+            self.assertEqual(least_price(hosted(block, host, 1)), wanted)
+
+    def test_beside_all_marks(self):
+        """The least price of all marks that tell together, block 0 having LINES alone."""
+        rng, told = rng_of(10), 0
+        while told < 40:
+            prime = rng.choice((2, 2, 3))
+            words = sorted(rng.sample(("pass", "put", "read", "turn"), rng.randint(1, 4)))
+            machine = (prime, (None, None, None, None, 0, 0, None), tuple((word, rng.randint(1, 4)) for word in words))
+            way = random_way(rng, machine, [], 5, 0, ("set", "set", "set", "set", "draw"))
+            program = (machine, (((0, 1), (2, 3)), ((0, 1, 2),))[rng.randint(0, 1)], (way,))
+            marks = [(number, word) for number in range(len(way)) for word in words]
+            fits = [own for own in marks if self.rows_shown(program, own)]
+            if len(fits) > 9:
+                continue
+            prices = dict(machine[2])
+            wanted = min((sum(prices[word] for _, word in some) for many in range(1, len(fits) + 1)
+                          for some in itertools.combinations(fits, many) if self.tell(program, some)), default=None)
+            self.assertEqual(Wide(program, full_view(machine), None).price(), wanted, program)
+            if wanted is not None:
+                told += 1
+                self.assertEqual(Wide(program, full_view(machine), wanted).price(), wanted)
+                self.assertIsNone(Wide(program, full_view(machine), wanted - 1).price())
+
+    def rows_shown(self, program, mark):
+        """The spreads that span what a mark, or all reads of a LINE, can show."""
+        number, word = mark
+        item = program[2][0][number]
+        if word != "read":
+            return [shown(program, (), mark)] if is_mark(program, (), mark) else []
+        pairs = item[2] if item[0] == "set" else ()
+        return [shown(program, (), (number, "read", tuple(int(k == own) for own in range(len(pairs))))) for k in range(len(pairs))]
+
+    def tell(self, program, some):
+        """Whether the spaces of the spreads that are shown and of the secrets have more than 0 in common."""
+        rows = [row for mark in some for row in self.rows_shown(program, mark)]
+        length = len(sources(program, ()))
+        parts = [slot for own in program[1] for slot in own]
+        secrets = [tuple(int(k < len(parts) and parts[k] in own) for k in range(length)) for own in program[1]]
+        prime = program[0][0]
+        return rank(prime, rows) + len(secrets) > rank(prime, [*rows, *secrets])
 
     def test_price_to(self):
         machine = (2, (None,) * 9, plain)

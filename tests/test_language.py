@@ -131,6 +131,25 @@ class Language(unittest.TestCase):
                 plain = plain or isinstance(node, ast.Expr) and isinstance(node.value, ast.Constant)
                 self.assertTrue(plain, (name, node.lineno))
 
+    def test_lists_at_module_level_are_only_read(self):
+        for name, text in files():
+            tree = ast.parse(text)
+            kept = [node.targets[0].id for node in tree.body
+                    if isinstance(node, ast.Assign) and isinstance(node.value, (ast.List, ast.Dict))]
+            for node in ast.walk(tree):
+                for own in ast.iter_child_nodes(node):
+                    if isinstance(own, ast.Name) and own.id in kept and isinstance(own.ctx, ast.Load):
+                        read = isinstance(node, (ast.Compare, ast.For, ast.comprehension))
+                        read = read or isinstance(node, ast.Subscript) and node.value is own
+                        self.assertTrue(read and isinstance(getattr(node, "ctx", ast.Load()), ast.Load), (name, own.lineno))
+
+    def test_inner_functions(self):
+        for name, text in files():
+            for node in ast.walk(ast.parse(text)):
+                if isinstance(node, ast.FunctionDef) and node.name == "__init__":
+                    for own in ast.walk(node):
+                        self.assertTrue(own is node or not isinstance(own, (ast.FunctionDef, ast.Lambda, ast.Return)), name)
+
     def test_imports(self):
         defined, used = {}, {}
         for name, text in files():

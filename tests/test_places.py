@@ -353,6 +353,11 @@ class Merged(unittest.TestCase):
         self.assertIs(is_clash(program, 1, 3, (run, 3 * times + 1, 3 * times + 2)), False)
         self.assertIs(is_clash(program, 0, 3, (run, 3 * times, 3 * times + 2)), True)
         self.assertIs(is_clash(program, 0, 3, (run, 3 * times - 3, 3 * times - 1)), False)
+        # What is read last in each round is written there, too.
+        program = (four, ((0, 1),), ((("many", (("set", 3, ((0, 1),)), ("set", 2, ((2, 1),)))),),))
+        for number in range(0, 10, 2):
+            for later in range(1, 10, 2):
+                self.assertIs(is_clash(program, 2, 3, ((5,), number, later)), later == number + 1)
 
     def test_things(self):
         for program, slot, other in ((pair, 1, 2), (deep, 0, 2), (turned, 0, 3)):
