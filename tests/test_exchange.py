@@ -234,6 +234,20 @@ class Hosts(unittest.TestCase):
                 self.assertIs(is_host_against(program, two, one, own), False)
         self.assertGreater(none, 15)
 
+    def test_asked_of_buses(self):
+        """Modulo 3 it matters with which sign a bus is asked behind the block."""
+        rng, asked = rng_of(15), 0
+        while asked < 60:
+            words = sorted(rng.sample(("pass", "put", "turn"), rng.randint(1, 3)))
+            machine = (3, rng.choice(((None, 0), (0, None), (0, 0))), tuple((word, rng.choice((1, 2, 9))) for word in words))
+            ways = [random_way(rng, machine, [], 3, 1, ("set", "set", "draw", "one", "many")) for _ in range(3)]
+            program = (machine, ((0, 1),), (tuple(("call", number, ()) for number in (1, 2, 3)), *ways))
+            for one, two in itertools.permutations(range(1, 4), 2):
+                own = host_against(program, one, two)
+                if own is not None:
+                    asked += first_less(program, one, two)[1][2] > 0
+                    self.assertIs(is_host_against(program, one, two, own), True, (program, one, two))
+
     def test_many_draws(self):
         """What must not be told by looks that go back to where a bus held 0: a HOST needs draws ahead."""
         rng, needed = rng_of(14), 0

@@ -294,6 +294,30 @@ class Merged(unittest.TestCase):
                             told[thing in good] += 1
         self.assertGreater(min(told.values()), 300)
 
+    def test_rounds_of_lines(self):
+        """Registers written, or not, ahead of rounds, in them and behind them."""
+        rng, told = rng_of(15), {True: 0, False: 0}
+
+        def some(least, most):
+            return tuple(("set", rng.choice((1, 2, 3, 3)), ((rng.choice((0, 2, 2, 3)), 1),)) for _ in range(rng.randint(least, most)))
+        for _ in range(120):
+            program = (four, ((0, 1),), ((*some(0, 4), ("many", some(1, 3)), *some(0, 2)),))
+            times = rng.randint(1, 3)
+            good = {pair: clashes(program, (times,), *pair) for pair in ((2, 3), (3, 2), (0, 2), (1, 3))}
+            many = len(Play(program, (times,)).lines)
+            for (slot, other), own in good.items():
+                for thing in [((times,), number, later) for number in [None, *range(many)] for later in range(many)]:
+                    self.assertIs(is_clash(program, slot, other, thing), thing in own, (program, slot, other, thing))
+                    told[thing in own] += 1
+        self.assertGreater(min(told.values()), 300)
+
+    def test_put_back_first(self):
+        """A put back that is LINE 0, as the block called writes nothing."""
+        program = (four, ((0, 1),), ((("call", 1, (2,)), ("set", 1, ((2, 1),))), ()))
+        self.assertIs(is_clash(program, 0, 2, ((), None, 0)), True)
+        self.assertIs(is_clash(program, 0, 2, ((), None, 1)), False)
+        self.assertEqual(clash(program, 0, 2), ((), None, 0))
+
     def test_merged(self):
         """What is apart is merged: all that is written stays."""
         rng, tried = rng_of(5), 0
