@@ -2,6 +2,7 @@
 
 from anydlooks.askings import least_terms
 from anydlooks.blocks import BY_ALL, BY_LINES, MANY
+from anydlooks.cheapest import check_size
 from anydlooks.closures import are_closed_relations, has_telling, is_quiet, least_relations_of
 from anydlooks.errors import CanNot, NoBlock
 from anydlooks.moves import full_view
@@ -53,18 +54,30 @@ def _bests(program, most, kind):
 
 
 def _with_least_terms(program, best):
-    return None if best is None else (best[0][3], least_terms(program, best[0][3]))
+    return best[0][3], least_terms(program, best[0][3])
+
+
+def _has_telling(program, most):
+    """Whether there is a TELLING to most; raises TooMany() if least_terms does for whatever RUN has it."""
+    found = least_told_price(program, full_view(program[0]), most) is not None
+    if found:
+        check_size(program[0], ())
+    return found
 
 
 def least_telling(program, most):
     """The least RUN that has a TELLING of price most at most, with its least terms; None without."""
     program = frozen(program)
+    if not _has_telling(program, most):
+        return None
     return _with_least_terms(program, _bests(program, most, BY_LINES).best_told(None))
 
 
 def cheapest_telling(program):
     """The least RUN that has a TELLING of the least price, with its least terms; None without."""
     program = frozen(program)
+    if not _has_telling(program, None):
+        return None
     return _with_least_terms(program, _bests(program, None, BY_ALL).best_told(None))
 
 

@@ -3,12 +3,12 @@
 import itertools
 import unittest
 
-from anydlooks.errors import CanNot, NoBlock
+from anydlooks.errors import CanNot, NoBlock, TooMany
 from anydlooks.exchange import (
     alike_blocks, first_less, host_against, hosted, is_host, is_host_against, may_stand, mended, nowhere_less, stand_pairs,
 )
 from anydlooks.forms import is_mark, shown, sources
-from anydlooks.least import least_price
+from anydlooks.least import cheapest_telling, least_price, least_telling
 from anydlooks.moves import full_view
 from anydlooks.pieces import is_table, price_in
 from anydlooks.programs import is_clean, is_program
@@ -384,6 +384,12 @@ class Hosts(unittest.TestCase):
         other = (machine, ((0, *parts), (1, 15)), wide[2], wide[3])
         self.assertEqual([least_price(hosted(meet, other, number)) for number in (1, 2, 3)], [None, None, 8])
         self.assertIs(is_host_against(meet, 1, 3, other), True)
+        # What is told has too many ASKINGS for its least terms; what is not told has none.
+        for call in (cheapest_telling, lambda program: least_telling(program, 8)):
+            self.assertIsNone(call(hosted(meet, other, 1)))
+            with self.assertRaises(TooMany):
+                call(hosted(meet, other, 3))
+        self.assertIsNone(least_telling(hosted(meet, other, 3), 7))
         self.assertIs(is_host_against(meet, 3, 1, other), False)
         five = ((5, (None,) * 24, (("put", 9),)), ((0, *range(2, 13)),), (), tuple(("set", 20, ((slot, 4),)) for slot in range(2, 13)))
         block = ((5, (None, None), (("put", 9),)), ((0, 1),), ((("call", 1, ()), ("call", 2, ())), (("set", 1, ((0, 3),)),), ()))
